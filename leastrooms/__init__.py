@@ -1,0 +1,1 @@
+"""Leastrooms: how much room each channel needs, exactly."""
