@@ -41,30 +41,30 @@ class Row:
 
 def send(channel, k=1):
     """The row of one part that sends k messages at once."""
-    return Row((("send", channel, k),))
+    return _row_of(("send", channel, k))
 
 
 def take(channel, k=1):
     """The row of one part that takes k messages at once."""
-    return Row((("take", channel, k),))
+    return _row_of(("take", channel, k))
 
 
 def work(time):
     """The row of one part that works so long."""
-    return Row((("work", time),))
+    return _row_of(("work", time))
 
 
 def loop(count, row):
     """The row of one loop; count is an integer, a count or the text of one."""
     plain = count_of(count)
     check_row(row)
-    return Row((("loop", plain, row.parts),))
+    return _row_of(("loop", plain, row.parts))
 
 
 def forever(row):
     """The row of one part that does a row again and again."""
     check_row(row)
-    return Row((("forever", row.parts),))
+    return _row_of(("forever", row.parts))
 
 
 def channels_of(row):
@@ -108,6 +108,13 @@ def is_round(part):
 def inner_parts(part):
     """The parts within a loop or a forever."""
     return part[-1]
+
+
+def _row_of(part):
+    """The row of one part; BadRow keeps the part itself, if it makes none."""
+    if _size_of(part, 0) > MOST_PARTS:
+        raise BadRow(part)
+    return Row((part,))
 
 
 def _how_many(parts, depth):

@@ -146,16 +146,16 @@ class MadeRowsTest(Case):
     def test_wrong_send_and_take(self):
         for make, word in [(send, "send"), (take, "take")]:
             for channel in NO_WORDS:
-                self.keeps_equal(BadRow, ((word, channel, 1),), make, channel)
+                self.keeps_equal(BadRow, (word, channel, 1), make, channel)
             for k in [0, 10, -1, True, False, 1.0, "1", None, [1], 10 ** 5000]:
-                self.keeps_equal(BadRow, ((word, "c", k),), make, "c", k)
+                self.keeps_equal(BadRow, (word, "c", k), make, "c", k)
 
     def test_work(self):
         for time in [1, 5, 99]:
             self.assertEqual(work(time).parts, (("work", time),))
         self.assertEqual(work(time=3).size, 1)
         for time in [0, 100, -1, True, False, 1.0, "5", None, (5,), [5]]:
-            self.keeps_equal(BadRow, (("work", time),), work, time)
+            self.keeps_equal(BadRow, ("work", time), work, time)
 
     def test_loop_counts(self):
         for given, count in [(0, (0, 0)), (7, (0, 7)), (MOST, (0, MOST)), ((0, 7), (0, 7)), ((9, -MOST), (9, -MOST)),
@@ -191,23 +191,23 @@ class MadeRowsTest(Case):
             row = row * depth
             self.assertEqual(row.size, depth + 1)
         part = ("loop", (1, 5), row.parts)
-        self.keeps_equal(BadRow, (part,), lambda: row * "n+5")
-        self.keeps_equal(BadRow, (part,), loop, (1, 5), row)
-        self.keeps_equal(BadRow, (("forever", row.parts),), forever, row)
+        self.keeps_equal(BadRow, part, lambda: row * "n+5")
+        self.keeps_equal(BadRow, part, loop, (1, 5), row)
+        self.keeps_equal(BadRow, ("forever", row.parts), forever, row)
         self.assertEqual(forever(Row(nested(3, (SEND,)))).size, 5)
 
     def test_too_many(self):
         row = Row((SEND,) * 60)
-        self.keeps_equal(BadRow, (("loop", (0, 2), row.parts),), lambda: row * 2)
-        self.keeps_equal(BadRow, (("loop", (0, 2), row.parts),), loop, "2", row)
-        self.keeps_equal(BadRow, (("forever", row.parts),), forever, row)
+        self.keeps_equal(BadRow, ("loop", (0, 2), row.parts), lambda: row * 2)
+        self.keeps_equal(BadRow, ("loop", (0, 2), row.parts), loop, "2", row)
+        self.keeps_equal(BadRow, ("forever", row.parts), forever, row)
         self.assertEqual((Row((SEND,) * 59) * 2).size, 60)
 
     def test_forever_within(self):
         row = send("c") + forever(send("c"))
-        self.keeps_equal(BadRow, (("loop", (0, 1), row.parts),), lambda: row * 1)
-        self.keeps_equal(BadRow, (("loop", (1, 0), row.parts),), loop, "n", row)
-        self.keeps_equal(BadRow, (("forever", row.parts),), forever, row)
+        self.keeps_equal(BadRow, ("loop", (0, 1), row.parts), lambda: row * 1)
+        self.keeps_equal(BadRow, ("loop", (1, 0), row.parts), loop, "n", row)
+        self.keeps_equal(BadRow, ("forever", row.parts), forever, row)
 
     def test_join(self):
         row = send("c") + take("d") * 3 + work(5)
