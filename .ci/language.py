@@ -32,6 +32,8 @@ STATEMENTS = (
     ast.Assign, ast.AugAssign, ast.If, ast.While, ast.For, ast.Return, ast.Break, ast.Continue, ast.Pass, ast.Raise,
     ast.Assert, ast.Delete, ast.Nonlocal, ast.With, ast.Try, ast.Expr, ast.FunctionDef,
 )
+LIBRARY = {"math": {"gcd", "lcm", "isqrt", "comb", "perm", "factorial"}}
+OF_BUILTINS = {name for kind in (str, int, list, dict, set, bytes) for name in dir(kind) if not name.startswith("_")}
 FOLDING = {"any", "all", "min", "max", "sum", "sorted"}
 
 
@@ -53,7 +55,10 @@ def faults_of_module(tree):
     for place, node in enumerate(tree.body):
         if isinstance(node, ast.ImportFrom):
             names.extend(alias.name for alias in node.names)
-            if node.level or not (node.module or "").startswith(PACKAGE + ".") or [a for a in node.names if a.name == "*"]:
+            told = {alias.name for alias in node.names}
+            if node.level or "*" in told or [alias for alias in node.names if alias.asname]:
+                yield node.lineno, "L2 an import of another form"
+            if not (node.module or "").startswith(PACKAGE + ".") and not told <= LIBRARY.get(node.module, set()):
                 yield node.lineno, "L2 an import from elsewhere"
         elif isinstance(node, (ast.FunctionDef, ast.ClassDef)):
             names.append(node.name)
@@ -135,6 +140,61 @@ def faults_of_words(text, tree):
             yield number, "L17 a word that is not allowed"
 
 
+def bound_in(function):
+    """The names that a function binds: its parameters and what it assigns."""
+    names = {told.arg for told in ast.walk(function.args) if isinstance(told, ast.arg)}
+    return names | {node.id for node in ast.walk(function) if isinstance(node, ast.Name) and isinstance(node.ctx, ast.Store)}
+
+
+def faults_of_names(tree):
+    """Faults of names that mean two things in one file."""
+    taken = {alias.name for node in tree.body if isinstance(node, ast.ImportFrom) for alias in node.names}
+    taken |= {node.name for node in tree.body if isinstance(node, ast.ClassDef)}
+    for function in [node for node in ast.walk(tree) if isinstance(node, ast.FunctionDef)]:
+        for name in sorted(bound_in(function) & taken):
+            yield function.lineno, f"L15 {name} is a class or an import of the file"
+    for node in [node for node in tree.body if isinstance(node, ast.ClassDef)]:
+        methods = [inner for inner in node.body if isinstance(inner, ast.FunctionDef)]
+        stored = {inner.attr for inner in ast.walk(node) if isinstance(inner, ast.Attribute) and isinstance(inner.ctx, ast.Store)}
+        for method in methods:
+            if method.name in stored:
+                yield method.lineno, f"L18 {method.name} is a method and an attribute"
+            if method.name in OF_BUILTINS:
+                yield method.lineno, f"L26 {method.name} is a method of builtin values"
+    used = {alias.name for node in tree.body if isinstance(node, ast.ImportFrom) for alias in node.names}
+    used -= {node.id for node in ast.walk(tree) if isinstance(node, ast.Name)}
+    for name in sorted(used):
+        yield 1, f"{name} is imported and not used"
+
+
+def is_generator(function):
+    return any(isinstance(node, (ast.Yield, ast.YieldFrom)) for node in ast.walk(function))
+
+
+def faults_of_generators(trees):
+    """Faults of generators: their names are names of nothing else, and each call is iterated at once."""
+    functions = [node for tree in trees.values() for node in ast.walk(tree) if isinstance(node, ast.FunctionDef)]
+    names = {function.name for function in functions if is_generator(function)}
+    for path, tree in trees.items():
+        at_once = set()
+        for node in ast.walk(tree):
+            if isinstance(node, (ast.For, ast.comprehension)):
+                at_once.add(id(node.iter))
+            if isinstance(node, ast.YieldFrom):
+                at_once.add(id(node.value))
+            if isinstance(node, ast.Call) and isinstance(node.func, ast.Name) and node.func.id in {"list", "tuple", "sorted"}:
+                at_once |= {id(given) for given in node.args}
+        for node in ast.walk(tree):
+            if isinstance(node, ast.FunctionDef) and node.name in names and not is_generator(node):
+                yield path, node.lineno, f"L23 {node.name} is also a generator"
+            if isinstance(node, ast.Attribute) and node.attr in names and isinstance(node.ctx, ast.Store):
+                yield path, node.lineno, f"L23 {node.attr} is also a generator"
+            if isinstance(node, ast.Call) and id(node) not in at_once:
+                name = getattr(node.func, "id", getattr(node.func, "attr", None))
+                if name in names:
+                    yield path, node.lineno, f"L23 {name} is not iterated at once"
+
+
 def faults_of_file(path):
     text = path.read_text(encoding="utf-8")
     tree = ast.parse(text)
@@ -142,6 +202,7 @@ def faults_of_file(path):
     yield from faults_of_text(text)
     yield from faults_of_module(tree)
     yield from faults_of_words(text, tree)
+    yield from faults_of_names(tree)
     for node in ast.walk(tree):
         yield from faults_of_node(node)
 
@@ -160,6 +221,10 @@ def main():
         for number, fault in faults_of_file(path):
             many += 1
             print(f"{path}:{number}: {fault}")
+    trees = {path: ast.parse(path.read_text(encoding="utf-8")) for path in sorted(pathlib.Path(PACKAGE).glob("*.py"))}
+    for path, number, fault in faults_of_generators(trees):
+        many += 1
+        print(f"{path}:{number}: {fault}")
     return 1 if many else 0
 
 

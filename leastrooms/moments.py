@@ -10,12 +10,13 @@ from leastrooms.words import check_number
 class Scene:
     """What stays the same in all moments of a net, n and rooms."""
 
-    def __init__(self, net, n, rooms):
+    def __init__(self, net, n, rooms, stops):
         self.net = net
         self.n = n
         self.rooms = rooms
         self.limits = dict(rooms.pairs())
-        self.stops = {process: stops_of(net, process, n) for process in net.processes}
+        self.homes = {channel: net.store_of(channel) for channel in net.channels}
+        self.stops = stops
 
 
 class Moment:
@@ -84,9 +85,7 @@ class Play:
     """A moment that goes on: unlike a Moment it changes with each step, for many steps at little cost."""
 
     def __init__(self, moment):
-        self._scene = moment._scene
-        self._spots = dict(moment._spots)
-        self._levels = dict(moment._levels)
+        self._scene, self._spots, self._levels = opened(moment)
         # Those that are not among these can do no step till another one does something for them.
         self._awake = list(moment.net.processes)
 
@@ -122,9 +121,21 @@ def begin(net, n, rooms):
     check_net(net)
     check_number(n)
     check_rooms(net, rooms)
-    scene = Scene(net, n, rooms)
-    spots = {process: _first_spot(scene.stops[process]) for process in net.processes}
+    stops = {process: stops_of(net, process, n) for process in net.processes}
+    scene = Scene(net, n, rooms, stops)
+    spots = {process: _first_spot(stops[process]) for process in net.processes}
     return Moment(scene, spots, {channel: net.first(channel) for channel in net.channels})
+
+
+def opened(moment):
+    """What a moment holds: its Scene, and copies of where all processes are and of all levels."""
+    return moment._scene, dict(moment._spots), dict(moment._levels)
+
+
+def with_rooms(moment, rooms):
+    """The same moment, but with other rooms of the net."""
+    scene = moment._scene
+    return Moment(Scene(scene.net, scene.n, rooms, scene.stops), dict(moment._spots), dict(moment._levels))
 
 
 def _first_spot(stops):

@@ -162,3 +162,33 @@ def chance_rooms(chance, net):
 def chances(many, seed):
     """So many sources of chance, the same ones each time."""
     return [random.Random(seed * 100000 + index) for index in range(many)]
+
+
+def crossing_net(chance, endless=False):
+    """A net made by chance whose processes send each other as much as they take, in other orders."""
+    processes = ["ann", "bob", "cid"][:chance.randint(2, 3)]
+    pieces = {process: [] for process in processes}
+    for channel in "pqrst"[:chance.randint(1, 5)]:
+        sender, taker = chance.sample(processes, 2)
+        for count in chance.sample([1, 2, 3, "n", "n+1", "2n"], chance.choice((1, 1, 2))):
+            pieces[sender].append(loop(count, send(channel)))
+            pieces[taker].append(loop(count, take(channel)))
+    stores = {}
+    for process in processes:
+        chance.shuffle(pieces[process])
+        sent = sorted({channel for piece in pieces[process] for channel in channels_of(piece)
+                       if sends_to(piece, channel)})
+        if len(sent) > 1 and chance.random() < 0.3:
+            stores["st" + process] = sent
+    programs = {process: joined(chance, pieces[process]) for process in processes}
+    if endless:
+        programs = {process: forever(row) for process, row in programs.items()}
+    return Net(programs, None, stores)
+
+
+def joined(chance, pieces):
+    """The pieces one behind another, sometimes several of them again in a loop."""
+    row = Row()
+    for piece in pieces:
+        row = row + piece
+    return row * chance.choice((2, "n")) if chance.random() < 0.2 else row

@@ -5,10 +5,12 @@ import inspect
 import types
 import unittest
 
+from leastrooms.courses import Course
 from leastrooms.moments import begin
 from leastrooms.nets import Net
 from leastrooms.rooms import Rooms
 from leastrooms.rows import Row, send, take
+from leastrooms.runs import run
 
 FUNCTIONS = {
     "counts": {"is_count": "(thing)", "rounds": "(count, n)", "format_count": "(count)", "parse_count": "(text)"},
@@ -23,12 +25,25 @@ FUNCTIONS = {
         "is_knot": "(moment, thing, movers=())", "knots": "(moment, movers=())",
         "corner_of": "(moment, knot, movers=())",
     },
+    "courses": {"follow": "(moment, course)", "movers_of": "(course)"},
+    "runs": {"run": "(net, n, rooms)"},
+    "corners": {
+        "is_enough": "(net, n, rooms)", "least_rooms": "(net, n)", "corners": "(net, n)", "why_not": "(net, n, rooms)",
+        "undercut": "(net, n, rooms)", "cheapest": "(net, n, prices)", "least_above": "(net, thing)",
+        "greatest_below": "(net, thing)",
+    },
+    "papers": {
+        "vector_of": "(net, rooms)", "rooms_of": "(net, vector)", "enough_paper": "(net, n, rooms)",
+        "stuck_paper": "(net, n, rooms)", "is_enough_paper": "(net, n, thing)", "is_stuck_paper": "(net, n, thing)",
+        "waits_in": "(net, n, paper)", "certificate": "(net, n)", "judge": "(net, n, thing)",
+    },
 }
 CLASSES = {
     "rows": {"Row": ("(parts=())", ["__add__", "__mul__", "__eq__", "__str__"])},
     "nets": {"Net": ("(programs, first=None, stores=None)", [
         "row", "sender", "taker", "first", "store_of", "channels_in", "least_room", "__eq__",
     ])},
+    "courses": {"Course": ("(items=())", ["__add__", "__mul__", "steps", "__eq__"])},
     "rooms": {"Rooms": ("(values)", ["__getitem__", "pairs", "raised", "__or__", "__and__", "fits", "__eq__"])},
 }
 
@@ -57,7 +72,9 @@ class InterfaceTest(unittest.TestCase):
         net = Net({"ann": send("c"), "bob": take("c")})
         rooms = Rooms({"c": 1})
         for thing, names in [(Row(), ["parts", "size"]), (net, ["processes", "channels", "stores"]),
-                             (rooms, ["stores", "total"]), (begin(net, 0, rooms), ["net", "n", "rooms"])]:
+                             (rooms, ["stores", "total"]), (begin(net, 0, rooms), ["net", "n", "rooms"]),
+                             (Course(), ["content", "size", "total_steps"]),
+                             (run(net, 0, rooms), ["course", "moment", "is_endless", "movers", "lost", "knots", "is_enough"])]:
             for name in names:
                 self.assertFalse(callable(getattr(thing, name)), name)
 
@@ -67,9 +84,14 @@ class InterfaceTest(unittest.TestCase):
                                 ("next_part", "(process)"), ("wait", "(process)"), ("can", "()")]:
             self.assertEqual(str(inspect.signature(getattr(now, name))), arguments)
 
-    def test_steps_by_turns_yields(self):
-        steps = importlib.import_module("leastrooms.ends").steps_by_turns
-        self.assertTrue(inspect.isgeneratorfunction(steps))
+    def test_what_yields(self):
+        for call in [importlib.import_module("leastrooms.ends").steps_by_turns, Course.steps,
+                     importlib.import_module("leastrooms.papers").waits_in]:
+            self.assertTrue(inspect.isgeneratorfunction(call))
+
+    def test_the_state_of_a_run(self):
+        net = Net({"ann": send("c"), "bob": take("c")})
+        self.assertEqual(str(inspect.signature(run(net, 0, Rooms({"c": 1})).state)), "(process)")
 
 
 if __name__ == "__main__":

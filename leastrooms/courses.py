@@ -1,0 +1,72 @@
+"""Courses: many steps told in short, and whether they are possible from a moment on."""
+
+from leastrooms.errors import BadCourse, NotRight
+from leastrooms.followed import follow_item
+from leastrooms.items import MOST_ITEMS, each_of, is_without_end, shape_of, total_of, words_of
+from leastrooms.rooms import LARGEST_ROOM
+from leastrooms.tracks import Track
+from leastrooms.words import is_between
+
+
+class Course:
+    """A row of items: steps of processes, and repetitions of items."""
+
+    def __init__(self, items=()):
+        if not isinstance(items, (list, tuple)):
+            raise BadCourse(items)
+        content = tuple(items)
+        size, counts = shape_of(content)
+        if size > MOST_ITEMS or not _are_counts(content, counts):
+            raise BadCourse(items)
+        self.content = content
+        self.size = size
+        self.total_steps = total_of(content)
+
+    def __add__(self, other):
+        check_course(other)
+        return Course(self.content + other.content)
+
+    def __mul__(self, other):
+        return Course((("times", other, self.content),))
+
+    def __eq__(self, other):
+        return isinstance(other, Course) and self.content == other.content
+
+    def steps(self):
+        """Yield the processes step by step, also without end."""
+        yield from each_of(self.content)
+
+
+def follow(moment, course):
+    """The moment behind a course, or behind all ahead of its item without end."""
+    check_course(course)
+    track = Track(moment)
+    reached = moment
+    for index, item in enumerate(course.content):
+        if follow_item(track, item) is None:
+            raise NotRight(index)
+        if not is_without_end((item,)):
+            reached = track.now()
+    return reached
+
+
+def movers_of(course):
+    """The processes with steps in the item without end of a course, ascending."""
+    check_course(course)
+    return words_of(course.content[-1:]) if is_without_end(course.content) else []
+
+
+def check_course(course):
+    """Raise BadCourse if a value is no Course."""
+    if not isinstance(course, Course):
+        raise BadCourse(course)
+
+
+def _are_counts(content, counts):
+    """Whether these are numbers of repetitions of a course; only its last item may have None."""
+    ends = 1 if is_without_end(content) else 0
+    # The K of the last item stands ahead of those within it, and those behind the others.
+    finite = [count for count in counts if count is not None]
+    if len(counts) - len(finite) != ends:
+        return False
+    return all([is_between(count, 1, LARGEST_ROOM) for count in finite])

@@ -1,0 +1,195 @@
+"""Papers: what shows others that rooms are enough, or that they are not, and who checks it."""
+
+from leastrooms.courses import Course, follow, movers_of
+from leastrooms.ends import is_knot, knots
+from leastrooms.errors import BadCourse, BadVector, NotRight, NotSo, TooMany
+from leastrooms.moments import begin
+from leastrooms.nets import check_net
+from leastrooms.rooms import Rooms, check_rooms, is_room
+from leastrooms.searches import MOST_TOLD, Search
+from leastrooms.vectors import NO_LIMIT, is_nowhere_greater, least_beyond, least_numbers, numbers_in, vector_from
+from leastrooms.walks import walk_from
+from leastrooms.words import check_number
+
+
+class Reached:
+    """Where the items of a right paper lead: the moment behind them, and the movers of the item without end."""
+
+    def __init__(self, moment, movers):
+        self.moment = moment
+        self.movers = movers
+
+
+def vector_of(net, rooms):
+    """The vector of Rooms."""
+    check_net(net)
+    check_rooms(net, rooms)
+    return tuple([room for _, room in rooms.pairs()])
+
+
+def rooms_of(net, vector):
+    """The Rooms of a vector."""
+    check_net(net)
+    if not is_vector(net, vector):
+        raise BadVector(vector)
+    return _rooms_at(net, vector)
+
+
+def enough_paper(net, n, rooms):
+    """A right enough paper with the vector of these Rooms."""
+    walk = walk_from(begin(net, n, rooms))
+    if walk.waits_for_room():
+        raise NotSo(rooms)
+    return ("enough", vector_of(net, rooms), tuple(walk.told_items()))
+
+
+def stuck_paper(net, n, rooms):
+    """A right stuck paper with the vector of these Rooms."""
+    walk = walk_from(begin(net, n, rooms))
+    if not walk.waits_for_room():
+        raise NotSo(rooms)
+    knot = knots(walk.moment, walk.movers)[0]
+    return ("stuck", vector_of(net, rooms), tuple(walk.told_items()), tuple(knot))
+
+
+def is_enough_paper(net, n, thing):
+    """Whether a value is a right enough paper."""
+    check_net(net)
+    check_number(n)
+    reached = _reached_by(net, n, thing) if is_tuple_of(thing, "enough", 3) else None
+    return reached is not None and all([_is_content(reached, process) for process in net.processes])
+
+
+def is_stuck_paper(net, n, thing):
+    """Whether a value is a right stuck paper."""
+    check_net(net)
+    check_number(n)
+    return _knotted_by(net, n, thing) is not None
+
+
+def waits_in(net, n, paper):
+    """Yield for each process of the knot of a right stuck paper what it waits for, and who could end that."""
+    check_net(net)
+    check_number(n)
+    reached = _knotted_by(net, n, paper)
+    if reached is None:
+        raise NotSo(paper)
+    for process in paper[3]:
+        word, name = reached.moment.wait(process)
+        yield process, word, name, _helpers(reached.moment, word, name)
+
+
+def certificate(net, n):
+    """A certificate with the vectors of all least rooms and of all corners."""
+    search = Search(net, n)
+    enough = [enough_paper(net, n, _rooms_at(net, vector_from(numbers))) for numbers in search.least]
+    stuck = [stuck_paper(net, n, _rooms_at(net, vector_from(numbers))) for numbers in search.corners]
+    return ("certificate", tuple(enough), tuple(stuck))
+
+
+def judge(net, n, thing):
+    """The first verdict on a certificate that applies."""
+    check_net(net)
+    check_number(n)
+    if not is_tuple_of(thing, "certificate", 3) or not all([is_told(papers) for papers in thing[1:]]):
+        return ("form",)
+    for index, paper in enumerate(thing[1]):
+        if not is_enough_paper(net, n, paper):
+            return ("enough", index)
+    for index, paper in enumerate(thing[2]):
+        if not is_stuck_paper(net, n, paper):
+            return ("stuck", index)
+    enough = [numbers_in(paper[1]) for paper in thing[1]]
+    stuck = [numbers_in(paper[1]) for paper in thing[2]]
+    return _verdict_on(least_numbers(net), enough, stuck)
+
+
+def is_vector(net, thing):
+    """Whether a value is a vector of the net."""
+    if not isinstance(thing, tuple) or len(thing) != len(net.stores):
+        return False
+    if not all([is_room(room) for room in thing]):
+        return False
+    return is_nowhere_greater(least_numbers(net), numbers_in(thing))
+
+
+def is_tuple_of(thing, word, many):
+    """Whether a value is a tuple of so many things, this word ahead."""
+    return isinstance(thing, tuple) and len(thing) == many and isinstance(thing[0], str) and thing[0] == word
+
+
+def is_told(thing):
+    """Whether a value is a tuple of so few values that they can be told."""
+    return isinstance(thing, tuple) and len(thing) <= MOST_TOLD
+
+
+def _rooms_at(net, vector):
+    return Rooms(dict(zip(net.stores, vector)))
+
+
+def _reached_by(net, n, paper):
+    """Where the items of a paper lead with the rooms of its vector; None if they are not right."""
+    _, vector, items = paper[:3]
+    if not is_vector(net, vector) or not isinstance(items, tuple):
+        return None
+    try:
+        course = Course(items)
+        moment = follow(begin(net, n, _rooms_at(net, vector)), course)
+    except (BadCourse, NotRight):
+        return None
+    return Reached(moment, movers_of(course))
+
+
+def _knotted_by(net, n, paper):
+    """Where the items of a right stuck paper lead; None if it is none."""
+    if not is_tuple_of(paper, "stuck", 4) or not isinstance(paper[3], tuple):
+        return None
+    reached = _reached_by(net, n, paper)
+    if reached is None or not is_knot(reached.moment, list(paper[3]), reached.movers):
+        return None
+    return reached
+
+
+def _is_content(reached, process):
+    """Whether a process is a mover, has ended, or waits for messages."""
+    if process in reached.movers:
+        return True
+    wait = reached.moment.wait(process)
+    return wait is not None and wait[0] != "full"
+
+
+def _helpers(moment, word, name):
+    """The processes that could end a wait, ascending."""
+    if word == "empty":
+        return (moment.net.sender(name),)
+    holding = [channel for channel in moment.net.channels_in(name) if moment.level(channel) > 0]
+    takers = [moment.net.taker(channel) for channel in holding]
+    return tuple(sorted(set([taker for taker in takers if taker is not None])))
+
+
+def _verdict_on(floor, enough, stuck):
+    """The verdict on right papers with these numbers."""
+    least = least_beyond(stuck, floor, MOST_TOLD + 1)
+    if len(least) > MOST_TOLD:
+        raise TooMany()
+    for numbers in least:
+        if not _is_shown(numbers, enough):
+            return ("cover", vector_from(numbers))
+    for index, numbers in enumerate(enough):
+        if numbers not in least or numbers in enough[:index]:
+            return ("least", index)
+    for index, numbers in enumerate(stuck):
+        if numbers in stuck[:index] or not _is_greatest(numbers, enough):
+            return ("greatest", index)
+    return ("accepted",)
+
+
+def _is_shown(numbers, enough):
+    """Whether numbers are nowhere less than some that are enough."""
+    return any([is_nowhere_greater(one, numbers) for one in enough])
+
+
+def _is_greatest(numbers, enough):
+    """Whether numbers are nowhere less than some enough ones as soon as one of them is the next greater one."""
+    nexts = [numbers[:at] + (number + 1,) + numbers[at + 1:] for at, number in enumerate(numbers) if number != NO_LIMIT]
+    return all([_is_shown(further, enough) for further in nexts])
