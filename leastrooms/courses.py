@@ -40,10 +40,15 @@ class Course:
 def follow(moment, course):
     """The moment behind a course, or behind all ahead of its item without end."""
     check_course(course)
+    return follow_traced(moment, course, [])
+
+
+def follow_traced(moment, course, trace):
+    """The same as follow; all that is followed is added to the trace."""
     track = Track(moment)
     reached = moment
     for index, item in enumerate(course.content):
-        if follow_item(track, item) is None:
+        if follow_item(track, item, trace) is None:
             raise NotRight(index)
         if not is_without_end((item,)):
             reached = track.now()

@@ -1,23 +1,29 @@
 """Papers: what shows others that rooms are enough, or that they are not, and who checks it."""
 
-from leastrooms.courses import Course, follow, movers_of
+from leastrooms.courses import Course, follow_traced, movers_of
 from leastrooms.ends import is_knot, knots
 from leastrooms.errors import BadCourse, BadVector, NotRight, NotSo, TooMany
 from leastrooms.moments import begin
 from leastrooms.nets import check_net
-from leastrooms.rooms import Rooms, check_rooms, is_room
+from leastrooms.rooms import NO_LIMIT, Rooms, check_rooms, is_room
 from leastrooms.searches import MOST_TOLD, Search
-from leastrooms.vectors import NO_LIMIT, is_nowhere_greater, least_beyond, least_numbers, numbers_in, vector_from
+from leastrooms.vectors import is_nowhere_greater, least_beyond, least_numbers, numbers_in, vector_from
 from leastrooms.walks import walk_from
 from leastrooms.words import check_number
 
 
 class Reached:
-    """Where the items of a right paper lead: the moment behind them, and the movers of the item without end."""
+    """Where the items of a right paper lead: the moment behind them, the movers of the item without end, the trace."""
 
-    def __init__(self, moment, movers):
+    def __init__(self, moment, movers, trace):
         self.moment = moment
         self.movers = movers
+        self.trace = trace
+
+    def told_waits(self):
+        """What each process that is no mover waits for."""
+        others = [process for process in self.moment.net.processes if process not in self.movers]
+        return {process: self.moment.wait(process) for process in others}
 
 
 def vector_of(net, rooms):
@@ -56,22 +62,21 @@ def is_enough_paper(net, n, thing):
     """Whether a value is a right enough paper."""
     check_net(net)
     check_number(n)
-    reached = _reached_by(net, n, thing) if is_tuple_of(thing, "enough", 3) else None
-    return reached is not None and all([_is_content(reached, process) for process in net.processes])
+    return reached_enough(net, n, thing) is not None
 
 
 def is_stuck_paper(net, n, thing):
     """Whether a value is a right stuck paper."""
     check_net(net)
     check_number(n)
-    return _knotted_by(net, n, thing) is not None
+    return reached_stuck(net, n, thing) is not None
 
 
 def waits_in(net, n, paper):
     """Yield for each process of the knot of a right stuck paper what it waits for, and who could end that."""
     check_net(net)
     check_number(n)
-    reached = _knotted_by(net, n, paper)
+    reached = reached_stuck(net, n, paper)
     if reached is None:
         raise NotSo(paper)
     for process in paper[3]:
@@ -104,6 +109,24 @@ def judge(net, n, thing):
     return _verdict_on(least_numbers(net), enough, stuck)
 
 
+def reached_enough(net, n, thing):
+    """Where the items of a right enough paper lead; None if a value is none."""
+    reached = _reached_by(net, n, thing) if is_tuple_of(thing, "enough", 3) else None
+    if reached is None or not all([wait is not None and wait[0] != "full" for wait in reached.told_waits().values()]):
+        return None
+    return reached
+
+
+def reached_stuck(net, n, thing):
+    """Where the items of a right stuck paper lead; None if a value is none."""
+    if not is_tuple_of(thing, "stuck", 4) or not isinstance(thing[3], tuple):
+        return None
+    reached = _reached_by(net, n, thing)
+    if reached is None or not is_knot(reached.moment, list(thing[3]), reached.movers):
+        return None
+    return reached
+
+
 def is_vector(net, thing):
     """Whether a value is a vector of the net."""
     if not isinstance(thing, tuple) or len(thing) != len(net.stores):
@@ -132,30 +155,13 @@ def _reached_by(net, n, paper):
     _, vector, items = paper[:3]
     if not is_vector(net, vector) or not isinstance(items, tuple):
         return None
+    trace = []
     try:
         course = Course(items)
-        moment = follow(begin(net, n, _rooms_at(net, vector)), course)
+        moment = follow_traced(begin(net, n, _rooms_at(net, vector)), course, trace)
     except (BadCourse, NotRight):
         return None
-    return Reached(moment, movers_of(course))
-
-
-def _knotted_by(net, n, paper):
-    """Where the items of a right stuck paper lead; None if it is none."""
-    if not is_tuple_of(paper, "stuck", 4) or not isinstance(paper[3], tuple):
-        return None
-    reached = _reached_by(net, n, paper)
-    if reached is None or not is_knot(reached.moment, list(paper[3]), reached.movers):
-        return None
-    return reached
-
-
-def _is_content(reached, process):
-    """Whether a process is a mover, has ended, or waits for messages."""
-    if process in reached.movers:
-        return True
-    wait = reached.moment.wait(process)
-    return wait is not None and wait[0] != "full"
+    return Reached(moment, movers_of(course), trace)
 
 
 def _helpers(moment, word, name):

@@ -6,6 +6,8 @@ from leastrooms.words import is_between, is_word
 
 # An exponent is at most 64 in this program.
 LARGEST_ROOM = 10 ** 50 * 10 ** 50 * 10 ** 50 * 10 ** 50
+# In the place of None, where rooms are told by numbers: a room without limit is greater than all others.
+NO_LIMIT = LARGEST_ROOM + 1
 
 
 class Rooms:

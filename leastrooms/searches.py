@@ -3,8 +3,8 @@
 from leastrooms.ends import corner_of, knots
 from leastrooms.errors import TooLong, TooMany
 from leastrooms.moments import begin, with_rooms
-from leastrooms.rooms import LARGEST_ROOM, least_possible
-from leastrooms.vectors import NO_LIMIT, is_nowhere_greater, least_beyond, least_numbers, rooms_from
+from leastrooms.rooms import LARGEST_ROOM, NO_LIMIT, least_possible
+from leastrooms.vectors import is_nowhere_greater, least_beyond, least_numbers, rooms_from
 from leastrooms.walks import walk_from
 
 MOST_TOLD = 60

@@ -68,6 +68,14 @@ def next_spot(stop, done):
     return (stop.onward, done[:stop.kept] + stop.fresh)
 
 
+def depth_that_goes_on(stop, done):
+    """The depth of the loop that begins its next round behind a stop where so many are done; -1 for none."""
+    for depth, total, _, _ in stop.again:
+        if total is None or done[depth] + 1 < total:
+            return depth
+    return -1
+
+
 def level_behind(stop, level):
     """The level of the channel of a stop behind its step."""
     return level + stop.k if stop.word == "send" else level - stop.k

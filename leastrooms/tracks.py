@@ -11,6 +11,10 @@ class Track:
     which may be below 0. ("low", channel): the level behind a take; ("rest", store): the room left
     behind a send. ("fill", store) has no bound: the level behind a send with its sign turned, in a
     store without limit.
+
+    Where rooms grow, too: ("dry", channel) and ("over", store): how surely processes wait for messages
+    and for room; ("even", store): growth that may not become another one; ("top", store): how far a room
+    is from the greatest one; ("rank", ..): how surely a store is picked, not another one.
     """
 
     def __init__(self, moment):
@@ -66,13 +70,30 @@ class Change:
         self.gains = gains
         self.drifts = drifts
         self.fills = fills
+        # By how much rooms grow.
+        self.growth = {}
+
+    def is_like(self, other):
+        """Whether another one changes all rounds and levels by the same."""
+        return self.gains == other.gains and self.drifts == other.drifts
 
     def drift_of(self, key):
         """By how much a slack grows with each go."""
         word, name = key
-        if word == "low":
-            return self.drifts.get(name, 0)
-        return -self.fills.get(name, 0)
+        if word in ("low", "dry"):
+            drift = self.drifts.get(name, 0)
+            return drift if word == "low" else -drift
+        if word == "rank":
+            return sum([self._rank_drift(part) for part in name])
+        fill = self.fills.get(name, 0)
+        growth = self.growth.get(name, 0)
+        if word == "even":
+            return -abs(growth - fill)
+        return {"rest": growth - fill, "over": fill - growth, "fill": -fill, "top": -growth}[word]
+
+    def _rank_drift(self, part):
+        store, by_room, by_fill = part
+        return by_room * self.growth.get(store, 0) + by_fill * self.fills.get(store, 0)
 
 
 def change_since(track, mark, processes):

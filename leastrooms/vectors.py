@@ -1,9 +1,6 @@
 """Vectors: a number for each store, and which ones are the least beyond others, or the greatest short of them."""
 
-from leastrooms.rooms import LARGEST_ROOM, Rooms
-
-# In the place of None: a room without limit is greater than all numbers.
-NO_LIMIT = LARGEST_ROOM + 1
+from leastrooms.rooms import NO_LIMIT, Rooms
 
 
 def numbers_of(rooms):

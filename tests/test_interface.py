@@ -5,11 +5,15 @@ import inspect
 import types
 import unittest
 
+from leastrooms.beats import Beats
 from leastrooms.courses import Course
+from leastrooms.formulas import formulas
+from leastrooms.growing import Policy, grow
+from leastrooms.lines import Line
 from leastrooms.moments import begin
 from leastrooms.nets import Net
 from leastrooms.rooms import Rooms
-from leastrooms.rows import Row, send, take
+from leastrooms.rows import Row, forever, send, take
 from leastrooms.runs import run
 
 FUNCTIONS = {
@@ -37,6 +41,16 @@ FUNCTIONS = {
         "stuck_paper": "(net, n, rooms)", "is_enough_paper": "(net, n, thing)", "is_stuck_paper": "(net, n, thing)",
         "waits_in": "(net, n, paper)", "certificate": "(net, n)", "judge": "(net, n, thing)",
     },
+    "lines": {"paper_at": "(paper, m)", "is_lined": "(net, first, step, thing)"},
+    "formulas": {"formulas": "(net)", "judge_lines": "(net, thing)"},
+    "growing": {
+        "grow": "(net, n, rooms, policy)", "cost_of": "(rooms, prices)", "regret": "(net, n, prices, policy)",
+        "regrets": "(net, n, prices)",
+    },
+    "beats": {
+        "rounds_in": "(net)", "events_in": "(net)", "is_as_fast": "(one, other)", "pace_paper": "(beats)",
+        "is_pace_paper": "(beats, thing)",
+    },
 }
 CLASSES = {
     "rows": {"Row": ("(parts=())", ["__add__", "__mul__", "__eq__", "__str__"])},
@@ -44,6 +58,12 @@ CLASSES = {
         "row", "sender", "taker", "first", "store_of", "channels_in", "least_room", "__eq__",
     ])},
     "courses": {"Course": ("(items=())", ["__add__", "__mul__", "steps", "__eq__"])},
+    "lines": {"Line": ("(at_zero, slope=0)", ["__call__", "__add__", "__sub__", "__mul__", "__eq__", "__str__", "through"])},
+    "growing": {
+        "Policy": ("()", ["__call__", "rank"]), "Narrow": ("()", ["__call__", "rank"]),
+        "Wide": ("()", ["__call__", "rank"]), "Cheap": ("(prices)", ["__call__", "rank"]),
+    },
+    "beats": {"Beats": ("(net, rooms)", ["begins"])},
     "rooms": {"Rooms": ("(values)", ["__getitem__", "pairs", "raised", "__or__", "__and__", "fits", "__eq__"])},
 }
 
@@ -71,10 +91,14 @@ class InterfaceTest(unittest.TestCase):
     def test_attributes(self):
         net = Net({"ann": send("c"), "bob": take("c")})
         rooms = Rooms({"c": 1})
+        beats = Beats(Net({"ann": forever(send("c")), "bob": forever(take("c"))}), rooms)
         for thing, names in [(Row(), ["parts", "size"]), (net, ["processes", "channels", "stores"]),
                              (rooms, ["stores", "total"]), (begin(net, 0, rooms), ["net", "n", "rooms"]),
                              (Course(), ["content", "size", "total_steps"]),
-                             (run(net, 0, rooms), ["course", "moment", "is_endless", "movers", "lost", "knots", "is_enough"])]:
+                             (run(net, 0, rooms), ["course", "moment", "is_endless", "movers", "lost", "knots", "is_enough"]),
+                             (Line(1), ["at_zero", "slope"]), (formulas(net), ["period", "start"]),
+                             (grow(net, 0, rooms, Policy()), ["rooms", "many", "is_forced", "picks"]),
+                             (beats, ["net", "rooms", "events", "waits", "pace"])]:
             for name in names:
                 self.assertFalse(callable(getattr(thing, name)), name)
 
@@ -88,6 +112,18 @@ class InterfaceTest(unittest.TestCase):
         for call in [importlib.import_module("leastrooms.ends").steps_by_turns, Course.steps,
                      importlib.import_module("leastrooms.papers").waits_in]:
             self.assertTrue(inspect.isgeneratorfunction(call))
+
+    def test_more_methods(self):
+        self.assertEqual(str(inspect.signature(Line.through)), "(m, value, other, further)")
+        self.assertIsInstance(vars(Line)["through"], staticmethod)
+        self.assertEqual(str(inspect.signature(Line(1))), "(m)")
+        self.assertEqual(str(inspect.signature(Policy().rank)), "(moment, store, corner)")
+        self.assertEqual(str(inspect.signature(Policy())), "(moment, knot, movers=())")
+        found = formulas(Net({"ann": send("c"), "bob": take("c")}))
+        for name, arguments in [("least_lines", "(rest)"), ("corner_lines", "(rest)"), ("least_at", "(n)"),
+                                ("corners_at", "(n)"), ("papers", "()")]:
+            self.assertEqual(str(inspect.signature(getattr(found, name))), arguments)
+        self.assertEqual(str(inspect.signature(Beats.begins)), "(self, rounds)")
 
     def test_the_state_of_a_run(self):
         net = Net({"ann": send("c"), "bob": take("c")})

@@ -1,0 +1,255 @@
+"""Formulas: least rooms and corners for all n, as lines."""
+
+from leastrooms.covers import is_covered
+from leastrooms.errors import BadNumber, NotStraight, TooLong
+from leastrooms.lines import LONGEST_STEP, Line, is_lined
+from leastrooms.linings import Linings
+from leastrooms.nets import check_net
+from leastrooms.papers import is_told, is_tuple_of
+from leastrooms.rooms import NO_LIMIT
+from leastrooms.searches import Search
+from leastrooms.spans import last_of
+from leastrooms.straight import is_known_at, lines_through, numbers_at
+from leastrooms.vectors import least_numbers, rooms_from
+from leastrooms.words import LARGEST_NUMBER, check_number, is_between
+
+LONGEST_PERIOD = 4
+LATEST_START = 24
+
+
+class Known:
+    """The least rooms and the corners of a net at n, as numbers; each is found once."""
+
+    def __init__(self, net):
+        self.net = net
+        self.table = {}
+
+    def at(self, n):
+        """A tuple of two lists of tuples of numbers, both in order."""
+        if n not in self.table:
+            search = Search(self.net, n)
+            self.table[n] = (search.least, search.corners)
+        return self.table[n]
+
+
+class Piece:
+    """Lined papers for first + step * m, and what their vectors are: all least rooms, and all corners."""
+
+    def __init__(self, first, step, enough, stuck):
+        self.first = first
+        self.step = step
+        self.enough = enough
+        self.stuck = stuck
+
+    def told(self, rest, period):
+        """The vectors as lines in n // period, for n with this rest; two lists of tuples of numbers."""
+        return tuple([
+            sorted([self._shifted(paper[1], rest, period) for paper in papers]) for papers in (self.enough, self.stuck)
+        ])
+
+    def _shifted(self, vector, rest, period):
+        return tuple([(NO_LIMIT, 0, 1) if line is None else self._shifted_line(line, rest, period) for line in vector])
+
+    def _shifted_line(self, line, rest, period):
+        """The numbers at_zero and slope, both times step, and step."""
+        return (line.at_zero * self.step + line.slope * (rest - self.first), line.slope * period, self.step)
+
+
+class Formulas:
+    """The least rooms and the corners of a net for all n."""
+
+    def __init__(self, net, known, pieces):
+        self._net = net
+        self._known = known
+        self._pieces = pieces
+        self._period, self._lines = _shortest(pieces)
+        self._start = _earliest(known, pieces, self._period, self._lines)
+
+    @property
+    def period(self):
+        """For how many rests there are lines of their own."""
+        return self._period
+
+    @property
+    def start(self):
+        """The first n from which on the lines tell all."""
+        return self._start
+
+    def least_lines(self, rest):
+        """The least rooms, for n with this rest: dicts from stores to Lines or None."""
+        return self._told(rest, 0)
+
+    def corner_lines(self, rest):
+        """The corners, for n with this rest: dicts from stores to Lines or None."""
+        return self._told(rest, 1)
+
+    def least_at(self, n):
+        """All least Rooms that are enough, ascending."""
+        check_number(n)
+        return self._rooms_at(n, 0)
+
+    def corners_at(self, n):
+        """All greatest Rooms that are not enough, ascending."""
+        check_number(n)
+        return self._rooms_at(n, 1)
+
+    def papers(self):
+        """A list of tuples (first, step, enough, stuck) with lined papers, in the order of the rests by step."""
+        return [(piece.first, piece.step, piece.enough, piece.stuck) for piece in self._pieces]
+
+    def _told(self, rest, kind):
+        if not is_between(rest, 0, self._period - 1):
+            raise BadNumber(rest)
+        return [dict(zip(self._net.stores, vector)) for vector in self._lines[rest][kind]]
+
+    def _rooms_at(self, n, kind):
+        if n < self._start:
+            found = self._known.at(n)[kind]
+        else:
+            m, rest = divmod(n, self._period)
+            found = sorted([numbers_at(vector, m) for vector in self._lines[rest][kind]])
+        return [rooms_from(self._net.stores, numbers) for numbers in found]
+
+
+def formulas(net):
+    """The Formulas of a net; NotStraight if no lines tell its rooms."""
+    check_net(net)
+    known = Known(net)
+    linings = Linings(net)
+    for step in range(1, LONGEST_PERIOD + 1):
+        pieces = _pieces_by(net, known, linings, step)
+        if pieces is not None:
+            return Formulas(net, known, pieces)
+    raise NotStraight()
+
+
+def judge_lines(net, thing):
+    """The first verdict that applies to what seems to be one of the tuples of papers()."""
+    check_net(net)
+    if not _is_formed(thing):
+        return ("form",)
+    first, step, enough, stuck = thing
+    for index, paper in enumerate(enough):
+        if not is_tuple_of(paper, "enough", 3) or not is_lined(net, first, step, paper):
+            return ("enough", index)
+    for index, paper in enumerate(stuck):
+        if not is_tuple_of(paper, "stuck", 4) or not is_lined(net, first, step, paper):
+            return ("stuck", index)
+    vectors = [[paper[1] for paper in papers] for papers in (enough, stuck)]
+    if not is_covered(least_numbers(net), last_of(first, step), vectors[0], vectors[1]):
+        return ("cover",)
+    return ("accepted",)
+
+
+def _is_formed(thing):
+    if not isinstance(thing, tuple) or len(thing) != 4:
+        return False
+    first, step, enough, stuck = thing
+    if not is_between(first, 0, LARGEST_NUMBER) or not is_between(step, 1, LONGEST_STEP):
+        return False
+    return is_told(enough) and is_told(stuck)
+
+
+def _pieces_by(net, known, linings, step):
+    """A Piece for each rest by step, in order; None if there is none for some rest."""
+    pieces = []
+    for rest in range(step):
+        piece = _first_piece(net, known, linings, step, rest)
+        if piece is None:
+            return None
+        pieces.append(piece)
+    return pieces
+
+
+def _first_piece(net, known, linings, step, rest):
+    for first in range(rest, LATEST_START + 1, step):
+        lines = _lines_from(known, first, step)
+        if lines is not None:
+            enough = [linings.lined("enough", vector, first, step) for vector in lines[0]]
+            stuck = [linings.lined("stuck", vector, first, step) for vector in lines[1]]
+            if None not in enough + stuck:
+                told = (first, step, tuple(enough), tuple(stuck))
+                if judge_lines(net, told) == ("accepted",):
+                    return Piece(first, step, tuple(enough), tuple(stuck))
+    return None
+
+
+def _lines_from(known, first, step):
+    """Two lists of tuples of Lines and None that go through the rooms from first on; None if there are none."""
+    near = [known.at(first + step * m) for m in range(4)]
+    found = []
+    for kind in (0, 1):
+        points = [(m, rooms[kind]) for m, rooms in enumerate(near)]
+        lines = lines_through(points)
+        if lines is None:
+            lines = _lines_to_the_last(known, points, first, step, kind)
+        if not lines and near[0][kind]:
+            return None
+        found.append(lines)
+    return found
+
+
+def _lines_to_the_last(known, points, first, step, kind):
+    """The lines where those near to first may be several; an empty list if the last ones tell no more."""
+    last = last_of(first, step)
+    try:
+        further = known.at(first + step * last)[kind]
+    except TooLong:
+        return []
+    lines = lines_through(points + [(last, further)])
+    return [] if lines is None else lines
+
+
+def _shortest(pieces):
+    """The least period, and for each rest two lists of tuples of Lines and None."""
+    for period in range(1, len(pieces)):
+        lines = _lines_by(pieces, period)
+        if None not in lines:
+            return period, lines
+    return len(pieces), _lines_by(pieces, len(pieces))
+
+
+def _lines_by(pieces, period):
+    """For each rest the lines in n // period, None where there are none."""
+    return [_lines_of_rest(pieces, period, rest) for rest in range(period)]
+
+
+def _lines_of_rest(pieces, period, rest):
+    # All n with this rest, by their rests of both kinds.
+    told = [pieces[n % len(pieces)].told(rest, period) for n in range(rest, rest + period * len(pieces), period)]
+    if not all([one == told[0] for one in told]):
+        return None
+    whole = [number % step == 0 for kind in told[0] for vector in kind for at_zero, slope, step in vector
+             for number in (at_zero, slope)]
+    if not all(whole):
+        return None
+    return [_in_order(kind, rest, period) for kind in told[0]]
+
+
+def _in_order(kind, rest, period):
+    """Tuples of Lines and None in the order of the rooms at the last n."""
+    last = (LARGEST_NUMBER - rest) // period
+    vectors = [tuple([_line_of(numbers) for numbers in vector]) for vector in kind]
+    places = sorted([(numbers_at(vector, last), place) for place, vector in enumerate(vectors)])
+    return [vectors[place] for _, place in places]
+
+
+def _line_of(numbers):
+    at_zero, slope, step = numbers
+    return None if at_zero == NO_LIMIT * step and slope == 0 else Line(at_zero // step, slope // step)
+
+
+def _earliest(known, pieces, period, lines):
+    """The first n from which on the lines tell all rooms."""
+    start = max([piece.first for piece in pieces])
+    while start > 0 and _are_told(known, pieces, period, lines, start - 1):
+        start = start - 1
+    return start
+
+
+def _are_told(known, pieces, period, lines, n):
+    """Whether the lines tell the rooms at n."""
+    if n >= pieces[n % len(pieces)].first:
+        return True
+    m, rest = divmod(n, period)
+    return all([is_known_at(lines[rest][kind], (m, known.at(n)[kind])) for kind in (0, 1)])
