@@ -36,8 +36,8 @@ class Piece:
     """Lined papers for first + step * m, and what their vectors are: all least rooms, and all corners."""
 
     def __init__(self, first, step, enough, stuck):
-        self.first = first
-        self.step = step
+        self.origin = first
+        self.by = step
         self.enough = enough
         self.stuck = stuck
 
@@ -52,7 +52,7 @@ class Piece:
 
     def _shifted_line(self, line, rest, period):
         """The numbers at_zero and slope, both times step, and step."""
-        return (line.at_zero * self.step + line.slope * (rest - self.first), line.slope * period, self.step)
+        return (line.at_zero * self.by + line.slope * (rest - self.origin), line.slope * period, self.by)
 
 
 class Formulas:
@@ -95,7 +95,7 @@ class Formulas:
 
     def papers(self):
         """A list of tuples (first, step, enough, stuck) with lined papers, in the order of the rests by step."""
-        return [(piece.first, piece.step, piece.enough, piece.stuck) for piece in self._pieces]
+        return [(piece.origin, piece.by, piece.enough, piece.stuck) for piece in self._pieces]
 
     def _told(self, rest, kind):
         if not is_between(rest, 0, self._period - 1):
@@ -241,7 +241,7 @@ def _line_of(numbers):
 
 def _earliest(known, pieces, period, lines):
     """The first n from which on the lines tell all rooms."""
-    start = max([piece.first for piece in pieces])
+    start = max([piece.origin for piece in pieces])
     while start > 0 and _are_told(known, pieces, period, lines, start - 1):
         start = start - 1
     return start
@@ -249,7 +249,7 @@ def _earliest(known, pieces, period, lines):
 
 def _are_told(known, pieces, period, lines, n):
     """Whether the lines tell the rooms at n."""
-    if n >= pieces[n % len(pieces)].first:
+    if n >= pieces[n % len(pieces)].origin:
         return True
     m, rest = divmod(n, period)
     return all([is_known_at(lines[rest][kind], (m, known.at(n)[kind])) for kind in (0, 1)])

@@ -42,7 +42,7 @@ class Growths:
         """After each growth run from the beginning."""
         walk = walk_from(start, True)
         while walk.waits_for_room():
-            store, corner = self._picked(walk.moment, walk.movers)
+            store, corner = self._picked(walk.moment, walk.moving)
             self._add(Move(store, {}, 0))
             self.moment = with_rooms(start, _raised(self.moment.rooms, store, corner))
             walk = walk_from(self.moment, True)

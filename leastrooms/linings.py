@@ -17,7 +17,7 @@ class Linings:
     def __init__(self, net):
         self.net = net
         self.starts = {}
-        self.papers = {}
+        self.told = {}
 
     def lined(self, word, vector, first, step):
         """A lined paper of this kind with a tuple of Lines and None; None if the runs tell none."""
@@ -39,9 +39,9 @@ class Linings:
     def _paper(self, word, n, numbers, is_eager):
         """The items of a run and, if it is stuck, its knot; None if there is no such run, or it is too long."""
         key = (word, n, numbers, is_eager)
-        if key not in self.papers:
-            self.papers[key] = self._new_paper(word, n, numbers, is_eager)
-        return self.papers[key]
+        if key not in self.told:
+            self.told[key] = self._new_paper(word, n, numbers, is_eager)
+        return self.told[key]
 
     def _new_paper(self, word, n, numbers, is_eager):
         if n not in self.starts:
@@ -53,7 +53,7 @@ class Linings:
         if walk.waits_for_room() != (word == "stuck"):
             return None
         items = tuple(walk.told_items())
-        return (items, tuple(knots(walk.moment, walk.movers)[0])) if word == "stuck" else (items,)
+        return (items, tuple(knots(walk.moment, walk.moving)[0])) if word == "stuck" else (items,)
 
 
 def _joined(one, other, last):

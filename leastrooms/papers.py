@@ -17,12 +17,12 @@ class Reached:
 
     def __init__(self, moment, movers, trace):
         self.moment = moment
-        self.movers = movers
+        self.moving = movers
         self.trace = trace
 
     def told_waits(self):
         """What each process that is no mover waits for."""
-        others = [process for process in self.moment.net.processes if process not in self.movers]
+        others = [process for process in self.moment.net.processes if process not in self.moving]
         return {process: self.moment.wait(process) for process in others}
 
 
@@ -54,7 +54,7 @@ def stuck_paper(net, n, rooms):
     walk = walk_from(begin(net, n, rooms))
     if not walk.waits_for_room():
         raise NotSo(rooms)
-    knot = knots(walk.moment, walk.movers)[0]
+    knot = knots(walk.moment, walk.moving)[0]
     return ("stuck", vector_of(net, rooms), tuple(walk.told_items()), tuple(knot))
 
 
@@ -122,7 +122,7 @@ def reached_stuck(net, n, thing):
     if not is_tuple_of(thing, "stuck", 4) or not isinstance(thing[3], tuple):
         return None
     reached = _reached_by(net, n, thing)
-    if reached is None or not is_knot(reached.moment, list(thing[3]), reached.movers):
+    if reached is None or not is_knot(reached.moment, list(thing[3]), reached.moving):
         return None
     return reached
 

@@ -15,9 +15,9 @@ class Run:
         self.moment = walk.moment
         self.is_endless = self.course.total_steps is None
         self.is_enough = not walk.waits_for_room()
-        self._movers = walk.movers
-        self._lost = lost(walk.moment, walk.movers)
-        self._knots = knots(walk.moment, walk.movers)
+        self._movers = walk.moving
+        self._lost = lost(walk.moment, walk.moving)
+        self._knots = knots(walk.moment, walk.moving)
 
     @property
     def movers(self):

@@ -18,7 +18,7 @@ class Search:
 
     def __init__(self, net, n):
         self.net = net
-        self.start = begin(net, n, least_possible(net))
+        self.begun = begin(net, n, least_possible(net))
         self.floor = least_numbers(net)
         self.least = []
         self.corners = []
@@ -46,13 +46,13 @@ class Search:
 
     def _walk(self, numbers):
         # Where only the end counts, the eager walk is the one that seldom goes too far.
-        return walk_from(with_rooms(self.start, rooms_from(self.net.stores, numbers)), True)
+        return walk_from(with_rooms(self.begun, rooms_from(self.net.stores, numbers)), True)
 
     def _stuck(self, walk, at):
         """The numbers up to which a knot of a walk stays: the knot for which the one at an index is greatest."""
         found = []
-        for knot in knots(walk.moment, walk.movers):
-            corner = corner_of(walk.moment, knot, walk.movers)
+        for knot in knots(walk.moment, walk.moving):
+            corner = corner_of(walk.moment, knot, walk.moving)
             # A knot may stay beyond the largest room, but not without limit.
             near = {store: min(corner[store], LARGEST_ROOM) for store in corner}
             found.append(tuple([near.get(store, NO_LIMIT) for store in self.net.stores]))

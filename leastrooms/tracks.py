@@ -87,9 +87,13 @@ class Change:
             return sum([self._rank_drift(part) for part in name])
         fill = self.fills.get(name, 0)
         growth = self.growth.get(name, 0)
+        if word == "rest":
+            return growth - fill
+        if word == "over":
+            return fill - growth
         if word == "even":
             return -abs(growth - fill)
-        return {"rest": growth - fill, "over": fill - growth, "fill": -fill, "top": -growth}[word]
+        return -fill if word == "fill" else -growth
 
     def _rank_drift(self, part):
         store, by_room, by_fill = part

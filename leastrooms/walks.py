@@ -47,7 +47,7 @@ class Walk:
         self.track = Track(moment)
         self.moves = []
         self.many = 0
-        self.movers = []
+        self.moving = []
         # The moment behind all moves, or ahead of the item without end.
         self.moment = None
         self._go()
@@ -63,7 +63,7 @@ class Walk:
 
     def waits_for_room(self):
         """Whether some process waits for room for ever."""
-        others = [process for process in self.moment.net.processes if process not in self.movers]
+        others = [process for process in self.moment.net.processes if process not in self.moving]
         waits = [self.moment.wait(process) for process in others]
         return any([wait is not None and wait[0] == "full" for wait in waits])
 
@@ -129,7 +129,7 @@ class Walk:
         for one in self._found_since(marks, self.track.spots):
             if is_right_without_end(self.track, one.change) and self._depth_since(one.mark) <= DEEPEST:
                 self._make(one, None, _without_bound(one.slacks, one.change))
-                self.movers = sorted(one.change.gains)
+                self.moving = sorted(one.change.gains)
                 self.moment = Moment(self.track.scene, one.mark.held[0], one.mark.held[1])
                 return True
         return False
