@@ -8,6 +8,7 @@ from leastrooms.tracks import Track, change_since, is_right_without_end, merged,
 
 MOST_MOVES = 2000
 LOOKED_AT = 60
+LOOKED_AT_EAGERLY = 300
 
 
 class Move:
@@ -39,7 +40,7 @@ class Found:
 class Walk:
     """The moves from a moment to the end, or to an item that is right without end.
 
-    An eager one looks again for items behind each item that it makes.
+    An eager one looks further back, and looks again for items behind each item that it makes.
     """
 
     def __init__(self, moment, is_eager):
@@ -139,7 +140,8 @@ class Walk:
         found = []
         slacks = {}
         at = len(self.moves)
-        for mark in reversed(list(marks[-LOOKED_AT:])):
+        latest = LOOKED_AT_EAGERLY if self.is_eager else LOOKED_AT
+        for mark in reversed(list(marks[-latest:])):
             change = change_since(self.track, mark.held, processes)
             if change is not None:
                 for move in self.moves[mark.ahead:at]:
