@@ -209,10 +209,11 @@ class MethodTest(Case):
         self.assertEqual(run(mixed, 0, Rooms({})).course.total_steps, 10 ** 8)
 
     def test_too_long(self):
-        # A round has 88 steps that nothing makes shorter: the places ahead of it are forgotten at its end.
-        net = Net({"ann": (loop(2, Row([("work", 1)] * 29)) + Row([("work", 2)] * 28)) * "n"})
-        self.assertEqual(run(net, 20, Rooms({})).course.total_steps, 20 * 86)
-        self.assertEqual(self.fails(TooLong, run, net, FAR, Rooms({})).args, ())
+        # Loops of two rounds are never made an item, so a round has 400 steps; that is too far to look back.
+        net = Net({"ann": loop(2, loop(2, loop(2, Row([("work", 1)] * 50)))) * "n"})
+        self.assertEqual(run(net, 5, Rooms({})).course.total_steps, 2000)
+        self.assertEqual(self.fails(TooLong, run, net, 6, Rooms({})).args, ())
+        self.fails(TooLong, run, net, FAR, Rooms({}))
 
     def test_moves_up_to_the_last_one(self):
         # Loops of two rounds are never made an item: K is at least 2, and the last round leaves the loop.
