@@ -69,6 +69,16 @@ def corner_of(moment, knot, movers=()):
     return corner
 
 
+def helpers_of(moment, reason):
+    """The processes that could end a wait: the sender, or the takers of what is in the store."""
+    word, name = reason
+    if word == "empty":
+        return [moment.net.sender(name)]
+    holding = [channel for channel in moment.net.channels_in(name) if moment.level(channel) > 0]
+    takers = [moment.net.taker(channel) for channel in holding]
+    return [taker for taker in takers if taker is not None]
+
+
 def _check_movers(moment, movers):
     """Raise BadGroup if movers are no list or tuple of different processes of the moment's net."""
     if not isinstance(movers, (list, tuple)):
@@ -117,18 +127,8 @@ def _needs(moment, movers):
     for process in moment.net.processes:
         reason = moment.wait(process)
         if process not in gone and reason is not None:
-            needs[process] = [helper for helper in _helpers(moment, reason) if helper not in gone]
+            needs[process] = [helper for helper in helpers_of(moment, reason) if helper not in gone]
     return needs
-
-
-def _helpers(moment, reason):
-    """The processes that could end a wait: the sender, or the takers of what is in the store."""
-    word, name = reason
-    if word == "empty":
-        return [moment.net.sender(name)]
-    holding = [channel for channel in moment.net.channels_in(name) if moment.level(channel) > 0]
-    takers = [moment.net.taker(channel) for channel in holding]
-    return [taker for taker in takers if taker is not None]
 
 
 def _is_knot(moment, thing, movers):

@@ -1,7 +1,7 @@
 """Papers: what shows others that rooms are enough, or that they are not, and who checks it."""
 
 from leastrooms.courses import Course, follow_traced, movers_of
-from leastrooms.ends import is_knot, knots
+from leastrooms.ends import helpers_of, is_knot, knots
 from leastrooms.errors import BadCourse, BadVector, NotRight, NotSo, TooMany
 from leastrooms.moments import begin
 from leastrooms.nets import check_net
@@ -81,7 +81,8 @@ def waits_in(net, n, paper):
         raise NotSo(paper)
     for process in paper[3]:
         word, name = reached.moment.wait(process)
-        yield process, word, name, _helpers(reached.moment, word, name)
+        helpers = helpers_of(reached.moment, (word, name))
+        yield process, word, name, tuple(sorted(set(helpers)))
 
 
 def certificate(net, n):
@@ -162,15 +163,6 @@ def _reached_by(net, n, paper):
     except (BadCourse, NotRight):
         return None
     return Reached(moment, movers_of(course), trace)
-
-
-def _helpers(moment, word, name):
-    """The processes that could end a wait, ascending."""
-    if word == "empty":
-        return (moment.net.sender(name),)
-    holding = [channel for channel in moment.net.channels_in(name) if moment.level(channel) > 0]
-    takers = [moment.net.taker(channel) for channel in holding]
-    return tuple(sorted(set([taker for taker in takers if taker is not None])))
 
 
 def _verdict_on(floor, enough, stuck):
