@@ -17,8 +17,8 @@ class Followed:
         self.change = change
 
     def is_like(self, other):
-        """Whether another one, at another n, goes the same way."""
-        if self.route is not None or other.route is not None:
+        """Whether another one, of the same step or item at another n, goes the same way."""
+        if self.route is not None:
             return self.route == other.route
         return self.goes == other.goes or self.change.is_like(other.change)
 

@@ -107,9 +107,7 @@ def _is_alike(net, first, step, paper, start, low, high):
 
 
 def _goes_like(one, other):
-    """Whether two courses go the same way."""
-    if len(one.trace) != len(other.trace):
-        return False
+    """Whether two courses of the same form go the same way."""
     return all([followed.is_like(further) for followed, further in zip(one.trace, other.trace)])
 
 

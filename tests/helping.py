@@ -186,6 +186,24 @@ def crossing_net(chance, endless=False):
     return Net(programs, None, stores)
 
 
+def thick_net(chance):
+    """The same with several messages at once, and other ones at the other end."""
+    processes = ["ann", "bob", "cid"][:chance.randint(2, 3)]
+    pieces = {process: [] for process in processes}
+    for channel in "pqrst"[:chance.randint(1, 4)]:
+        sender, taker = chance.sample(processes, 2)
+        for _ in range(chance.choice((1, 1, 2))):
+            k, count, other = chance.choice((1, 2, 3)), chance.choice((1, 2, 3)), chance.choice((1, 2, 3))
+            sides = [(k, count * other), (other, count * k)]
+            if chance.random() < 0.7:
+                sides = [(one, f"{rounds}n" if rounds > 1 else "n") for one, rounds in sides]
+            pieces[sender].append(loop(sides[0][1], send(channel, sides[0][0])))
+            pieces[taker].append(loop(sides[1][1], take(channel, sides[1][0])))
+    for process in processes:
+        chance.shuffle(pieces[process])
+    return Net({process: joined(chance, pieces[process]) for process in processes})
+
+
 def joined(chance, pieces):
     """The pieces one behind another, sometimes several of them again in a loop."""
     row = Row()

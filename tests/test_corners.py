@@ -12,7 +12,7 @@ from leastrooms.nets import Net
 from leastrooms.rooms import Rooms, least_possible, without_limit
 from leastrooms.rows import Row, forever, loop, send, take, work
 from leastrooms.runs import run
-from tests.helping import Case, chance_net, chances, crossing_net, strange_values
+from tests.helping import Case, chance_net, chances, crossing_net, strange_values, thick_net
 from tests.playing import is_enough_by_steps
 
 FAR = 10 ** 30
@@ -123,7 +123,7 @@ class LeastRoomsTest(Case):
         several = 0
         for seed in range(240):
             chance = random.Random(seed)
-            net = crossing_net(chance) if seed % 2 else chance_net(chance)
+            net = (crossing_net, chance_net, thick_net)[seed % 3](chance)
             if len(net.stores) > 4:
                 continue
             n = chance.choice((0, 1, 2, 3))
@@ -166,7 +166,7 @@ class LeastRoomsTest(Case):
 
     def test_far_nets_by_chance(self):
         for chance in chances(80, 71):
-            net = crossing_net(chance, chance.random() < 0.3)
+            net = thick_net(chance) if chance.random() < 0.3 else crossing_net(chance, chance.random() < 0.3)
             n = chance.choice((10 ** 12, FAR))
             least, most = least_rooms(net, n), corners(net, n)
             self.look_at(net, n, least, most)

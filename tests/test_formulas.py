@@ -14,7 +14,7 @@ from leastrooms.rooms import Rooms
 from leastrooms.rows import Row, forever, loop, send, take, work
 from leastrooms.straight import numbers_at
 from leastrooms.vectors import greatest_short, is_nowhere_greater, least_beyond
-from tests.helping import Case, Strange, chance_net, chances, crossing_net, strange_values
+from tests.helping import Case, Strange, chance_net, chances, crossing_net, strange_values, thick_net
 
 FAR = 10 ** 30
 
@@ -154,7 +154,7 @@ class FormulasTest(Case):
     def test_nets_by_chance(self):
         straight = 0
         for chance in chances(70, 91):
-            net = crossing_net(chance, chance.random() < 0.3) if chance.random() < 0.5 else chance_net(chance, 0.2)
+            net = chance.choice((lambda one: crossing_net(one, one.random() < 0.3), thick_net, chance_net))(chance)
             try:
                 found = formulas(net)
             except (NotStraight, TooLong):

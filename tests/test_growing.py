@@ -14,7 +14,7 @@ from leastrooms.nets import Net
 from leastrooms.rooms import Rooms, least_possible, without_limit
 from leastrooms.rows import Row, forever, loop, send, take, work
 from leastrooms.runs import run
-from tests.helping import Case, chance_net, chance_rooms, chances, crossing_net, strange_values
+from tests.helping import Case, chance_net, chance_rooms, chances, crossing_net, strange_values, thick_net
 
 FAR = 10 ** 30
 MOST = 10 ** 200
@@ -179,7 +179,7 @@ class GrowTest(Case):
     def test_against_running_again(self):
         counted = {"grown": 0, "short": 0, "forced": 0, "free": 0}
         for chance in chances(180, 95):
-            net = crossing_net(chance, chance.random() < 0.2) if chance.random() < 0.6 else chance_net(chance, 0.2)
+            net = chance.choice((crossing_net, thick_net, lambda one: chance_net(one, 0.2)))(chance)
             n = chance.choice((0, 1, 3, 6, 13, 20))
             prices = {store: chance.randint(0, 3) for store in net.stores}
             for policy in [Policy(), Narrow(), Wide(), Cheap(prices)]:
@@ -208,7 +208,7 @@ class GrowTest(Case):
 
     def test_far_nets_by_chance(self):
         for chance in chances(60, 96):
-            net = crossing_net(chance)
+            net = chance.choice((crossing_net, thick_net))(chance)
             for policy in [Policy(), Narrow(), Wide(), Cheap({store: chance.randint(0, 3) for store in net.stores})]:
                 found = grow(net, FAR, least_possible(net), policy)
                 self.assertTrue(is_enough(net, FAR, found.rooms))

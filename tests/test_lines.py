@@ -5,10 +5,13 @@ import unittest
 
 from leastrooms.errors import BadLine, BadNet, BadNumber, BadPaper
 from leastrooms.lines import Line, is_lined, paper_at
+from leastrooms.moments import begin
 from leastrooms.nets import Net
 from leastrooms.papers import is_enough_paper, is_stuck_paper
+from leastrooms.rooms import least_possible
 from leastrooms.rows import Row, forever, loop, send, take, work
-from tests.helping import Case, Strange, strange_values
+from leastrooms.spans import ends_of_spans
+from tests.helping import Case, Strange, chance_net, chances, strange_values
 
 MOST = 10 ** 400
 FAR = 10 ** 30
@@ -154,10 +157,46 @@ class PaperAtTest(Case):
     def test_wrong_m(self):
         self.keeps_all(BadNumber, NO_INTEGERS + [-1, FAR + 1] + strange_values(), lambda m: paper_at(enough_lined(), m))
 
+    def test_wrong_m_for_a_paper_without_lines(self):
+        self.keeps_all(BadNumber, [-1, True, None, FAR + 1], lambda m: paper_at(("enough", (), ()), m))
+
     def test_nothing_changes(self):
         paper = enough_lined(1)
         paper_at(paper, 5)
         self.assertEqual(paper, enough_lined(1))
+
+
+class SpansTest(Case):
+    def test_where_processes_begin(self):
+        several = 0
+        for chance in chances(300, 31):
+            net = chance_net(chance, 0.3) if chance.random() < 0.5 else self.late_net(chance)
+            first, step = chance.randint(0, 12), chance.randint(1, 9)
+            places = []
+            for m in range(40):
+                now = begin(net, first + step * m, least_possible(net))
+                places.append([now.place(process)[0::2] for process in net.processes])
+            breaks = [m for m in range(1, 40) if places[m] != places[m - 1]]
+            found = ends_of_spans(net, first, step)
+            self.assertEqual(found, list(zip([0] + breaks, [m - 1 for m in breaks] + [(FAR - first) // step])))
+            several += len(breaks) > 1
+        self.assertGreater(several, 15)
+
+    def late_net(self, chance):
+        """A process whose loops begin one behind another, the last ones ahead."""
+        row = Row()
+        for _ in range(chance.randint(1, 4)):
+            count = (chance.randint(0, 3), chance.randint(-20, 0))
+            inner = loop((1, chance.randint(-9, 1)), work(1)) if chance.random() < 0.5 else work(2)
+            row = row + loop(count if count[0] else (0, chance.randint(0, 1)), inner)
+        return Net({"ann": row + chance.choice((Row(), work(3), forever(loop("n-5", work(4))))), "bob": work(1)})
+
+    def test_near_to_the_last_n(self):
+        net = Net({"ann": loop((1, 3 - FAR), work(1)) + work(2)})
+        self.assertEqual(ends_of_spans(net, FAR - 5, 1), [(0, 2), (3, 5)])
+        self.assertEqual(ends_of_spans(net, FAR - 2, 1), [(0, 2)])
+        self.assertEqual(ends_of_spans(net, FAR - 3, 3), [(0, 0), (1, 1)])
+        self.assertEqual(ends_of_spans(Net({"ann": loop((1, -FAR), work(1))}), 0, 1), [(0, FAR)])
 
 
 class IsLinedTest(Case):
@@ -229,6 +268,25 @@ class IsLinedTest(Case):
         self.assertTrue(is_stuck_paper(stuck, 3, ("stuck", (3, 1), (), ("ann",))))
         self.assertIs(is_lined(stuck, 0, 1, ("stuck", (Line(3), Line(1)), (), ("ann",))), False)
         self.assertIs(is_lined(stuck, 11, 1, ("stuck", (Line(3), Line(1)), (), ("ann",))), True)
+
+    def test_a_way_that_is_another_one_in_between(self):
+        # Right up to n = 5 and from 10 on, but not in between, where another loop is gone through.
+        net = Net({"ann": work(5) + loop("n-9", work(1) + take("x")) + loop("n-5", work(3)) + work(2) + take("x")})
+        paper = ("enough", (Line(1),), ("ann", "ann"))
+        right = [is_enough_paper(net, n, paper_at(paper, 0)) for n in (0, 5, 6, 9, 10, FAR)]
+        self.assertEqual(right, [True, True, False, False, True, True])
+        self.assertIs(is_lined(net, 0, 1, paper), False)
+        self.assertIs(is_lined(net, 10, 1, paper), True)
+        # The same, but the loop stands at the beginning.
+        ahead = Net({"ann": loop("n-9", work(1) + take("x")) + loop("n-5", work(3)) + work(2) + take("x")})
+        self.assertIs(is_lined(ahead, 0, 1, ("enough", (Line(1),), ("ann",))), False)
+        self.assertIs(is_lined(ahead, 0, 9, ("enough", (Line(1),), ("ann",))), False)
+
+    def test_the_last_round_or_one_more(self):
+        # Behind its step ann goes into the next round of the inner loop, of the outer one, or on.
+        net = Net({"ann": loop("n-7", loop("n-3", work(1))) + take("x")})
+        for first, items in [(8, (times(Line(4, 1), "ann"), "ann", times(Line(4, 1), "ann"), "ann")), (8, ("ann", "ann"))]:
+            self.assertIs(is_lined(net, first, 1, ("enough", (Line(1),), items)), False)
 
     def test_the_same_k_or_the_same_change(self):
         # Each go of the outer item takes another number of steps, and there are more and more of them.

@@ -208,6 +208,19 @@ class MethodTest(Case):
         mixed = Net({"ann": (Row([("work", 1)] * 40) + loop(30, work(1) + work(2))) * 10 ** 6})
         self.assertEqual(run(mixed, 0, Rooms({})).course.total_steps, 10 ** 8)
 
+    def test_rounds_that_are_longer_than_the_method_looks_back(self):
+        # 86 steps that nothing makes shorter: more than the 60 places of the method, but not too far.
+        net = Net({"ann": (loop(2, Row([("work", 1)] * 29)) + Row([("work", 2)] * 28)) * "n"})
+        self.fails(TooLong, Walk, begin(net, FAR, Rooms({})), False)
+        self.assertEqual(run(net, FAR, Rooms({})).course.total_steps, 86 * FAR)
+
+    def test_levels_that_come_back_only_behind_an_item(self):
+        net = Net({"ann": loop("3n", send("c", 2)), "bob": loop("2n", take("c", 3))})
+        for room in range(3, 30):
+            found = run(net, FAR, Rooms({"c": room}))
+            self.assertEqual([found.state("ann"), found.state("bob"), found.moment.level("c")],
+                             ["ended", "ended", 0] if room > 3 else ["full", "empty", 2])
+
     def test_too_long(self):
         # Loops of two rounds are never made an item, so a round has 400 steps; that is too far to look back.
         net = Net({"ann": loop(2, loop(2, loop(2, Row([("work", 1)] * 50)))) * "n"})
