@@ -4,10 +4,9 @@ from math import gcd
 
 from leastrooms.beating import rounds_of, steps_of_round
 from leastrooms.errors import BadBeats, BadNumber, BadPace, NotSo
-from leastrooms.papers import is_tuple_of
 from leastrooms.rings import order_without_rings, pace_of, rise_of, slowest_ring
 from leastrooms.rooms import check_rooms
-from leastrooms.words import is_between, is_integer
+from leastrooms.words import is_between, is_integer, is_tuple_of
 
 MOST_ROUNDS = 200
 

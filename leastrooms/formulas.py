@@ -5,13 +5,13 @@ from leastrooms.errors import BadNumber, NotStraight, TooLong
 from leastrooms.lines import LONGEST_STEP, Line, is_lined
 from leastrooms.linings import Linings
 from leastrooms.nets import check_net
-from leastrooms.papers import is_told, is_tuple_of
+from leastrooms.papers import is_told
 from leastrooms.rooms import NO_LIMIT
 from leastrooms.searches import Search
 from leastrooms.spans import last_of
 from leastrooms.straight import is_known_at, lines_through, numbers_at
 from leastrooms.vectors import least_numbers, rooms_from
-from leastrooms.words import LARGEST_NUMBER, check_number, is_between
+from leastrooms.words import LARGEST_NUMBER, check_number, is_between, is_tuple_of
 
 LONGEST_PERIOD = 4
 LATEST_START = 24

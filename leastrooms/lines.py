@@ -3,9 +3,9 @@
 from leastrooms.errors import BadLine, BadNumber, BadPaper
 from leastrooms.items import MOST_ITEMS, shape_of
 from leastrooms.nets import check_net
-from leastrooms.papers import is_tuple_of, reached_enough, reached_stuck
+from leastrooms.papers import reached_enough, reached_stuck
 from leastrooms.spans import ends_of_spans
-from leastrooms.words import LARGEST_NUMBER, check_number, is_between, is_integer
+from leastrooms.words import LARGEST_NUMBER, check_number, is_between, is_integer, is_tuple_of
 
 MOST = 10 ** 50 * 10 ** 50 * 10 ** 50 * 10 ** 50 * 10 ** 50 * 10 ** 50 * 10 ** 50 * 10 ** 50
 LONGEST_STEP = 9

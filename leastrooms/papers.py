@@ -9,7 +9,7 @@ from leastrooms.rooms import NO_LIMIT, Rooms, check_rooms, is_room
 from leastrooms.searches import MOST_TOLD, Search
 from leastrooms.vectors import is_nowhere_greater, least_beyond, least_numbers, numbers_in, vector_from
 from leastrooms.walks import walk_from
-from leastrooms.words import check_number
+from leastrooms.words import check_number, is_tuple_of
 
 
 class Reached:
@@ -135,11 +135,6 @@ def is_vector(net, thing):
     if not all([is_room(room) for room in thing]):
         return False
     return is_nowhere_greater(least_numbers(net), numbers_in(thing))
-
-
-def is_tuple_of(thing, word, many):
-    """Whether a value is a tuple of so many things, this word ahead."""
-    return isinstance(thing, tuple) and len(thing) == many and isinstance(thing[0], str) and thing[0] == word
 
 
 def is_told(thing):

@@ -1,4 +1,4 @@
-"""What words, integers and numbers are, wherever they are told."""
+"""What words, integers, numbers and tuples that begin with a word are, wherever they are told."""
 
 from leastrooms.errors import BadNumber
 
@@ -31,3 +31,8 @@ def check_number(n):
 def is_among(thing, words):
     """Whether a value, of any kind, is one of some words."""
     return isinstance(thing, str) and thing in words
+
+
+def is_tuple_of(thing, word, many):
+    """Whether a value is a tuple of so many things, this word ahead."""
+    return isinstance(thing, tuple) and len(thing) == many and isinstance(thing[0], str) and thing[0] == word

@@ -96,6 +96,15 @@ class FormulasTest(Case):
         self.assertEqual([told(endless.least_lines(0)), told(endless.corner_lines(0))], [[{"c": None}], [{"c": str(10 ** 200)}]])
         self.assertEqual(endless.least_lines(0)[0]["c"], None)
 
+    def test_numbers_that_could_go_on_in_several_ways(self):
+        # All of the same sum at each n: near n alone do not tell which of them go on as which.
+        net = Net({"ann": loop(9, send("c")) + send("d"), "bob": take("d") + loop(9, take("x")),
+                   "cid": forever(take("c") + send("x"))})
+        found = formulas(net)
+        self.assertEqual([found.period, found.start, len(found.least_lines(0)), len(found.corner_lines(0))], [1, 0, 7, 6])
+        self.assertEqual(told(found.least_lines(0)), [{"c": str(c), "d": "1", "x": str(8 - c)} for c in range(1, 8)])
+        self.look_at(net, found)
+
     def test_the_order_of_the_lines(self):
         net = Net({"ann": loop("3n-4", send("c")) + loop(20, take("d")), "bob": loop(20, send("d")) + loop("3n-4", take("c"))})
         found = formulas(net)
@@ -273,27 +282,50 @@ class CoverTest(unittest.TestCase):
         return True
 
     def test_lines_by_chance(self):
-        counted = {True: 0, False: 0}
-        for seed in range(3000):
+        counted = {True: 0, False: 0, "later": 0}
+        for seed in range(4000):
             chance = random.Random(seed)
-            many = chance.randint(1, 2)
             last = chance.randint(0, 9)
-            floor = (1,) * many
-            stuck = [tuple(self.line(chance) for _ in range(many)) for _ in range(chance.randint(0, 2))]
-            # What covers at the last m, as lines that perhaps cover at all others.
-            enough = []
-            for numbers in least_beyond([numbers_at(vector, last) for vector in stuck], floor, 100):
-                vector = []
-                for at, number in enumerate(numbers):
-                    lines = [one[at] + 1 for one in stuck if one[at] is not None and one[at](last) + 1 == number]
-                    vector.append(chance.choice(lines) if lines and number > 1 else Line(number) if number <= 10 ** 200 else None)
-                enough.append(tuple(vector))
+            floor = (1,) * chance.randint(1, 3)
+            stuck = [tuple(self.line(chance) for _ in floor) for _ in range(chance.randint(0, 3))]
             if any(line is not None and (line(0) < 1 or line(last) < 1) for vector in stuck for line in vector):
                 continue
-            answer = is_covered(floor, last, enough, stuck)
-            self.assertEqual(answer, self.at_each(floor, last, enough, stuck))
+            # What covers at one m, as lines that perhaps cover at all others.
+            base = chance.choice((0, 0, last, last // 2))
+            enough = [tuple(self.line_of(stuck, at, number, base) for at, number in enumerate(numbers))
+                      for numbers in least_beyond([numbers_at(vector, base) for vector in stuck], floor, 100)]
+            answer = self.at_each(floor, last, enough, stuck)
+            self.assertEqual(is_covered(floor, last, enough, stuck), answer, seed)
             counted[answer] += 1
-        self.assertGreater(min(counted.values()), 200)
+            counted["later"] += not answer and self.at_each(floor, 0, enough, stuck)
+        self.assertGreater(min(counted.values()), 50)
+
+    def line_of(self, stuck, at, number, m):
+        """The line of a store that is this number at m, if it tells what one more than a stuck number is."""
+        lines = [one[at] + 1 for one in stuck if one[at] is not None and one[at](m) + 1 == number]
+        if number == 1 or not lines:
+            return Line(number) if number <= 10 ** 200 else None
+        return lines[0]
+
+    def test_right_at_both_ends_and_wrong_between(self):
+        stuck = [(Line(5, 1), Line(20, -1)), (Line(15, -1), Line(10, 1))]
+        enough = [(Line(1), Line(21)), (Line(6), Line(11)), (Line(16), Line(1))]
+        for last, answer in [(0, True), (1, False), (10, False), (11, False)]:
+            self.assertEqual(self.at_each((1, 1), last, enough, stuck), answer)
+            self.assertEqual(is_covered((1, 1), last, enough, stuck), answer)
+
+    def test_far_crossings(self):
+        # The falling number becomes as small as the one that stays, at just one m or between two of them.
+        for stays in (FAR, FAR + 1, FAR + 2, FAR // 7):
+            for slope in (1, 2, 3):
+                falling = Line(4 * FAR, -slope)
+                stuck = [(Line(stays), Line(2, 1)), (falling, Line(1))]
+                enough = [(Line(1), Line(3, 1)), (Line(stays + 1), Line(2)), (falling + 1, Line(1))]
+                crossing = -((stays - 4 * FAR) // slope)
+                self.assertTrue(falling.at_zero - slope * crossing <= stays < falling.at_zero - slope * (crossing - 1))
+                self.assertTrue(is_covered((1, 1), crossing - 1, enough, stuck))
+                self.assertFalse(is_covered((1, 1), crossing, enough, stuck))
+                self.assertFalse(is_covered((1, 1), crossing + 10, enough, stuck))
 
     def line(self, chance):
         return None if chance.random() < 0.2 else Line(chance.randint(1, 9), chance.choice((0, 0, 1, 2, -1)))
