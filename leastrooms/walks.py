@@ -40,7 +40,7 @@ class Found:
 class Walk:
     """The moves from a moment to the end, or to an item that is right without end.
 
-    An eager one looks further back, and looks again for items behind each item that it makes.
+    An eager one comes to an end more often: it looks further back, and looks again behind each item.
     """
 
     def __init__(self, moment, is_eager):
@@ -77,7 +77,7 @@ class Walk:
             if not self._end_without_end(marks):
                 marks = self._fold(marks, self.track.spots)
                 # Behind an item that was made, all may stand as it once stood, though not ahead of it.
-                if self._end_without_end(marks):
+                if self.is_eager and self._end_without_end(marks):
                     return
                 marks.append(self._mark())
 
