@@ -76,25 +76,25 @@ class Search:
         walk = self._walk(_with(numbers, at, NO_LIMIT))
         if walk.waits_for_room():
             return self._stuck(walk, at)
-        return self._extended_below(numbers, at, self._most_at(walk, at))
+        return self._extended_below(numbers, at, self._most_at(walk, at, NO_LIMIT))
 
     def _extended_below(self, numbers, at, high):
         """The same as _extended_at, where high is enough at this index."""
-        step = 1
+        # The answer is often near to one of both ends, so the steps from there are small at first.
+        steps = [1, 1]
         is_above = True
         while high - numbers[at] > 1:
-            # The answer is often near to one of both ends, so the steps from there are small at first.
-            tried = high - step if is_above else numbers[at] + step
-            if 4 * step >= high - numbers[at]:
+            tried = high - steps[0] if is_above else numbers[at] + steps[1]
+            if 4 * max(steps) >= high - numbers[at]:
                 tried = (high + numbers[at]) // 2
-            elif not is_above:
-                step = 2 * step
-            is_above = not is_above
             tried, walk = self._walk_near(numbers, at, tried, high)
             if walk.waits_for_room():
                 numbers = self._stuck(walk, at)
             else:
-                high = tried
+                high = self._most_at(walk, at, tried)
+            steps[0 if is_above else 1] = 2 * steps[0 if is_above else 1]
+            # Nothing is near to the greatest room but this room itself.
+            is_above = not is_above and high < LARGEST_ROOM
         return numbers
 
     def _walk_near(self, numbers, at, tried, high):
@@ -107,12 +107,10 @@ class Search:
                     continue
         raise TooLong()
 
-    def _most_at(self, walk, at):
-        """A number that is enough at an index where that many are enough; NO_LIMIT if only no limit is known to be."""
+    def _most_at(self, walk, at, number):
+        """A number that is enough at an index where this one is, the least one that the run tells."""
         most = walk.most_in(self.net.stores[at])
-        if most is None or most > LARGEST_ROOM:
-            return NO_LIMIT
-        return max(most, self.floor[at])
+        return number if most is None else min(number, max(most, self.floor[at]))
 
 
 def _with(numbers, at, number):

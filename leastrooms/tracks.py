@@ -105,11 +105,13 @@ def change_since(track, mark, processes):
     spots, levels = mark
     gains = {}
     for process in processes:
-        depth, more = _gain_between(spots[process], track.spots[process])
-        if more is None:
-            return None
-        if more > 0:
-            gains[process] = (depth, more)
+        spot = spots[process]
+        behind = track.spots[process]
+        if spot != behind:
+            gain = _gain_between(spot, behind)
+            if gain is None:
+                return None
+            gains[process] = gain
     drifts = {}
     fills = {}
     for channel, level in levels.items():
@@ -164,14 +166,17 @@ def stretched(slacks, change, goes):
 
 
 def _gain_between(spot, behind):
-    """The depth of the one loop of which more rounds are done, and how many more; 0 if none, None if all is other."""
-    if spot == behind:
-        return 0, 0
-    if spot[0] != behind[0]:
-        return 0, None
-    depths = [depth for depth, many in enumerate(spot[1]) if behind[1][depth] != many]
-    more = behind[1][depths[0]] - spot[1][depths[0]]
-    return (depths[0], more) if len(depths) == 1 and more > 0 else (0, None)
+    """The depth of the one loop of which more rounds are done, and how many more; None if more than that is other."""
+    index, done = spot
+    further, now = behind
+    if index != further:
+        return None
+    depth = 0
+    while done[depth] == now[depth]:
+        depth = depth + 1
+    if done[depth] > now[depth] or done[depth + 1:] != now[depth + 1:]:
+        return None
+    return depth, now[depth] - done[depth]
 
 
 def _is_of_forever(track, process, change):

@@ -58,9 +58,13 @@ class Walk:
         return [move.item for move in self.moves]
 
     def most_in(self, store):
-        """The most that was at once in a store without limit behind sends; None if it grows for ever."""
-        lefts = [move.slacks[("fill", store)] for move in self.moves if ("fill", store) in move.slacks]
-        return None if None in lefts else -min(lefts + [0])
+        """The most that was at once in a store behind sends, 0 without any; None if it grows for ever."""
+        limit = self.track.scene.limits[store]
+        key = ("fill", store) if limit is None else ("rest", store)
+        lefts = [move.slacks[key] for move in self.moves if key in move.slacks]
+        if None in lefts:
+            return None
+        return (0 if limit is None else limit) - min(lefts) if lefts else 0
 
     def waits_for_room(self):
         """Whether some process waits for room for ever."""
@@ -74,11 +78,13 @@ class Walk:
             if not self._cycle():
                 self.moment = self.track.now()
                 return
-            if not self._end_without_end(marks):
-                marks = self._fold(marks, self.track.spots)
+            found = self._found_since(marks, self.track.spots)
+            before = self.many
+            if not self._end_without_end(found):
+                marks = self._fold(marks, found, self.track.spots)
                 # Behind an item that was made, all may stand as it once stood, though not ahead of it.
-                if self.is_eager and self._end_without_end(marks):
-                    return
+                if self.is_eager and self.many > before:
+                    self._end_without_end(self._found_since(marks, self.track.spots))
                 marks.append(self._mark())
 
     def _cycle(self):
@@ -98,22 +104,22 @@ class Walk:
             _, behind = self.track.spots[process]
             if stop.totals[:1] == (None,) and behind[:1] != done[:1]:
                 return
-            marks = self._fold(marks, [process])
+            marks = self._fold(marks, self._found_since(marks, [process]), [process])
 
-    def _fold(self, marks, processes):
+    def _fold(self, marks, found, processes):
         """Make the item with the greatest K, if there is one, and return the marks that stay."""
         before = self.many
-        marks = self._fold_once(marks, processes, 2)
+        marks = self._fold_once(marks, found, 2)
         while self.is_eager and self.many > before:
             before = self.many
-            marks = self._fold_once(marks, processes, 1)
+            marks = self._fold_once(marks, self._found_since(marks, processes), 1)
         return marks
 
-    def _fold_once(self, marks, processes, unbound):
+    def _fold_once(self, marks, found, unbound):
         """The same, but only once; unbound is K where it has no bound."""
         best = None
         most = 1
-        for one in self._found_since(marks, processes):
+        for one in found:
             goes = most_goes(self.track, one.mark.held, one.change, one.slacks)
             goes = unbound if goes is None else min(goes, LARGEST_ROOM)
             if goes > most and self._depth_since(one.mark) <= DEEPEST:
@@ -125,9 +131,9 @@ class Walk:
         self.track.shift(best.change, most - 1)
         return [mark for mark in marks if mark.ahead <= best.mark.ahead]
 
-    def _end_without_end(self, marks):
+    def _end_without_end(self, found):
         """Make the item without end, if there is one, and tell whether there is."""
-        for one in self._found_since(marks, self.track.spots):
+        for one in found:
             if is_right_without_end(self.track, one.change) and self._depth_since(one.mark) <= DEEPEST:
                 self._make(one, None, _without_bound(one.slacks, one.change))
                 self.moving = sorted(one.change.gains)
