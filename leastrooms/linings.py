@@ -4,10 +4,11 @@ from leastrooms.ends import knots
 from leastrooms.errors import TooLong
 from leastrooms.lines import is_lined, line_between
 from leastrooms.moments import begin, with_rooms
+from leastrooms.papers import is_vector
 from leastrooms.rooms import least_possible
 from leastrooms.spans import last_of
 from leastrooms.straight import numbers_at
-from leastrooms.vectors import rooms_from
+from leastrooms.vectors import rooms_from, vector_from
 from leastrooms.walks import Walk
 
 
@@ -44,6 +45,9 @@ class Linings:
         return self.told[key]
 
     def _new_paper(self, word, n, numbers, is_eager):
+        # Lines through near rooms may lead far below the least ones.
+        if not is_vector(self.net, vector_from(numbers)):
+            return None
         if n not in self.starts:
             self.starts[n] = begin(self.net, n, least_possible(self.net))
         try:

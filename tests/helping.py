@@ -204,6 +204,21 @@ def thick_net(chance):
     return Net({process: joined(chance, pieces[process]) for process in processes})
 
 
+def bending_net(chance):
+    """A net made by chance whose processes go other ways from some n on: plain loops, and loops that begin late."""
+    processes = ["ann", "bob", "cid"][:chance.randint(2, 3)]
+    pieces = {process: [] for process in processes}
+    for channel in "pqrst"[:chance.randint(1, 3)]:
+        sender, taker = chance.sample(processes, 2)
+        for make, process in ((send, sender), (take, taker)):
+            for _ in range(chance.choice((1, 1, 2))):
+                count = chance.choice((3, 8, 12, 15, "n", "n", "2n", "n-3", "n-9", "3n-8"))
+                pieces[process].append(loop(count, make(channel, chance.choice((1, 1, 1, 2)))))
+    for process in processes:
+        chance.shuffle(pieces[process])
+    return Net({process: joined(chance, pieces[process]) for process in processes})
+
+
 def joined(chance, pieces):
     """The pieces one behind another, sometimes several of them again in a loop."""
     row = Row()

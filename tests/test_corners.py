@@ -12,7 +12,7 @@ from leastrooms.nets import Net
 from leastrooms.rooms import Rooms, least_possible, without_limit
 from leastrooms.rows import Row, forever, loop, send, take, work
 from leastrooms.runs import run
-from tests.helping import Case, chance_net, chances, crossing_net, strange_values, thick_net
+from tests.helping import Case, bending_net, chance_net, chances, crossing_net, strange_values, thick_net
 from tests.playing import is_enough_by_steps
 
 FAR = 10 ** 30
@@ -123,7 +123,7 @@ class LeastRoomsTest(Case):
         several = 0
         for seed in range(240):
             chance = random.Random(seed)
-            net = (crossing_net, chance_net, thick_net)[seed % 3](chance)
+            net = (crossing_net, chance_net, thick_net, bending_net)[seed % 4](chance)
             if len(net.stores) > 4:
                 continue
             n = chance.choice((0, 1, 2, 3))

@@ -14,7 +14,7 @@ from leastrooms.rooms import Rooms
 from leastrooms.rows import Row, forever, loop, send, take, work
 from leastrooms.straight import numbers_at
 from leastrooms.vectors import greatest_short, is_nowhere_greater, least_beyond
-from tests.helping import Case, Strange, chance_net, chances, crossing_net, strange_values, thick_net
+from tests.helping import Case, Strange, bending_net, chance_net, chances, crossing_net, strange_values, thick_net
 
 FAR = 10 ** 30
 
@@ -85,6 +85,16 @@ class FormulasTest(Case):
         self.assertEqual([found.least_at(8)[0]["c"], found.corners_at(8), found.least_at(9)[0]["c"], found.corners_at(9)[0]["c"]],
                          [1, [], 2, 1])
         self.look_at(Net({"ann": loop("n-7", send("c"))}), found)
+
+    def test_rooms_that_become_less(self):
+        # bob takes n of 20 messages ahead of d: up to n = 19 the lines that seem to go on lead below 0.
+        net = Net({"ann": loop(20, send("c")) + send("d"), "bob": loop("n", take("c")) + take("d") + loop(20, take("c"))})
+        found = formulas(net)
+        self.assertEqual([found.period, found.start, told(found.least_lines(0))], [1, 19, [{"c": "1", "d": "1"}]])
+        self.assertEqual([found.least_at(n)[0]["c"] for n in (0, 1, 18, 19, FAR)], [20, 19, 2, 1, 1])
+        self.look_at(net, found)
+        further = Net({"ann": loop(90, send("c")) + send("d"), "bob": loop("n", take("c")) + take("d") + loop(90, take("c"))})
+        self.fails(NotStraight, formulas, further)
 
     def test_rooms_that_are_always_the_same(self):
         for net in [Net({"ann": Row()}), Net({"ann": forever(work(1)), "bob": loop("n", work(2))}),
@@ -162,15 +172,15 @@ class FormulasTest(Case):
 
     def test_nets_by_chance(self):
         straight = 0
-        for chance in chances(70, 91):
-            net = chance.choice((lambda one: crossing_net(one, one.random() < 0.3), thick_net, chance_net))(chance)
+        for chance in chances(80, 91):
+            net = chance.choice((lambda one: crossing_net(one, one.random() < 0.3), thick_net, bending_net, chance_net))(chance)
             try:
                 found = formulas(net)
             except (NotStraight, TooLong):
                 continue
             straight += 1
             self.look_at(net, found, (10 ** 15, FAR))
-        self.assertGreater(straight, 50)
+        self.assertGreater(straight, 40)
 
     def test_each_list_is_new(self):
         found = formulas(crossed())

@@ -14,7 +14,7 @@ from leastrooms.nets import Net
 from leastrooms.rooms import Rooms, least_possible, without_limit
 from leastrooms.rows import Row, forever, loop, send, take, work
 from leastrooms.runs import run
-from tests.helping import Case, chance_net, chance_rooms, chances, crossing_net, strange_values, thick_net
+from tests.helping import Case, bending_net, chance_net, chance_rooms, chances, crossing_net, strange_values, thick_net
 
 FAR = 10 ** 30
 MOST = 10 ** 200
@@ -179,7 +179,7 @@ class GrowTest(Case):
     def test_against_running_again(self):
         counted = {"grown": 0, "short": 0, "forced": 0, "free": 0}
         for chance in chances(180, 95):
-            net = chance.choice((crossing_net, thick_net, lambda one: chance_net(one, 0.2)))(chance)
+            net = chance.choice((crossing_net, thick_net, bending_net, lambda one: chance_net(one, 0.2)))(chance)
             n = chance.choice((0, 1, 3, 6, 13, 20))
             prices = {store: chance.randint(0, 3) for store in net.stores}
             for policy in [Policy(), Narrow(), Wide(), Cheap(prices)]:
