@@ -62,18 +62,25 @@ def _raise_on(found, left, now, caps, needed, most):
     if not left:
         found.append(now)
         return
-    first = left[0]
-    for at in range(len(now)):
-        if at in needed:
-            continue
-        levels = sorted(set([numbers[at] + 1 for numbers in left if numbers[at] >= first[at]]))
-        for level in levels:
+    # The one for which fewest can still be raised shows soonest where nothing is to be found.
+    open_for = [_open_for(numbers, caps, needed) for numbers in left]
+    many = [len(indexes) for indexes in open_for]
+    first = left[many.index(min(many))]
+    for at in open_for[many.index(min(many))]:
+        levels = sorted(set([numbers[at] + 1 for numbers in left if first[at] <= numbers[at] < caps[at]]))
+        # The greatest level leaves the least to do: so the first ones are found soon.
+        for level in reversed(list(levels)):
             further = _needed_behind(needed, left, at, level)
-            if level <= caps[at] and all([further[key] for key in further]) and len(found) < most:
+            if all([further[key] for key in further]) and len(found) < most:
                 behind = [numbers for numbers in left if numbers[at] >= level]
                 _raise_on(found, behind, now[:at] + (level,) + now[at + 1:], caps, further, most)
         # What this index could have done for the first one, the next ones do alone: nothing is found twice.
         caps = caps[:at] + (min(caps[at], first[at]),) + caps[at + 1:]
+
+
+def _open_for(numbers, caps, needed):
+    """The indexes that can still be raised beyond numbers."""
+    return [at for at, number in enumerate(numbers) if number < caps[at] and at not in needed]
 
 
 def _needed_behind(needed, left, at, level):

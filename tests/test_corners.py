@@ -292,11 +292,27 @@ class DualTest(Case):
         self.fails(TooMany, least_above, self.net(2), stairs[:60])
         self.fails(TooMany, greatest_below, self.net(2), stairs[:62])
         self.assertEqual(len(greatest_below(self.net(2), stairs[:60])), 60)
+        # Many of them that each limit few stores, where most ways lead to nothing.
+        for seed in range(20):
+            chance = random.Random(seed)
+            sparse = [self.rooms(*[chance.randint(1, 100) if store in chance.sample(range(6), 2) else None for store in range(6)])
+                      for _ in range(60)]
+            least = self.told_or_none(least_above, self.net(6), sparse)
+            if least is not None:
+                self.assertEqual(least_above(self.net(6), greatest_below(self.net(6), least)), least)
+        single = [Rooms({**dict.fromkeys("abcdef"), store: number}) for store in "abcdef" for number in range(1, 40)]
+        self.assertEqual(told(least_above(self.net(6), single)), [[(store, 40) for store in "abcdef"]])
         # Far more than sixty on the way, and in the end.
         chance = random.Random(1)
         wide = [self.rooms(*[chance.randint(1, 9) for _ in range(12)]) for _ in range(60)]
         self.fails(TooMany, least_above, self.net(12), wide)
         self.fails(TooMany, greatest_below, self.net(12), wide)
+
+    def told_or_none(self, call, *given):
+        try:
+            return call(*given)
+        except TooMany:
+            return None
 
     def test_wrong_lists(self):
         net = self.net(2)
