@@ -41,10 +41,12 @@ class Walk:
     """The moves from a moment to the end, or to an item that is right without end.
 
     An eager one comes to an end more often: it looks further back, and looks again behind each item.
+    In an even one each turn is a single step, so that no process runs far ahead of the others.
     """
 
-    def __init__(self, moment, is_eager):
+    def __init__(self, moment, is_eager, is_even=False):
         self.is_eager = is_eager
+        self.is_even = is_even
         self.track = Track(moment)
         self.moves = []
         self.many = 0
@@ -102,7 +104,7 @@ class Walk:
             _, done = self.track.spots[process]
             self._add(Move(process, self.track.step(process), 0))
             _, behind = self.track.spots[process]
-            if stop.totals[:1] == (None,) and behind[:1] != done[:1]:
+            if self.is_even or (stop.totals[:1] == (None,) and behind[:1] != done[:1]):
                 return
             marks = self._fold(marks, self._found_since(marks, [process]), [process])
 
@@ -178,11 +180,18 @@ class Walk:
 
 
 def walk_from(moment, is_eager=False):
-    """The Walk from a moment on, of this kind if it comes to an end, else of the other one; else TooLong."""
+    """The Walk from a moment on: of this kind if it comes to an end, else of another one; else TooLong."""
     try:
         return Walk(moment, is_eager)
     except TooLong:
-        return Walk(moment, not is_eager)
+        return _other_walk(moment, not is_eager)
+
+
+def _other_walk(moment, is_eager):
+    try:
+        return Walk(moment, is_eager)
+    except TooLong:
+        return Walk(moment, True, True)
 
 
 def _without_bound(slacks, change):

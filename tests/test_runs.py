@@ -221,6 +221,18 @@ class MethodTest(Case):
             self.assertEqual([found.state("ann"), found.state("bob"), found.moment.level("c")],
                              ["ended", "ended", 0] if room > 3 else ["full", "empty", 2])
 
+    def test_processes_that_run_ahead_by_more_and_more(self):
+        # In each turn both go one step less far than in the one ahead, so no two cycles are alike.
+        net = Net({"ann": (loop("n", send("q")) + loop("n", take("r")) + take("p") * 2) * "n",
+                   "bob": (loop("n", send("r")) + send("p") * 2 + loop("n", take("q"))) * "n"})
+        rooms = Rooms({"p": 3, "q": FAR, "r": FAR - 1})
+        for is_eager in (False, True):
+            self.fails(TooLong, Walk, begin(net, FAR, rooms), is_eager)
+        found = run(net, FAR, rooms)
+        self.assertEqual([found.state("ann"), found.state("bob")], ["ended", "ended"])
+        self.assertEqual(found.course.total_steps, 4 * FAR * (FAR + 1))
+        self.assertEqual(follow(begin(net, FAR, rooms), found.course), found.moment)
+
     def test_too_long(self):
         # Loops of two rounds are never made an item, so a round has 400 steps; that is too far to look back.
         net = Net({"ann": loop(2, loop(2, loop(2, Row([("work", 1)] * 50)))) * "n"})
@@ -239,9 +251,23 @@ class MethodTest(Case):
     def test_no_course_has_more_items_than_moves(self):
         for chance in chances(100, 61):
             net = chance_net(chance, 0.5)
-            walk = Walk(begin(net, 3, chance_rooms(chance, net)), chance.random() < 0.5)
+            walk = Walk(begin(net, 3, chance_rooms(chance, net)), chance.random() < 0.5, chance.random() < 0.3)
             self.assertEqual(Course(walk.told_items()).size, walk.many)
             self.assertLessEqual(walk.many, MOST_MOVES)
+
+    def test_all_kinds_of_walks_end_alike(self):
+        for chance in chances(150, 62):
+            net = chance_net(chance, 0.4)
+            start = begin(net, chance.randint(0, 4), chance_rooms(chance, net))
+            walks = [Walk(start, False), Walk(start, True), Walk(start, False, True), Walk(start, True, True)]
+            for walk in walks:
+                self.assertEqual(follow(start, Course(walk.told_items())), walk.moment)
+                self.assertEqual(walk.moving, walks[0].moving)
+                for process in net.processes:
+                    if process not in walk.moving:
+                        self.assertEqual(walk.moment.place(process), walks[0].moment.place(process))
+                if not walk.moving:
+                    self.assertEqual(walk.moment, walks[0].moment)
 
 
 if __name__ == "__main__":
