@@ -32,8 +32,13 @@ STATEMENTS = (
     ast.Assign, ast.AugAssign, ast.If, ast.While, ast.For, ast.Return, ast.Break, ast.Continue, ast.Pass, ast.Raise,
     ast.Assert, ast.Delete, ast.Nonlocal, ast.With, ast.Try, ast.Expr, ast.FunctionDef,
 )
-LIBRARY = {"math": {"gcd", "lcm", "isqrt", "comb", "perm", "factorial"}}
+LIBRARY = {
+    "math": {"gcd", "lcm", "isqrt", "comb", "perm", "factorial"},
+    "heapq": {"heappush", "heappop", "heapify", "heapreplace", "heappushpop"},
+}
 OF_BUILTINS = {name for kind in (str, int, list, dict, set, bytes) for name in dir(kind) if not name.startswith("_")}
+# L26: methods may have these names of methods of builtin values.
+FREE_METHODS = {"add", "copy", "count", "discard", "find", "index", "get", "join", "split", "strip"}
 FOLDING = {"any", "all", "min", "max", "sum", "sorted"}
 
 
@@ -159,12 +164,34 @@ def faults_of_names(tree):
         for method in methods:
             if method.name in stored:
                 yield method.lineno, f"L18 {method.name} is a method and an attribute"
-            if method.name in OF_BUILTINS:
+            if method.name in OF_BUILTINS - FREE_METHODS:
                 yield method.lineno, f"L26 {method.name} is a method of builtin values"
     used = {alias.name for node in tree.body if isinstance(node, ast.ImportFrom) for alias in node.names}
     used -= {node.id for node in ast.walk(tree) if isinstance(node, ast.Name)}
     for name in sorted(used):
         yield 1, f"{name} is imported and not used"
+
+
+def methods_of(tree):
+    """Tuples of the class, the name and the decorators of each method."""
+    for node in tree.body:
+        for inner in node.body if isinstance(node, ast.ClassDef) else ():
+            if isinstance(inner, ast.FunctionDef):
+                yield node.name, inner.name, [told.id for told in inner.decorator_list if isinstance(told, ast.Name)]
+
+
+def faults_of_both(trees):
+    """Faults of names that are methods in one class and attributes in another."""
+    stored = {}
+    for path, tree in trees.items():
+        for node in ast.walk(tree):
+            if isinstance(node, ast.Attribute) and isinstance(node.ctx, ast.Store):
+                stored.setdefault(node.attr, (path, node.lineno))
+    for path, tree in trees.items():
+        for _, name, decorators in methods_of(tree):
+            # What is a property here may be an attribute there.
+            if name in stored and "property" not in decorators:
+                yield stored[name][0], stored[name][1], f"L18 {name} is a method elsewhere"
 
 
 def is_generator(function):
@@ -222,7 +249,7 @@ def main():
             many += 1
             print(f"{path}:{number}: {fault}")
     trees = {path: ast.parse(path.read_text(encoding="utf-8")) for path in sorted(pathlib.Path(PACKAGE).glob("*.py"))}
-    for path, number, fault in faults_of_generators(trees):
+    for path, number, fault in list(faults_of_generators(trees)) + list(faults_of_both(trees)):
         many += 1
         print(f"{path}:{number}: {fault}")
     return 1 if many else 0

@@ -1,9 +1,9 @@
 """Counts: how many rounds a loop has, told by a number n."""
 
 from leastrooms.errors import BadCount, BadText
+from leastrooms.figures import figures_of
 from leastrooms.words import LARGEST_NUMBER, check_number, is_between, is_integer
 
-FIGURES = "0123456789"
 # No text of a count is longer: "9n-1" and thirty noughts have thirty-four signs.
 LONGEST_TEXT = 34
 
@@ -80,16 +80,9 @@ def _read_freely(text):
     """The count that a text seems to tell; the caller looks whether it is one, and written so."""
     head, letter, tail = text.partition("n")
     if letter == "":
-        return (0, _figures(text))
-    a = 1 if head == "" else _figures(head)
+        return (0, figures_of(text, LONGEST_TEXT))
+    a = 1 if head == "" else figures_of(head, LONGEST_TEXT)
     if tail == "":
         return (a, 0)
-    b = _figures(tail[1:])
+    b = figures_of(tail[1:], LONGEST_TEXT)
     return (a, -b if tail[0] == "-" and b is not None else b)
-
-
-def _figures(text):
-    """The number that figures tell, None for other texts."""
-    if text == "" or not all([sign in FIGURES for sign in text]):
-        return None
-    return int(text)

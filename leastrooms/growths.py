@@ -14,8 +14,8 @@ MOST_GROWTHS = 300
 class GrowthMark:
     """A moment at which all wait, with its rooms, and how many moves stand ahead of it."""
 
-    def __init__(self, held, rooms, ahead):
-        self.held = held
+    def __init__(self, seen, rooms, ahead):
+        self.seen = seen
         self.rooms = rooms
         self.ahead = ahead
 
@@ -85,14 +85,14 @@ class Growths:
         slacks = {}
         at = len(self.moves)
         for mark in reversed(list(marks)):
-            change = change_since(track, mark.held, track.spots)
+            change = change_since(track, mark.seen, track.spots)
             growth = _growth_between(mark.rooms, self.moment.rooms)
             if change is not None and growth is not None and self._depth_since(mark) <= DEEPEST:
                 change.growth = growth
                 for move in self.moves[mark.ahead:at]:
                     slacks = merged(slacks, move.slacks)
                 at = mark.ahead
-                goes = most_goes(track, mark.held, change, slacks)
+                goes = most_goes(track, mark.seen, change, slacks)
                 if goes is not None and goes > 1:
                     return mark, change, goes
         return None, None, 0

@@ -18,7 +18,7 @@ class Linings:
     def __init__(self, net):
         self.net = net
         self.starts = {}
-        self.told = {}
+        self.kept = {}
 
     def lined(self, word, vector, first, step):
         """A lined paper of this kind with a tuple of Lines and None; None if the runs tell none."""
@@ -40,9 +40,9 @@ class Linings:
     def _paper(self, word, n, numbers, is_eager):
         """The items of a run and, if it is stuck, its knot; None if there is no such run, or it is too long."""
         key = (word, n, numbers, is_eager)
-        if key not in self.told:
-            self.told[key] = self._new_paper(word, n, numbers, is_eager)
-        return self.told[key]
+        if key not in self.kept:
+            self.kept[key] = self._new_paper(word, n, numbers, is_eager)
+        return self.kept[key]
 
     def _new_paper(self, word, n, numbers, is_eager):
         # Lines through near rooms may lead far below the least ones.

@@ -19,11 +19,10 @@ class Row:
         if not isinstance(parts, (list, tuple)):
             raise BadRow(parts)
         kept = tuple(parts)
-        many = _how_many(kept, 0)
-        if many > MOST_PARTS or not _goes_on_last(kept):
+        if not are_parts_of_row(kept):
             raise BadRow(parts)
         self.parts = kept
-        self.size = many
+        self.size = _how_many(kept, 0)
 
     def __add__(self, other):
         check_row(other)
@@ -84,6 +83,11 @@ def messages(row, n):
             before = sums.get(key, 0)
             sums[key] = None if before is None or times is None else before + times * part[2]
     return sums
+
+
+def are_parts_of_row(thing):
+    """Whether a value is a row of parts."""
+    return isinstance(thing, tuple) and _how_many(thing, 0) <= MOST_PARTS and _goes_on_last(thing)
 
 
 def check_row(row):

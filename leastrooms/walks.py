@@ -23,8 +23,8 @@ class Move:
 class Mark:
     """A moment of a walk that may become the beginning of an item, and how many moves stand ahead of it."""
 
-    def __init__(self, held, ahead):
-        self.held = held
+    def __init__(self, seen, ahead):
+        self.seen = seen
         self.ahead = ahead
 
 
@@ -122,7 +122,7 @@ class Walk:
         best = None
         most = 1
         for one in found:
-            goes = most_goes(self.track, one.mark.held, one.change, one.slacks)
+            goes = most_goes(self.track, one.mark.seen, one.change, one.slacks)
             goes = unbound if goes is None else min(goes, LARGEST_ROOM)
             if goes > most and self._depth_since(one.mark) <= DEEPEST:
                 best = one
@@ -139,7 +139,7 @@ class Walk:
             if is_right_without_end(self.track, one.change) and self._depth_since(one.mark) <= DEEPEST:
                 self._make(one, None, _without_bound(one.slacks, one.change))
                 self.moving = sorted(one.change.gains)
-                self.moment = Moment(self.track.scene, one.mark.held[0], one.mark.held[1])
+                self.moment = Moment(self.track.scene, one.mark.seen[0], one.mark.seen[1])
                 return True
         return False
 
@@ -150,7 +150,7 @@ class Walk:
         at = len(self.moves)
         latest = LOOKED_AT_EAGERLY if self.is_eager else LOOKED_AT
         for mark in reversed(list(marks[-latest:])):
-            change = change_since(self.track, mark.held, processes)
+            change = change_since(self.track, mark.seen, processes)
             if change is not None:
                 for move in self.moves[mark.ahead:at]:
                     slacks = merged(slacks, move.slacks)

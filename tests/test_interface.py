@@ -6,7 +6,9 @@ import types
 import unittest
 
 from leastrooms.beats import Beats
+from leastrooms.changes import Draft
 from leastrooms.courses import Course
+from leastrooms.engine import Engine
 from leastrooms.formulas import formulas
 from leastrooms.growing import Policy, grow
 from leastrooms.lines import Line
@@ -51,6 +53,18 @@ FUNCTIONS = {
         "rounds_in": "(net)", "events_in": "(net)", "is_as_fast": "(one, other)", "pace_paper": "(beats)",
         "is_pace_paper": "(beats, thing)",
     },
+    "trades": {
+        "fastest": "(net)", "trades": "(net)", "pace_at": "(net, rooms)", "best_within": "(net, total)",
+        "room_for": "(net, pace)",
+    },
+    "changes": {
+        "is_change": "(thing)", "cut": "(row, n, steps)", "steps_in_row": "(row, n)", "fates": "(net, n, rooms)",
+        "fates_after": "(net, n, rooms, process, steps)", "difference": "(net, other, n)",
+    },
+    "engine": {"tried": "(engine, processes, keep=True)", "judge_record": "(engine, record)"},
+    "journals": {
+        "write_journal": "(entries)", "read_journal": "(text)", "recover": "(text)", "resume": "(engine, text)",
+    },
 }
 CLASSES = {
     "rows": {"Row": ("(parts=())", ["__add__", "__mul__", "__eq__", "__str__"])},
@@ -64,6 +78,10 @@ CLASSES = {
         "Wide": ("()", ["__call__", "rank"]), "Cheap": ("(prices)", ["__call__", "rank"]),
     },
     "beats": {"Beats": ("(net, rooms)", ["begins"])},
+    "changes": {"Draft": ("(net)", ["__rshift__"])},
+    "engine": {"Engine": ("(net, n, rooms, seeds=None, fold=None)", [
+        "held", "stream", "waiting", "step", "play", "copy", "trial",
+    ])},
     "rooms": {"Rooms": ("(values)", ["__getitem__", "pairs", "raised", "__or__", "__and__", "fits", "__eq__"])},
 }
 
@@ -98,7 +116,8 @@ class InterfaceTest(unittest.TestCase):
                              (run(net, 0, rooms), ["course", "moment", "is_endless", "movers", "lost", "knots", "is_enough"]),
                              (Line(1), ["at_zero", "slope"]), (formulas(net), ["period", "start"]),
                              (grow(net, 0, rooms, Policy()), ["rooms", "many", "is_forced", "picks"]),
-                             (beats, ["net", "rooms", "events", "waits", "pace"])]:
+                             (beats, ["net", "rooms", "events", "waits", "pace"]), (Draft(net), ["net", "changes"]),
+                             (Engine(net, 0, rooms), ["moment", "log"])]:
             for name in names:
                 self.assertFalse(callable(getattr(thing, name)), name)
 
@@ -124,6 +143,10 @@ class InterfaceTest(unittest.TestCase):
                                 ("corners_at", "(n)"), ("papers", "()")]:
             self.assertEqual(str(inspect.signature(getattr(found, name))), arguments)
         self.assertEqual(str(inspect.signature(Beats.begins)), "(self, rounds)")
+        for name, arguments in [("held", "(self, process)"), ("stream", "(self, channel)"), ("waiting", "(self, channel)"),
+                                ("step", "(self, process)"), ("play", "(self, order=None, most=1000)"), ("copy", "(self)"),
+                                ("trial", "(self)")]:
+            self.assertEqual(str(inspect.signature(getattr(Engine, name))), arguments)
 
     def test_the_state_of_a_run(self):
         net = Net({"ann": send("c"), "bob": take("c")})
