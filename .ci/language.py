@@ -173,25 +173,22 @@ def faults_of_names(tree):
 
 
 def methods_of(tree):
-    """Tuples of the class, the name and the decorators of each method."""
-    for node in tree.body:
-        for inner in node.body if isinstance(node, ast.ClassDef) else ():
-            if isinstance(inner, ast.FunctionDef):
-                yield node.name, inner.name, [told.id for told in inner.decorator_list if isinstance(told, ast.Name)]
+    """The names of the methods and properties of the classes of a file."""
+    classes = [node for node in tree.body if isinstance(node, ast.ClassDef)]
+    return [inner.name for node in classes for inner in node.body if isinstance(inner, ast.FunctionDef)]
 
 
 def faults_of_both(trees):
-    """Faults of names that are methods in one class and attributes in another."""
+    """Faults of names that are methods or properties in one class and attributes in another."""
     stored = {}
     for path, tree in trees.items():
         for node in ast.walk(tree):
             if isinstance(node, ast.Attribute) and isinstance(node.ctx, ast.Store):
                 stored.setdefault(node.attr, (path, node.lineno))
     for path, tree in trees.items():
-        for _, name, decorators in methods_of(tree):
-            # What is a property here may be an attribute there.
-            if name in stored and "property" not in decorators:
-                yield stored[name][0], stored[name][1], f"L18 {name} is a method elsewhere"
+        for name in methods_of(tree):
+            if name in stored:
+                yield stored[name][0], stored[name][1], f"L18 {name} is a method or a property elsewhere"
 
 
 def is_generator(function):

@@ -19,12 +19,12 @@ class Beats:
         rhythm = Rhythm(net)
         check_rooms(net, rooms)
         waits = rhythm.waits_with(dict(rooms.pairs()))
-        order = order_without_rings(len(rhythm.events), waits)
+        order = order_without_rings(len(rhythm.round_events), waits)
         if order is None:
             raise NotSo(rooms)
         self.net = net
         self.rooms = rooms
-        self._events = rhythm.events
+        self._events = rhythm.round_events
         self._lengths = rhythm.lengths
         self._waits = waits
         self._order = order

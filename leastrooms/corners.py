@@ -18,7 +18,7 @@ def is_enough(net, n, rooms):
 
 def least_rooms(net, n):
     """All least Rooms that are enough, ascending."""
-    return _all_rooms(net, Search(net, n).least)
+    return _all_rooms(net, Search(net, n).enough)
 
 
 def corners(net, n):

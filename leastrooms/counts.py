@@ -34,7 +34,7 @@ def format_count(count):
 
 def parse_count(text):
     """The count of a text that format_count writes."""
-    count = _read(text)
+    count = read_count(text)
     if count is None:
         raise BadText(text)
     return count
@@ -46,7 +46,7 @@ def count_of(thing):
     if is_integer(thing):
         count = (0, thing)
     elif isinstance(thing, str):
-        count = _read(thing)
+        count = read_count(thing)
     if not is_count(count):
         raise BadCount(thing)
     return count
@@ -65,7 +65,7 @@ def _written(count):
     return f"{head}{b:+}" if b != 0 else head
 
 
-def _read(text):
+def read_count(text):
     """The count that a text tells; None if it is not written just as counts are."""
     # The length comes first: Python refuses to read numbers of thousands of figures.
     if not isinstance(text, str) or len(text) > LONGEST_TEXT:

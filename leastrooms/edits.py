@@ -4,11 +4,10 @@ from leastrooms.cuts import first_parts
 from leastrooms.errors import BadNet, BadRow
 from leastrooms.nets import Net
 from leastrooms.rows import Row, channels_of, inner_parts, is_round, single_parts
-from leastrooms.words import is_among
 
 
 class Told:
-    """What a net is made of: its programs, its first messages, and the stores that channels share."""
+    """What a net is made of: its programs, how many first messages there are, and the stores that channels share."""
 
     def __init__(self, programs, levels, stores):
         self.programs = programs
@@ -20,7 +19,7 @@ def net_behind(net, change):
     """The net behind a change; None if the change names what it can't name, or no net comes out."""
     try:
         told = _told_behind(net, change)
-        return None if told is None else _net_of(told)
+        return None if told is None else net_of(told)
     except (BadNet, BadRow):
         return None
 
@@ -43,21 +42,20 @@ def _told_behind(net, change):
 
 
 def _told_of(net):
-    levels = {channel: net.first(channel) for channel in net.channels if net.first(channel) > 0}
-    shared = [store for store in net.stores if not is_among(store, net.channels)]
     return Told(
-        {process: net.row(process) for process in net.processes}, levels,
-        {store: net.channels_in(store) for store in shared},
+        {process: net.row(process) for process in net.processes},
+        {channel: net.first(channel) for channel in net.channels},
+        {store: net.channels_in(store) for store in net.stores if store not in net.channels},
     )
 
 
-def _net_of(told):
-    """The Net; what is told of channels that no program names is left out."""
+def net_of(told):
+    """The Net that is made of this; what is told of channels that no program names is left out."""
     named = [channel for row in told.programs.values() for channel in channels_of(row)]
     stores = {store: [channel for channel in told.stores[store] if channel in named] for store in told.stores}
     return Net(
         told.programs,
-        {channel: told.levels[channel] for channel in told.levels if channel in named},
+        {channel: k for channel, k in told.levels.items() if channel in named and k > 0},
         {store: stores[store] for store in stores if len(stores[store]) > 1},
     )
 
@@ -71,8 +69,7 @@ def _with_row(net, told, process, parts):
 def _with_first(net, told, channel, k):
     if channel not in net.channels:
         return None
-    others = {other: told.levels[other] for other in told.levels if other != channel}
-    return Told(told.programs, {**others, channel: k} if k > 0 else others, told.stores)
+    return Told(told.programs, {**told.levels, channel: k}, told.stores)
 
 
 def _joined(net, told, store, channels):

@@ -28,7 +28,7 @@ class Known:
         """A tuple of two lists of tuples of numbers, both in order."""
         if n not in self.table:
             search = Search(self.net, n)
-            self.table[n] = (search.least, search.corners)
+            self.table[n] = (search.enough, search.corners)
         return self.table[n]
 
 

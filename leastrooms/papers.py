@@ -88,7 +88,7 @@ def waits_in(net, n, paper):
 def certificate(net, n):
     """A certificate with the vectors of all least rooms and of all corners."""
     search = Search(net, n)
-    enough = [enough_paper(net, n, _rooms_at(net, vector_from(numbers))) for numbers in search.least]
+    enough = [enough_paper(net, n, _rooms_at(net, vector_from(numbers))) for numbers in search.enough]
     stuck = [stuck_paper(net, n, _rooms_at(net, vector_from(numbers))) for numbers in search.corners]
     return ("certificate", tuple(enough), tuple(stuck))
 

@@ -8,11 +8,11 @@ class Rhythm:
 
     def __init__(self, net):
         self.net = net
-        self.events = events_of(net)
-        self.lengths = [_length_of(part) for _, part in self.events]
+        self.round_events = events_of(net)
+        self.lengths = [_length_of(part) for _, part in self.round_events]
         # Of each channel: the event of each message that is sent, and that is taken, in one round.
-        self.sends = {channel: _messages_by(self.events, "send", channel) for channel in net.channels}
-        self.takes = {channel: _messages_by(self.events, "take", channel) for channel in net.channels}
+        self.sends = {channel: _messages_by(self.round_events, "send", channel) for channel in net.channels}
+        self.takes = {channel: _messages_by(self.round_events, "take", channel) for channel in net.channels}
         self.firm = _firm_waits(self)
 
     def waits_with(self, limits):
@@ -30,12 +30,12 @@ class Rhythm:
 
     def store_between(self, wait):
         """The store in which a wait is for room; None if it is for something else."""
-        word, channel = self.events[wait[0]][1][:2]
-        return channel if word == "take" and self.events[wait[1]][1][:2] == ("send", channel) else None
+        word, channel = self.round_events[wait[0]][1][:2]
+        return channel if word == "take" and self.round_events[wait[1]][1][:2] == ("send", channel) else None
 
     def ring_of_first(self):
         """The waits of the first process for itself."""
-        many = len([event for event in self.events if event[0] == self.events[0][0]])
+        many = len([event for event in self.round_events if event[0] == self.round_events[0][0]])
         return [(at, at + 1, 0) for at in range(many - 1)] + [(many - 1, 0, 1)]
 
 
@@ -58,7 +58,7 @@ def _firm_waits(rhythm):
     """The waits of each event for the one ahead of it, and of each take for its last message."""
     found = []
     for process in rhythm.net.processes:
-        own = [at for at, event in enumerate(rhythm.events) if event[0] == process]
+        own = [at for at, event in enumerate(rhythm.round_events) if event[0] == process]
         found.extend([(ahead, at, 0) for ahead, at in zip(own, own[1:])])
         found.append((own[-1], own[0], 1))
     for channel in rhythm.net.channels:

@@ -20,7 +20,7 @@ class Search:
         self.net = net
         self.begun = begin(net, n, least_possible(net))
         self.floor = least_numbers(net)
-        self.least = []
+        self.enough = []
         self.corners = []
         left = [self.floor]
         while left:
@@ -28,8 +28,8 @@ class Search:
                 self._look_at(numbers)
             # Beyond all corners that are known lie all enough rooms; among the least there, all least ones.
             above = least_beyond(self.corners, self.floor, MOST_TOLD + 1)
-            left = [numbers for numbers in above if numbers not in self.least]
-        self.least = sorted(self.least)
+            left = [numbers for numbers in above if numbers not in self.enough]
+        self.enough = sorted(self.enough)
         self.corners = sorted(self.corners)
 
     def _look_at(self, numbers):
@@ -40,8 +40,8 @@ class Search:
         if walk.waits_for_room():
             self.corners.append(self._extended(self._stuck(walk, 0)))
         else:
-            self.least.append(numbers)
-        if max(len(self.least), len(self.corners)) > MOST_TOLD:
+            self.enough.append(numbers)
+        if max(len(self.enough), len(self.corners)) > MOST_TOLD:
             raise TooMany()
 
     def _walk(self, numbers):

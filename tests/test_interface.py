@@ -7,13 +7,16 @@ import unittest
 
 from leastrooms.beats import Beats
 from leastrooms.changes import Draft
+from leastrooms.console import Console
 from leastrooms.courses import Course
+from leastrooms.desks import Desk
 from leastrooms.engine import Engine
 from leastrooms.formulas import formulas
 from leastrooms.growing import Policy, grow
 from leastrooms.lines import Line
 from leastrooms.moments import begin
 from leastrooms.nets import Net
+from leastrooms.questions import Ends, Enough, Holds, Question
 from leastrooms.rooms import Rooms
 from leastrooms.rows import Row, forever, send, take
 from leastrooms.runs import run
@@ -65,6 +68,9 @@ FUNCTIONS = {
     "journals": {
         "write_journal": "(entries)", "read_journal": "(text)", "recover": "(text)", "resume": "(engine, text)",
     },
+    "texts": {"parse_row": "(text)"},
+    "desks": {"repair": "(desk, prices)", "write_plan": "(events)", "read_plan": "(text)"},
+    "questions": {"when": "(question, desk, events)"},
 }
 CLASSES = {
     "rows": {"Row": ("(parts=())", ["__add__", "__mul__", "__eq__", "__str__"])},
@@ -82,6 +88,14 @@ CLASSES = {
     "engine": {"Engine": ("(net, n, rooms, seeds=None, fold=None)", [
         "held", "stream", "waiting", "step", "play", "copy", "trial",
     ])},
+    "desks": {"Desk": ("(net, n, rooms)", ["works", "least", "lacking", "do", "do_all"])},
+    "questions": {
+        "Question": ("()", ["__call__", "__and__", "__or__", "__invert__"]),
+        "Enough": ("()", ["__call__", "__and__", "__or__", "__invert__"]),
+        "Holds": ("(store, k)", ["__call__", "__and__", "__or__", "__invert__"]),
+        "Ends": ("(process, fate)", ["__call__", "__and__", "__or__", "__invert__"]),
+    },
+    "console": {"Console": ("()", ["run"])},
     "rooms": {"Rooms": ("(values)", ["__getitem__", "pairs", "raised", "__or__", "__and__", "fits", "__eq__"])},
 }
 
@@ -117,7 +131,8 @@ class InterfaceTest(unittest.TestCase):
                              (Line(1), ["at_zero", "slope"]), (formulas(net), ["period", "start"]),
                              (grow(net, 0, rooms, Policy()), ["rooms", "many", "is_forced", "picks"]),
                              (beats, ["net", "rooms", "events", "waits", "pace"]), (Draft(net), ["net", "changes"]),
-                             (Engine(net, 0, rooms), ["moment", "log"])]:
+                             (Engine(net, 0, rooms), ["moment", "log"]),
+                             (Desk(net, 0, rooms), ["net", "n", "rooms", "events"])]:
             for name in names:
                 self.assertFalse(callable(getattr(thing, name)), name)
 
@@ -147,6 +162,12 @@ class InterfaceTest(unittest.TestCase):
                                 ("step", "(self, process)"), ("play", "(self, order=None, most=1000)"), ("copy", "(self)"),
                                 ("trial", "(self)")]:
             self.assertEqual(str(inspect.signature(getattr(Engine, name))), arguments)
+        for name, arguments in [("works", "(self)"), ("least", "(self)"), ("lacking", "(self)"), ("do", "(self, event)"),
+                                ("do_all", "(self, events)")]:
+            self.assertEqual(str(inspect.signature(getattr(Desk, name))), arguments)
+        for question in (Question(), Enough(), Holds("c", 1), Ends("ann", "ended")):
+            self.assertEqual(str(inspect.signature(question)), "(desk)")
+        self.assertEqual(str(inspect.signature(Console.run)), "(self, line)")
 
     def test_the_state_of_a_run(self):
         net = Net({"ann": send("c"), "bob": take("c")})
