@@ -15,11 +15,10 @@ class Course:
         if not isinstance(items, (list, tuple)):
             raise BadCourse(items)
         content = tuple(items)
-        size, counts = shape_of(content)
-        if size > MOST_ITEMS or not _are_counts(content, counts):
+        if not are_items(content):
             raise BadCourse(items)
         self.content = content
-        self.size = size
+        self.size, _ = shape_of(content)
         self.total_steps = total_of(content)
 
     def __add__(self, other):
@@ -40,25 +39,38 @@ class Course:
 def follow(moment, course):
     """The moment behind a course, or behind all ahead of its item without end."""
     check_course(course)
-    return follow_traced(moment, course, [])
+    return follow_traced(moment, course.content, [])
 
 
-def follow_traced(moment, course, trace):
-    """The same as follow; all that is followed is added to the trace."""
+def follow_traced(moment, items, trace):
+    """The same as follow, by the items of a course; all that is followed is added to the trace."""
     track = Track(moment)
-    reached = moment
-    for index, item in enumerate(course.content):
+    reached = None
+    for index, item in enumerate(items):
+        if index == len(items) - 1 and is_without_end(items):
+            reached = track.now()
         if follow_item(track, item, trace) is None:
             raise NotRight(index)
-        if not is_without_end((item,)):
-            reached = track.now()
-    return reached
+    return track.now() if reached is None else reached
+
+
+def are_items(thing):
+    """Whether a value is a tuple of the items of a course."""
+    if not isinstance(thing, tuple):
+        return False
+    size, counts = shape_of(thing)
+    return size <= MOST_ITEMS and _are_counts(thing, counts)
 
 
 def movers_of(course):
     """The processes with steps in the item without end of a course, ascending."""
     check_course(course)
-    return words_of(course.content[-1:]) if is_without_end(course.content) else []
+    return movers_in(course.content)
+
+
+def movers_in(items):
+    """The processes with steps in the item without end of some items, ascending."""
+    return words_of(items[-1:]) if is_without_end(items) else []
 
 
 def check_course(course):

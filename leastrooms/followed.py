@@ -32,15 +32,15 @@ def follow_item(track, item, trace):
         if item not in track.spots or track.reason_of(item) is not None:
             return None
         return _step(track, item, trace)
-    mark = track.marked()
+    spots, levels = track.marked()
     slacks = {}
     for inner in item[2]:
         more = follow_item(track, inner, trace)
         if more is None:
             return None
-        slacks = merged(slacks, more)
-    change = change_since(track, mark, track.spots)
-    if change is None or not _may_repeat(track, mark, change, slacks, item[1]):
+        slacks = merged([slacks, more])
+    change = change_since(track, spots, levels, track.spots)
+    if change is None or not _may_repeat(track, spots, change, slacks, item[1]):
         return None
     trace.append(Followed(None, item[1], change))
     if item[1] is not None:
@@ -58,8 +58,8 @@ def _step(track, process, trace):
     return slacks
 
 
-def _may_repeat(track, mark, change, slacks, goes):
+def _may_repeat(track, spots, change, slacks, goes):
     if goes is None:
         return is_right_without_end(track, change)
-    most = most_goes(track, mark, change, slacks)
+    most = most_goes(track, spots, change, slacks)
     return most is None or goes <= most

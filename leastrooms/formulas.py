@@ -2,14 +2,16 @@
 
 from leastrooms.covers import is_covered
 from leastrooms.errors import BadNumber, NotStraight, TooLong
-from leastrooms.lines import LONGEST_STEP, Line, is_lined
+from leastrooms.lines import LONGEST_STEP, Line, is_lined_from
 from leastrooms.linings import Linings
+from leastrooms.moments import Grounds
 from leastrooms.nets import check_net
+from leastrooms.outcomes import Outcomes
 from leastrooms.papers import is_told
 from leastrooms.rooms import NO_LIMIT
 from leastrooms.searches import Search
 from leastrooms.spans import last_of
-from leastrooms.straight import is_known_at, lines_through, numbers_at
+from leastrooms.straight import beside, lines_from, moved_back, numbers_at, told_at
 from leastrooms.vectors import least_numbers, rooms_from
 from leastrooms.words import LARGEST_NUMBER, check_number, is_between, is_tuple_of
 
@@ -20,16 +22,43 @@ LATEST_START = 24
 class Known:
     """The least rooms and the corners of a net at n, as numbers; each is found once."""
 
-    def __init__(self, net):
-        self.net = net
+    def __init__(self, outcomes):
+        self.net = outcomes.grounds.net
+        self.outcomes = outcomes
         self.table = {}
 
-    def at(self, n):
-        """A tuple of two lists of tuples of numbers, both in order."""
+    def at(self, n, step=1):
+        """A tuple of two lists of tuples of numbers, both in order; step: by which n they may be straight."""
         if n not in self.table:
-            search = Search(self.net, n)
+            search = Search(self.net, n, self._straight_on(n, step))
             self.table[n] = (search.enough, search.corners)
         return self.table[n]
+
+    def are_told(self, n, told):
+        """Whether a tuple of two lists of tuples of numbers tells the same as at, but for their order."""
+        found = tuple([sorted(numbers) for numbers in told])
+        if n not in self.table:
+            if not self.outcomes.tell_all(n, found[0], found[1]):
+                return False
+            self.table[n] = found
+        return self.table[n] == found
+
+    def _straight_on(self, n, step):
+        """What are corners if these go straight on from what is known, as near as can be."""
+        for near, one, other in ((n - step, n - 2 * step, n - step), (n + step, n + 2 * step, n + step)):
+            if one in self.table and other in self.table:
+                return self._beside(near, one, other)
+        for one in self.table:
+            if one + step in self.table and n + step in self.table:
+                return self._beside(n + step, one + step, one)
+        return []
+
+    def _beside(self, near, one, other):
+        """The corners that are as far from those at near as those at other from those at one."""
+        told = [self.table[n][1] for n in (near, one, other)]
+        if len(told[0]) != len(told[1]) or len(told[0]) != len(told[2]):
+            return []
+        return [beside(numbers, before, behind) for numbers, before, behind in zip(told[0], told[1], told[2])]
 
 
 class Piece:
@@ -114,10 +143,9 @@ class Formulas:
 def formulas(net):
     """The Formulas of a net; NotStraight if no lines tell its rooms."""
     check_net(net)
-    known = Known(net)
-    linings = Linings(net)
+    known = Known(Outcomes(Grounds(net)))
     for step in range(1, LONGEST_PERIOD + 1):
-        pieces = _pieces_by(net, known, linings, step)
+        pieces = _pieces_by(known, step)
         if pieces is not None:
             return Formulas(net, known, pieces)
     raise NotStraight()
@@ -129,16 +157,20 @@ def judge_lines(net, thing):
     if not _is_formed(thing):
         return ("form",)
     first, step, enough, stuck = thing
+    grounds = Grounds(net)
     for index, paper in enumerate(enough):
-        if not is_tuple_of(paper, "enough", 3) or not is_lined(net, first, step, paper):
+        if not is_tuple_of(paper, "enough", 3) or not is_lined_from(grounds, first, step, paper):
             return ("enough", index)
     for index, paper in enumerate(stuck):
-        if not is_tuple_of(paper, "stuck", 4) or not is_lined(net, first, step, paper):
+        if not is_tuple_of(paper, "stuck", 4) or not is_lined_from(grounds, first, step, paper):
             return ("stuck", index)
+    return ("accepted",) if _tells_all(net, first, step, enough, stuck) else ("cover",)
+
+
+def _tells_all(net, first, step, enough, stuck):
+    """Whether right papers tell all least rooms and all corners."""
     vectors = [[paper[1] for paper in papers] for papers in (enough, stuck)]
-    if not is_covered(least_numbers(net), last_of(first, step), vectors[0], vectors[1]):
-        return ("cover",)
-    return ("accepted",)
+    return is_covered(least_numbers(net), last_of(first, step), vectors[0], vectors[1])
 
 
 def _is_formed(thing):
@@ -150,54 +182,61 @@ def _is_formed(thing):
     return is_told(enough) and is_told(stuck)
 
 
-def _pieces_by(net, known, linings, step):
+def _pieces_by(known, step):
     """A Piece for each rest by step, in order; None if there is none for some rest."""
     pieces = []
     for rest in range(step):
-        piece = _first_piece(net, known, linings, step, rest)
+        piece = _first_piece(known, step, rest)
         if piece is None:
             return None
         pieces.append(piece)
     return pieces
 
 
-def _first_piece(net, known, linings, step, rest):
-    for first in range(rest, LATEST_START + 1, step):
-        lines = _lines_from(known, first, step)
-        if lines is not None:
-            enough = [linings.lined("enough", vector, first, step) for vector in lines[0]]
-            stuck = [linings.lined("stuck", vector, first, step) for vector in lines[1]]
-            if None not in enough + stuck:
-                told = (first, step, tuple(enough), tuple(stuck))
-                if judge_lines(net, told) == ("accepted",):
-                    return Piece(first, step, tuple(enough), tuple(stuck))
+def _first_piece(known, step, rest):
+    last = LATEST_START - (LATEST_START - rest) % step
+    try:
+        # Lines that begin earlier go on there.
+        lines = lines_from(known, last, step)
+    except TooLong:
+        return _nearest_piece(known, step, rest)
+    if lines is None:
+        return None
+    for first in range(rest, last + 1, step):
+        piece = _piece_at(known, first, step, moved_back(lines, (last - first) // step))
+        if piece is not None:
+            return piece
+        # Whether there are lines at all is asked only where the first ones are not right.
+        if first == 0 and not _go_on(known, last, step, lines):
+            return None
     return None
 
 
-def _lines_from(known, first, step):
-    """Two lists of tuples of Lines and None that go through the rooms from first on; None if there are none."""
-    near = [known.at(first + step * m) for m in range(4)]
-    found = []
-    for kind in (0, 1):
-        points = [(m, rooms[kind]) for m, rooms in enumerate(near)]
-        lines = lines_through(points)
-        if lines is None:
-            lines = _lines_to_the_last(known, points, first, step, kind)
-        if not lines and near[0][kind]:
-            return None
-        found.append(lines)
-    return found
+def _nearest_piece(known, step, rest):
+    """The same, by lines near to each first."""
+    for first in range(rest, LATEST_START + 1, step):
+        lines = lines_from(known, first, step)
+        piece = None if lines is None else _piece_at(known, first, step, lines)
+        if piece is not None:
+            return piece
+    return None
 
 
-def _lines_to_the_last(known, points, first, step, kind):
-    """The lines where those near to first may be several; an empty list if the last ones tell no more."""
-    last = last_of(first, step)
+def _go_on(known, first, step, lines):
+    """Whether lines tell the rooms at m = 3; True if a run there is too long."""
     try:
-        further = known.at(first + step * last)[kind]
+        return known.are_told(first + 3 * step, told_at(lines, 3))
     except TooLong:
-        return []
-    lines = lines_through(points + [(last, further)])
-    return [] if lines is None else lines
+        return True
+
+
+def _piece_at(known, first, step, lines):
+    """The Piece with these lines from first on; None if they are not right there, or no linings show it."""
+    papers = Linings(known.outcomes, first, step).all_lined(lines[0], lines[1])
+    # What linings tell is right.
+    if papers is None or not _tells_all(known.net, first, step, papers[0], papers[1]):
+        return None
+    return Piece(first, step, papers[0], papers[1])
 
 
 def _shortest(pieces):
@@ -252,4 +291,4 @@ def _are_told(known, pieces, period, lines, n):
     if n >= pieces[n % len(pieces)].origin:
         return True
     m, rest = divmod(n, period)
-    return all([is_known_at(lines[rest][kind], (m, known.at(n)[kind])) for kind in (0, 1)])
+    return known.are_told(n, told_at(lines[rest], m))

@@ -14,8 +14,9 @@ MOST_GROWTHS = 300
 class GrowthMark:
     """A moment at which all wait, with its rooms, and how many moves stand ahead of it."""
 
-    def __init__(self, seen, rooms, ahead):
-        self.seen = seen
+    def __init__(self, spots, levels, rooms, ahead):
+        self.spots = spots
+        self.levels = levels
         self.rooms = rooms
         self.ahead = ahead
 
@@ -57,7 +58,7 @@ class Growths:
                 marks = [one for one in marks if one.ahead <= mark.ahead]
             else:
                 _, spots, levels = opened(self.moment)
-                marks.append(GrowthMark((spots, levels), self.moment.rooms, len(self.moves)))
+                marks.append(GrowthMark(spots, levels, self.moment.rooms, len(self.moves)))
                 store, corner = self._picked(self.moment, [])
                 self._add(Move(store, _growing_slacks(self.policy, self.moment, corner, store), 0))
                 self.moment = with_rooms(self.moment, _raised(self.moment.rooms, store, corner))
@@ -68,8 +69,7 @@ class Growths:
         self.moment = walk.moment
         if self.moves:
             last = self.moves[-1]
-            for move in walk.moves:
-                last.slacks = merged(last.slacks, move.slacks)
+            last.slacks = merged([last.slacks] + [move.slacks for move in walk.moves])
         return walk.waits_for_room()
 
     def _picked(self, moment, movers):
@@ -85,14 +85,13 @@ class Growths:
         slacks = {}
         at = len(self.moves)
         for mark in reversed(list(marks)):
-            change = change_since(track, mark.seen, track.spots)
+            change = change_since(track, mark.spots, mark.levels, track.spots)
             growth = _growth_between(mark.rooms, self.moment.rooms)
             if change is not None and growth is not None and self._depth_since(mark) <= DEEPEST:
                 change.growth = growth
-                for move in self.moves[mark.ahead:at]:
-                    slacks = merged(slacks, move.slacks)
+                slacks = merged([slacks] + [move.slacks for move in self.moves[mark.ahead:at]])
                 at = mark.ahead
-                goes = most_goes(track, mark.seen, change, slacks)
+                goes = most_goes(track, mark.spots, change, slacks)
                 if goes is not None and goes > 1:
                     return mark, change, goes
         return None, None, 0
@@ -100,9 +99,7 @@ class Growths:
     def _repeat(self, mark, change, goes):
         """Put one item in the place of the moves since a mark, and do all that it does."""
         inner = self.moves[mark.ahead:]
-        slacks = {}
-        for move in inner:
-            slacks = merged(slacks, move.slacks)
+        slacks = merged([move.slacks for move in inner])
         depth = self._depth_since(mark)
         self.moves = self.moves[:mark.ahead]
         item = ("times", goes, tuple([move.item for move in inner]))
@@ -137,9 +134,9 @@ def _growing_slacks(policy, moment, corner, store):
     """What keeps all waiting for just the same, and the same store growing by the same."""
     slacks = {("even", store): 0, ("top", store): LARGEST_ROOM - corner[store] - 1}
     for process in moment.net.processes:
-        slacks = merged(slacks, _waiting_slacks(moment, process))
+        slacks = merged([slacks, _waiting_slacks(moment, process)])
     for other in corner:
-        slacks = merged(slacks, _rank_slacks(policy, moment, corner, store, other))
+        slacks = merged([slacks, _rank_slacks(policy, moment, corner, store, other)])
     return slacks
 
 

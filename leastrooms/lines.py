@@ -2,6 +2,7 @@
 
 from leastrooms.errors import BadLine, BadNumber, BadPaper
 from leastrooms.items import MOST_ITEMS, shape_of
+from leastrooms.moments import Grounds
 from leastrooms.nets import check_net
 from leastrooms.papers import reached_enough, reached_stuck
 from leastrooms.spans import ends_of_spans
@@ -74,6 +75,11 @@ def paper_at(paper, m):
         raise BadPaper(paper)
     if not is_between(m, 0, LARGEST_NUMBER):
         raise BadNumber(m)
+    return paper_of(paper, m)
+
+
+def paper_of(paper, m):
+    """The paper that a lined paper, known to be one, is at m."""
     return (paper[0], values_at(paper[1], m), _items_at(paper[2], m)) + paper[3:]
 
 
@@ -83,11 +89,17 @@ def is_lined(net, first, step, thing):
     check_number(first)
     if not is_between(step, 1, LONGEST_STEP):
         raise BadNumber(step)
+    return is_lined_from(Grounds(net), first, step, thing)
+
+
+def is_lined_from(grounds, first, step, thing):
+    """The same as is_lined, with the Grounds of the net."""
     if not _is_formed(thing):
         return False
-    start = _reached_at(net, first, step, thing, 0)
+    start = _reached_at(grounds, first, step, thing, 0)
+    spans = ends_of_spans(grounds.net, first, step)
     return start is not None and all([
-        _is_alike(net, first, step, thing, start, low, high) for low, high in ends_of_spans(net, first, step)
+        _is_alike(grounds, first, step, thing, start, low, high) for low, high in spans
     ])
 
 
@@ -96,11 +108,11 @@ def values_at(vector, m):
     return tuple([None if line is None else line(m) for line in vector])
 
 
-def _is_alike(net, first, step, paper, start, low, high):
+def _is_alike(grounds, first, step, paper, start, low, high):
     """Whether a paper is right from low to high, in the same way as at the first m."""
     # All numbers are straight in m there, so what holds at both ends holds between.
-    one = _reached_at(net, first, step, paper, low)
-    other = _reached_at(net, first, step, paper, high)
+    one = start if low == 0 else _reached_at(grounds, first, step, paper, low)
+    other = one if low == high else _reached_at(grounds, first, step, paper, high)
     if one is None or other is None or one.told_waits() != other.told_waits():
         return False
     return _goes_like(start, one) and _goes_like(start, other)
@@ -111,12 +123,11 @@ def _goes_like(one, other):
     return all([followed.is_like(further) for followed, further in zip(one.trace, other.trace)])
 
 
-def _reached_at(net, first, step, paper, m):
+def _reached_at(grounds, first, step, paper, m):
     """Where a lined paper leads at m; None if it is not right there."""
-    single = paper_at(paper, m)
-    if paper[0] == "enough":
-        return reached_enough(net, first + step * m, single)
-    return reached_stuck(net, first + step * m, single)
+    single = paper_of(paper, m)
+    start = grounds.at(first + step * m)
+    return reached_enough(start, single) if paper[0] == "enough" else reached_stuck(start, single)
 
 
 def _is_formed(thing):

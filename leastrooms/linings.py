@@ -1,63 +1,96 @@
 """Linings: lined papers, made of the runs at the first and at the last n."""
 
-from leastrooms.ends import knots
-from leastrooms.errors import TooLong
-from leastrooms.lines import is_lined, line_between
-from leastrooms.moments import begin, with_rooms
-from leastrooms.papers import is_vector
-from leastrooms.rooms import least_possible
+from leastrooms.cuts import steps_of
+from leastrooms.lines import is_lined_from, line_between
+from leastrooms.rooms import NO_LIMIT
 from leastrooms.spans import last_of
 from leastrooms.straight import numbers_at
-from leastrooms.vectors import rooms_from, vector_from
-from leastrooms.walks import Walk
+from leastrooms.vectors import are_possible
+
+MOST_NEAR = 10 ** 6
 
 
 class Linings:
-    """What makes lined papers of a net; runs are kept, for the last n is often the same."""
+    """What makes lined papers of a net from first on, by step, out of the Outcomes of its runs."""
 
-    def __init__(self, net):
-        self.net = net
-        self.starts = {}
-        self.kept = {}
+    def __init__(self, outcomes, first, step):
+        self.outcomes = outcomes
+        self.origin = first
+        self.by = step
+        self.last = last_of(first, step)
+        net = outcomes.grounds.net
+        self.nearby = max([_steps_once(net.row(process).parts, first) for process in net.processes])
 
-    def lined(self, word, vector, first, step):
-        """A lined paper of this kind with a tuple of Lines and None; None if the runs tell none."""
+    def all_lined(self, enough, stuck):
+        """Two tuples of lined papers with these tuples of Lines and None; None if one of them can't be made."""
+        told = [("enough", vector) for vector in enough] + [("stuck", vector) for vector in stuck]
+        for word, vector in told:
+            # That no paper can be made shows sooner than that it is not right.
+            if self._paper(word, vector, False) is None and self._paper(word, vector, True) is None:
+                return None
+        papers = []
+        for word, vector in told:
+            paper = self._right_paper(word, vector)
+            if paper is None:
+                return None
+            papers.append(paper)
+        return tuple(papers[:len(enough)]), tuple(papers[len(enough):])
+
+    def _right_paper(self, word, vector):
         for is_eager in (False, True):
-            paper = self._lined_by(word, vector, first, step, is_eager)
-            if paper is not None and is_lined(self.net, first, step, paper):
+            paper = self._paper(word, vector, is_eager)
+            if paper is not None and is_lined_from(self.outcomes.grounds, self.origin, self.by, paper):
                 return paper
         return None
 
-    def _lined_by(self, word, vector, first, step, is_eager):
-        last = last_of(first, step)
-        one = self._paper(word, first, numbers_at(vector, 0), is_eager)
-        other = self._paper(word, first + step * last, numbers_at(vector, last), is_eager)
-        if one is None or other is None or one[1:] != other[1:]:
+    def _paper(self, word, vector, is_eager):
+        """The paper whose items are those of the runs at m = 0 and at the last m; None if there is none."""
+        is_short = word == "stuck"
+        numbers = numbers_at(vector, 0)
+        further = numbers_at(vector, self.last)
+        # Lines may lead below the least rooms.
+        if not are_possible(numbers, self.outcomes.floor) or not are_possible(further, self.outcomes.floor):
             return None
-        items = _joined(one[0], other[0], last)
-        return None if items is None else (word, vector, items) + one[1:]
+        other = self._outcome(self.origin + self.by * self.last, further, is_eager, is_short)
+        if other is None or (self._is_near(numbers) and not self._may_be_joined(other.items)):
+            return None
+        one = self._outcome(self.origin, numbers, is_eager, is_short)
+        if one is None or one.knot != other.knot:
+            return None
+        items = _joined(one.items, other.items, self.last)
+        if items is None:
+            return None
+        return (word, vector, items, one.knot) if is_short else (word, vector, items)
 
-    def _paper(self, word, n, numbers, is_eager):
-        """The items of a run and, if it is stuck, its knot; None if there is no such run, or it is too long."""
-        key = (word, n, numbers, is_eager)
-        if key not in self.kept:
-            self.kept[key] = self._new_paper(word, n, numbers, is_eager)
-        return self.kept[key]
+    def _outcome(self, n, numbers, is_eager, is_short):
+        """The Outcome of a run; None if it is too long, or the rooms are not so by this or by the plain run."""
+        for kind in (False, is_eager):
+            outcome = self.outcomes.at(n, numbers, kind)
+            if outcome.items is not None and outcome.is_short != is_short:
+                return None
+        return None if outcome.items is None else outcome
 
-    def _new_paper(self, word, n, numbers, is_eager):
-        # Lines through near rooms may lead far below the least ones.
-        if not is_vector(self.net, vector_from(numbers)):
-            return None
-        if n not in self.starts:
-            self.starts[n] = begin(self.net, n, least_possible(self.net))
-        try:
-            walk = Walk(with_rooms(self.starts[n], rooms_from(self.net.stores, numbers)), is_eager)
-        except TooLong:
-            return None
-        if walk.waits_for_room() != (word == "stuck"):
-            return None
-        items = tuple(walk.told_items())
-        return (items, tuple(knots(walk.moment, walk.moving)[0])) if word == "stuck" else (items,)
+    def _is_near(self, numbers):
+        """Whether all is so near together at first that nothing is done as often there as the last m tells."""
+        finite = [number for number in numbers if number != NO_LIMIT]
+        return max(finite + [self.nearby]) <= MOST_NEAR
+
+    def _may_be_joined(self, items):
+        """Whether a Line may lead to each K of a run at the last m from a small one at m = 0, but 2 or more."""
+        for item in items:
+            if not isinstance(item, str):
+                if item[1] is not None and item[1] % self.last < 2:
+                    return False
+                if not self._may_be_joined(item[2]):
+                    return False
+        return True
+
+
+def _steps_once(parts, n):
+    """How many steps parts have at n, of a forever those of one round."""
+    if parts[-1:] and parts[-1][0] == "forever":
+        return steps_of(parts[:-1], n) + steps_of(parts[-1][1], n)
+    return steps_of(parts, n)
 
 
 def _joined(one, other, last):

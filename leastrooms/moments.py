@@ -3,19 +3,19 @@
 from leastrooms.errors import Refused
 from leastrooms.nets import check_channel, check_net, check_process
 from leastrooms.rooms import check_rooms
-from leastrooms.stops import level_behind, next_spot, place_at, stops_of, wait_at
+from leastrooms.stops import level_behind, next_spot, place_at, stops_along, stops_of, wait_at
 from leastrooms.words import check_number
 
 
 class Scene:
     """What stays the same in all moments of a net, n and rooms."""
 
-    def __init__(self, net, n, rooms, stops):
+    def __init__(self, net, n, rooms, limits, stops):
         self.net = net
         self.n = n
+        # None where the limits of the stores are enough.
         self.rooms = rooms
-        self.limits = dict(rooms.pairs())
-        self.homes = {channel: net.store_of(channel) for channel in net.channels}
+        self.limits = limits
         self.stops = stops
 
 
@@ -116,15 +116,31 @@ class Play:
         return stop.peer
 
 
+class Grounds:
+    """The first Moments of a net without limits, each made once for all that begins there."""
+
+    def __init__(self, net):
+        self.net = net
+        self._kept = {}
+
+    def at(self, n):
+        """The first Moment at n."""
+        if n not in self._kept:
+            self._kept[n] = _unlimited(self.net, n, _all_stops(self.net, n), _first_levels(self.net))
+        return self._kept[n]
+
+
 def begin(net, n, rooms):
     """The first Moment of a net at n with rooms."""
     check_net(net)
     check_number(n)
     check_rooms(net, rooms)
-    stops = {process: stops_of(net, process, n) for process in net.processes}
-    scene = Scene(net, n, rooms, stops)
-    spots = {process: _first_spot(stops[process]) for process in net.processes}
-    return Moment(scene, spots, {channel: net.first(channel) for channel in net.channels})
+    return _first_moment(Scene(net, n, rooms, dict(rooms.pairs()), _all_stops(net, n)), _first_levels(net))
+
+
+def begin_along(net, n, programs, levels):
+    """The first Moment of a net without limits, with other programs and so many messages in the channels."""
+    return _unlimited(net, n, {process: stops_along(net, programs[process], n) for process in net.processes}, levels)
 
 
 def opened(moment):
@@ -132,10 +148,42 @@ def opened(moment):
     return moment._scene, dict(moment._spots), dict(moment._levels)
 
 
+def waits_at(moment):
+    """A dict from all processes to what they wait for, None for those that can do a step."""
+    scene = moment._scene
+    return {
+        process: wait_at(scene.stops[process][index], moment._levels, scene.limits)
+        for process, (index, _) in moment._spots.items()
+    }
+
+
 def with_rooms(moment, rooms):
     """The same moment, but with other rooms of the net."""
     scene = moment._scene
-    return Moment(Scene(scene.net, scene.n, rooms, scene.stops), dict(moment._spots), dict(moment._levels))
+    return Moment(Scene(scene.net, scene.n, rooms, dict(rooms.pairs()), scene.stops), moment._spots, moment._levels)
+
+
+def with_limits(moment, limits):
+    """The same moment, but with other limits of the stores, a dict; it tells no rooms."""
+    scene = moment._scene
+    return Moment(Scene(scene.net, scene.n, None, limits, scene.stops), moment._spots, moment._levels)
+
+
+def _all_stops(net, n):
+    return {process: stops_of(net, process, n) for process in net.processes}
+
+
+def _first_levels(net):
+    return {channel: net.first(channel) for channel in net.channels}
+
+
+def _unlimited(net, n, stops, levels):
+    """The first Moment with these stops and levels, without limits."""
+    return _first_moment(Scene(net, n, None, {store: None for store in net.stores}, stops), levels)
+
+
+def _first_moment(scene, levels):
+    return Moment(scene, {process: _first_spot(scene.stops[process]) for process in scene.net.processes}, levels)
 
 
 def _first_spot(stops):

@@ -1,9 +1,9 @@
 """Papers: what shows others that rooms are enough, or that they are not, and who checks it."""
 
-from leastrooms.courses import Course, follow_traced, movers_of
+from leastrooms.courses import are_items, follow_traced, movers_in
 from leastrooms.ends import helpers_of, is_knot, knots
-from leastrooms.errors import BadCourse, BadVector, NotRight, NotSo, TooMany
-from leastrooms.moments import begin
+from leastrooms.errors import BadVector, NotRight, NotSo, TooMany
+from leastrooms.moments import Grounds, begin, waits_at, with_limits
 from leastrooms.nets import check_net
 from leastrooms.rooms import NO_LIMIT, Rooms, check_rooms, is_room
 from leastrooms.searches import MOST_TOLD, Search
@@ -22,8 +22,8 @@ class Reached:
 
     def told_waits(self):
         """What each process that is no mover waits for."""
-        others = [process for process in self.moment.net.processes if process not in self.moving]
-        return {process: self.moment.wait(process) for process in others}
+        waits = waits_at(self.moment)
+        return {process: waits[process] for process in waits if process not in self.moving}
 
 
 def vector_of(net, rooms):
@@ -62,21 +62,21 @@ def is_enough_paper(net, n, thing):
     """Whether a value is a right enough paper."""
     check_net(net)
     check_number(n)
-    return reached_enough(net, n, thing) is not None
+    return reached_enough(Grounds(net).at(n), thing) is not None
 
 
 def is_stuck_paper(net, n, thing):
     """Whether a value is a right stuck paper."""
     check_net(net)
     check_number(n)
-    return reached_stuck(net, n, thing) is not None
+    return reached_stuck(Grounds(net).at(n), thing) is not None
 
 
 def waits_in(net, n, paper):
     """Yield for each process of the knot of a right stuck paper what it waits for, and who could end that."""
     check_net(net)
     check_number(n)
-    reached = reached_stuck(net, n, paper)
+    reached = reached_stuck(Grounds(net).at(n), paper)
     if reached is None:
         raise NotSo(paper)
     for process in paper[3]:
@@ -99,30 +99,31 @@ def judge(net, n, thing):
     check_number(n)
     if not is_tuple_of(thing, "certificate", 3) or not all([is_told(papers) for papers in thing[1:]]):
         return ("form",)
+    start = Grounds(net).at(n)
     for index, paper in enumerate(thing[1]):
-        if not is_enough_paper(net, n, paper):
+        if reached_enough(start, paper) is None:
             return ("enough", index)
     for index, paper in enumerate(thing[2]):
-        if not is_stuck_paper(net, n, paper):
+        if reached_stuck(start, paper) is None:
             return ("stuck", index)
     enough = [numbers_in(paper[1]) for paper in thing[1]]
     stuck = [numbers_in(paper[1]) for paper in thing[2]]
     return _verdict_on(least_numbers(net), enough, stuck)
 
 
-def reached_enough(net, n, thing):
-    """Where the items of a right enough paper lead; None if a value is none."""
-    reached = _reached_by(net, n, thing) if is_tuple_of(thing, "enough", 3) else None
+def reached_enough(start, thing):
+    """Where the items of a right enough paper lead from a moment on; None if a value is none."""
+    reached = _reached_by(start, thing) if is_tuple_of(thing, "enough", 3) else None
     if reached is None or not all([wait is not None and wait[0] != "full" for wait in reached.told_waits().values()]):
         return None
     return reached
 
 
-def reached_stuck(net, n, thing):
-    """Where the items of a right stuck paper lead; None if a value is none."""
+def reached_stuck(start, thing):
+    """Where the items of a right stuck paper lead from a moment on; None if a value is none."""
     if not is_tuple_of(thing, "stuck", 4) or not isinstance(thing[3], tuple):
         return None
-    reached = _reached_by(net, n, thing)
+    reached = _reached_by(start, thing)
     if reached is None or not is_knot(reached.moment, list(thing[3]), reached.moving):
         return None
     return reached
@@ -146,18 +147,17 @@ def _rooms_at(net, vector):
     return Rooms(dict(zip(net.stores, vector)))
 
 
-def _reached_by(net, n, paper):
+def _reached_by(start, paper):
     """Where the items of a paper lead with the rooms of its vector; None if they are not right."""
     _, vector, items = paper[:3]
-    if not is_vector(net, vector) or not isinstance(items, tuple):
+    if not is_vector(start.net, vector) or not are_items(items):
         return None
     trace = []
     try:
-        course = Course(items)
-        moment = follow_traced(begin(net, n, _rooms_at(net, vector)), course, trace)
-    except (BadCourse, NotRight):
+        moment = follow_traced(with_limits(start, dict(zip(start.net.stores, vector))), items, trace)
+    except NotRight:
         return None
-    return Reached(moment, movers_of(course), trace)
+    return Reached(moment, movers_in(items), trace)
 
 
 def _verdict_on(floor, enough, stuck):

@@ -1,58 +1,111 @@
 """Searches: all least rooms and all corners of a net at n, each found by runs."""
 
-from leastrooms.ends import corner_of, knots
+from leastrooms.ends import corners_at
 from leastrooms.errors import TooLong, TooMany
-from leastrooms.moments import begin, with_rooms
-from leastrooms.rooms import LARGEST_ROOM, NO_LIMIT, least_possible
-from leastrooms.vectors import is_nowhere_greater, least_beyond, least_numbers, rooms_from
-from leastrooms.walks import walk_from
+from leastrooms.moments import begin, begin_along, with_limits
+from leastrooms.nets import check_net
+from leastrooms.rooms import LARGEST_ROOM, NO_LIMIT, without_limit
+from leastrooms.segments import segments_of
+from leastrooms.vectors import are_possible, greatest_of, is_nowhere_greater, least_beyond, least_numbers, vector_from
+from leastrooms.walks import Walk, walk_from
+from leastrooms.words import check_number
 
 MOST_TOLD = 60
-TRIED_ONE_BY_ONE = 3
 # Which number is tried does not matter, so another one is taken where a run is too long.
 NEAR = (0, 1, -1, 2, -2, 5, -5, 11, -11)
 
 
 class Search:
-    """The least rooms and the corners of a net at n, as tuples of numbers; TooMany if there are more than 60."""
+    """The least rooms and the corners of a net at n, as tuples of numbers; TooMany if there are more than 60.
 
-    def __init__(self, net, n):
-        self.net = net
-        self.begun = begin(net, n, least_possible(net))
-        self.floor = least_numbers(net)
+    likely: what may be corners.
+    """
+
+    def __init__(self, net, n, likely=()):
+        check_net(net)
+        check_number(n)
+        segments = segments_of(net, n)
+        self.corners = _corners_of_segments(net, n, segments, likely if len(segments) == 1 else ())
+        if self.corners is None:
+            self.corners = Probe(begin(net, n, without_limit(net)), likely).corners
+        self.enough = least_beyond(self.corners, least_numbers(net), MOST_TOLD + 1)
+        if max(len(self.enough), len(self.corners)) > MOST_TOLD:
+            raise TooMany()
+
+
+class Probe:
+    """All corners from a moment on, found by runs; TooMany if there are more than 60, or as many least rooms."""
+
+    def __init__(self, begun, likely):
+        self.net = begun.net
+        self.begun = begun
+        self.floor = least_numbers(begun.net)
         self.enough = []
         self.corners = []
+        # Rooms that are known not to be enough, up to these, and others that are known to be enough from these on.
+        self.short = []
+        self.wide = []
+        for numbers in likely:
+            self._try(numbers)
         left = [self.floor]
         while left:
             for numbers in left:
                 self._look_at(numbers)
             # Beyond all corners that are known lie all enough rooms; among the least there, all least ones.
-            above = least_beyond(self.corners, self.floor, MOST_TOLD + 1)
+            above = least_beyond(self.short, self.floor, MOST_TOLD + 1)
             left = [numbers for numbers in above if numbers not in self.enough]
-        self.enough = sorted(self.enough)
-        self.corners = sorted(self.corners)
+        self.corners = greatest_of(self.short)
+
+    def _try(self, numbers):
+        """Look whether some numbers that are only likely are not enough; if so, keep up to which others."""
+        if not are_possible(numbers, self.floor):
+            return
+        try:
+            short = self._short_of(numbers)
+        except TooLong:
+            return
+        if short is not None:
+            self.short.append(short)
 
     def _look_at(self, numbers):
         """Find out whether these are enough; if not, find a corner that is nowhere less."""
-        if any([is_nowhere_greater(numbers, corner) for corner in self.corners]):
+        if any([is_nowhere_greater(numbers, short) for short in self.short]):
             return
-        walk = self._walk(numbers)
-        if walk.waits_for_room():
-            self.corners.append(self._extended(self._stuck(walk, 0)))
-        else:
+        short = self._short_of(numbers)
+        if short is None:
             self.enough.append(numbers)
+        else:
+            self.corners.append(self._extended(short))
+            self.short.append(self.corners[-1])
         if max(len(self.enough), len(self.corners)) > MOST_TOLD:
             raise TooMany()
 
+    def _short_of(self, numbers):
+        """Numbers that are not enough and nowhere less than these; None if these are enough."""
+        if any([is_nowhere_greater(wide, numbers) for wide in self.wide]):
+            return None
+        walk = self._walk(numbers)
+        if walk.waits_for_room():
+            return self._stuck(walk, 0)
+        self._needed(walk)
+        return None
+
+    def _needed(self, walk):
+        """The numbers that are enough for a walk that waits for no room."""
+        fills = walk.most_held()
+        most = [fills.get(store, 0) for store in self.net.stores]
+        wide = tuple([NO_LIMIT if fill is None else max(fill, least) for fill, least in zip(most, self.floor)])
+        self.wide.append(wide)
+        return wide
+
     def _walk(self, numbers):
         # Where only the end counts, the eager walk is the one that seldom goes too far.
-        return walk_from(with_rooms(self.begun, rooms_from(self.net.stores, numbers)), True)
+        return walk_from(self._begun_with(numbers), True)
 
     def _stuck(self, walk, at):
         """The numbers up to which a knot of a walk stays: the knot for which the one at an index is greatest."""
         found = []
-        for knot in knots(walk.moment, walk.moving):
-            corner = corner_of(walk.moment, knot, walk.moving)
+        for corner in corners_at(walk.moment, walk.moving):
             # A knot may stay beyond the largest room, but not without limit.
             near = {store: min(corner[store], LARGEST_ROOM) for store in corner}
             found.append(tuple([near.get(store, NO_LIMIT) for store in self.net.stores]))
@@ -66,17 +119,22 @@ class Search:
 
     def _extended_at(self, numbers, at):
         """Numbers that are not enough and nowhere less than these, but enough as soon as more is at this index."""
-        for _ in range(TRIED_ONE_BY_ONE):
-            if numbers[at] == NO_LIMIT:
-                return numbers
-            walk = self._walk(_with(numbers, at, numbers[at] + 1))
-            if not walk.waits_for_room():
-                return numbers
-            numbers = self._stuck(walk, at)
-        walk = self._walk(_with(numbers, at, NO_LIMIT))
+        if numbers[at] == NO_LIMIT:
+            return numbers
+        walk = self._slow_walk(_with(numbers, at, NO_LIMIT), at)
         if walk.waits_for_room():
             return self._stuck(walk, at)
-        return self._extended_below(numbers, at, self._most_at(walk, at, NO_LIMIT))
+        return self._extended_below(numbers, at, self._needed(walk)[at])
+
+    def _slow_walk(self, numbers, at):
+        """A walk in which as little as possible is in the store at an index, if there is one that is not too long."""
+        try:
+            return Walk(self._begun_with(numbers), True, False, self.net.stores[at])
+        except TooLong:
+            return self._walk(numbers)
+
+    def _begun_with(self, numbers):
+        return with_limits(self.begun, dict(zip(self.net.stores, vector_from(numbers))))
 
     def _extended_below(self, numbers, at, high):
         """The same as _extended_at, where high is enough at this index."""
@@ -91,7 +149,7 @@ class Search:
             if walk.waits_for_room():
                 numbers = self._stuck(walk, at)
             else:
-                high = self._most_at(walk, at, tried)
+                high = min(tried, self._needed(walk)[at])
             steps[0 if is_above else 1] = 2 * steps[0 if is_above else 1]
             # Nothing is near to the greatest room but this room itself.
             is_above = not is_above and high < LARGEST_ROOM
@@ -107,10 +165,29 @@ class Search:
                     continue
         raise TooLong()
 
-    def _most_at(self, walk, at, number):
-        """A number that is enough at an index where this one is, the least one that the run tells."""
-        most = walk.most_in(self.net.stores[at])
-        return number if most is None else min(number, max(most, self.floor[at]))
+
+def _corners_of_segments(net, n, segments, likely):
+    """The corners of a net, by its segments; None if it can't be told by them."""
+    found = []
+    for segment in segments:
+        try:
+            start = begin_along(net, n, segment.programs, segment.levels)
+            if segment.must_end and not _comes_to_its_end(start):
+                return None
+            corners = Probe(start, likely).corners
+        except (TooLong, TooMany):
+            # What are too many here may be few beside those of other segments.
+            if len(segments) == 1:
+                raise
+            return None
+        found.extend(corners)
+    return greatest_of(found)
+
+
+def _comes_to_its_end(start):
+    """Whether all processes come to their ends, if there is room enough."""
+    last = walk_from(start, True).moment
+    return all([last.next_part(process) is None for process in last.net.processes])
 
 
 def _with(numbers, at, number):

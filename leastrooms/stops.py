@@ -32,11 +32,25 @@ class Stop:
         self.onward = 0
         self.kept = 0
         self.fresh = ()
+        # The depth of the loop whose rounds consist of this stop alone; -1 if there is none, or it is a forever.
+        self.alone = -1
+        # Whether it comes again within one round of a forever, but for the rounds of a loop in which it is alone.
+        self.recurs = False
+        # What its step is told by in slacks: the level behind a take; the room left behind a send, or
+        # how much is then in a store without limit.
+        self.low_key = ("low", self.channel)
+        self.rest_key = None
+        self.fill_key = None
 
 
 def stops_of(net, process, n):
     """A list of the stops of a process at n, its end as the last one."""
-    stops = [Stop(part, path, totals) for part, path, totals in _told(net.row(process).parts, n)]
+    return stops_along(net, net.row(process).parts, n)
+
+
+def stops_along(net, parts, n):
+    """A list of the stops of a process with these parts at n, its end as the last one."""
+    stops = [Stop(part, path, totals) for part, path, totals in _told(parts, n)]
     stops.append(Stop(None, (), ()))
     for index, stop in enumerate(stops):
         if stop.channel is not None:
@@ -52,11 +66,28 @@ def wait_at(stop, levels, limits):
         return ("empty", stop.channel)
     if stop.word == "send":
         room = limits[stop.store]
-        if room is not None and sum([levels[channel] for channel in stop.sharing]) + stop.k > room:
+        if room is not None and fill_at(stop, levels) + stop.k > room:
             return ("full", stop.store)
     if stop.word == "ended":
         return ("ended", None)
     return None
+
+
+def fill_at(stop, levels):
+    """How many messages are in the store of a stop."""
+    if len(stop.sharing) == 1:
+        return levels[stop.channel]
+    return sum([levels[channel] for channel in stop.sharing])
+
+
+def goes_at(stop, levels, limits):
+    """How often the step of a stop can be done one time behind another; None if there is no bound."""
+    if stop.word == "take":
+        return levels[stop.channel] // stop.k
+    if stop.word == "send":
+        room = limits[stop.store]
+        return None if room is None else (room - fill_at(stop, levels)) // stop.k
+    return None if stop.word == "work" else 0
 
 
 def next_spot(stop, done):
@@ -108,6 +139,9 @@ def _place_in(net, stop):
     """Write into a stop what the net tells of its channel."""
     stop.store = net.store_of(stop.channel)
     stop.sharing = tuple(net.channels_in(stop.store))
+    if stop.word == "send":
+        stop.rest_key = ("rest", stop.store)
+        stop.fill_key = ("fill", stop.store)
     stop.peer = net.taker(stop.channel) if stop.word == "send" else net.sender(stop.channel)
 
 
@@ -121,6 +155,10 @@ def _link(stops, index):
         first = _first_within(stops, index, stop.path[:depth + 1])
         fresh = (0,) * (len(stops[first].totals) - depth - 1)
         stop.again.append((depth, stop.totals[depth], first, fresh))
+    if stop.again and stop.again[0][1] is not None and stop.again[0][2] == index:
+        stop.alone = stop.again[0][0]
+    loops = [total for total in stop.totals if total is not None]
+    stop.recurs = len(loops) > (1 if stop.alone >= 0 else 0)
     stop.onward = index + 1
     stop.kept = depth
     stop.fresh = (0,) * (len(behind.totals) - depth)

@@ -1,7 +1,7 @@
 """Tracks: moments that go on by steps and by whole items, and what these change."""
 
 from leastrooms.moments import Moment, opened
-from leastrooms.stops import level_behind, next_spot, wait_at
+from leastrooms.stops import fill_at, next_spot, wait_at
 
 
 class Track:
@@ -19,30 +19,50 @@ class Track:
 
     def __init__(self, moment):
         self.scene, self.spots, self.levels = opened(moment)
+        self.stops = self.scene.stops
+        self.limits = self.scene.limits
 
     def stop_of(self, process):
         """The stop at which a process is."""
-        index, _ = self.spots[process]
-        return self.scene.stops[process][index]
+        return self.stops[process][self.spots[process][0]]
 
     def reason_of(self, process):
         """What a process waits for, None if it can do its step."""
-        return wait_at(self.stop_of(process), self.levels, self.scene.limits)
+        return wait_at(self.stop_of(process), self.levels, self.limits)
 
     def step(self, process):
         """Do the step of a process, and return its slacks."""
-        _, done = self.spots[process]
-        stop = self.stop_of(process)
+        index, done = self.spots[process]
+        stop = self.stops[process][index]
         self.spots[process] = next_spot(stop, done)
-        if stop.channel is None:
-            return {}
-        level = level_behind(stop, self.levels[stop.channel])
-        self.levels[stop.channel] = level
+        return self._slacks_behind(stop, stop.k) if stop.k > 0 else {}
+
+    def leap(self, process, stop, done, goes):
+        """Do a step, alone in its loop, so many times without leaving it, and return the slacks."""
+        self.spots[process] = (self.spots[process][0], done[:stop.alone] + (done[stop.alone] + goes,))
+        return self._slacks_behind(stop, goes * stop.k) if stop.k > 0 else {}
+
+    def slacks_of_waiting(self, process):
+        """What keeps a process waiting, if it does."""
+        stop = self.stop_of(process)
         if stop.word == "take":
-            return {("low", stop.channel): level}
-        limit = self.scene.limits[stop.store]
-        fill = sum([self.levels[channel] for channel in stop.sharing])
-        return {("fill", stop.store): -fill} if limit is None else {("rest", stop.store): limit - fill}
+            left = stop.k - 1 - self.levels[stop.channel]
+            return {("dry", stop.channel): left} if left >= 0 else {}
+        limit = self.limits[stop.store] if stop.word == "send" else None
+        left = -1 if limit is None else fill_at(stop, self.levels) + stop.k - 1 - limit
+        return {("over", stop.store): left} if left >= 0 else {}
+
+    def _slacks_behind(self, stop, many):
+        """Move so many messages at a stop, and return the slacks."""
+        channel = stop.channel
+        if stop.word == "take":
+            level = self.levels[channel] - many
+            self.levels[channel] = level
+            return {stop.low_key: level}
+        self.levels[channel] = self.levels[channel] + many
+        limit = self.limits[stop.store]
+        fill = fill_at(stop, self.levels)
+        return {stop.fill_key: -fill} if limit is None else {stop.rest_key: limit - fill}
 
     def marked(self):
         """Where all processes are, and all levels: copies."""
@@ -80,29 +100,38 @@ class Change:
     def drift_of(self, key):
         """By how much a slack grows with each go."""
         word, name = key
-        if word in ("low", "dry"):
-            drift = self.drifts.get(name, 0)
-            return drift if word == "low" else -drift
-        if word == "rank":
-            return sum([self._rank_drift(part) for part in name])
-        fill = self.fills.get(name, 0)
-        growth = self.growth.get(name, 0)
+        if word == "low":
+            return self.drifts.get(name, 0)
+        if word == "fill":
+            return -self.fills.get(name, 0)
         if word == "rest":
-            return growth - fill
+            return self.growth.get(name, 0) - self.fills.get(name, 0)
+        if word == "dry":
+            return -self.drifts.get(name, 0)
         if word == "over":
-            return fill - growth
+            return self.fills.get(name, 0) - self.growth.get(name, 0)
         if word == "even":
-            return -abs(growth - fill)
-        return -fill if word == "fill" else -growth
+            return -abs(self.growth.get(name, 0) - self.fills.get(name, 0))
+        if word == "top":
+            return -self.growth.get(name, 0)
+        return sum([self._rank_drift(part) for part in name])
 
     def _rank_drift(self, part):
         store, by_room, by_fill = part
         return by_room * self.growth.get(store, 0) + by_fill * self.fills.get(store, 0)
 
 
-def change_since(track, mark, processes):
-    """The Change since a mark; None if one of these processes is elsewhere but for one greater number of rounds."""
-    spots, levels = mark
+def change_since(track, spots, levels, processes):
+    """The Change since an earlier moment; None if a process is elsewhere but for more rounds of one loop."""
+    gains = gains_since(track, spots, processes)
+    return None if gains is None else change_by(track, gains, levels)
+
+
+def gains_since(track, spots, processes):
+    """For each of these processes that has moved the depth of a loop and how many rounds more are done.
+
+    None if one of them is elsewhere but for one greater number of rounds.
+    """
     gains = {}
     for process in processes:
         spot = spots[process]
@@ -112,31 +141,53 @@ def change_since(track, mark, processes):
             if gain is None:
                 return None
             gains[process] = gain
+    return gains
+
+
+def change_by(track, gains, levels):
+    """The Change with these gains since levels were so."""
     drifts = {}
     fills = {}
     for channel, level in levels.items():
         drift = track.levels[channel] - level
         if drift != 0:
-            store = track.scene.homes[channel]
+            store = track.scene.net.store_of(channel)
             drifts[channel] = drift
             fills[store] = fills.get(store, 0) + drift
     return Change(gains, drifts, fills)
 
 
-def most_goes(track, mark, change, slacks):
-    """How often what is done since a mark can be done in all, None if there is no bound."""
-    spots, _ = mark
-    bounds = []
-    for process, (depth, more) in change.gains.items():
-        _, done = spots[process]
-        total = track.stop_of(process).totals[depth]
+def goes_in_loops(track, spots, gains):
+    """How often what is done since an earlier moment stays within its loops, None if there is no bound."""
+    least = None
+    for process, (depth, more) in gains.items():
+        index, done = spots[process]
+        total = track.stops[process][index].totals[depth]
         if total is not None:
-            bounds.append((total - 1 - done[depth]) // more)
+            least = lesser(least, (total - 1 - done[depth]) // more)
+    return least
+
+
+def goes_in_slacks(change, slacks):
+    """How often what changes so much stays possible, None if there is no bound; the slacks are of one go."""
+    least = None
     for key, left in slacks.items():
         drift = change.drift_of(key)
         if drift < 0 and key[0] != "fill":
-            bounds.append(1 + left // -drift)
-    return min(bounds) if bounds else None
+            least = lesser(least, 1 + left // -drift)
+    return least
+
+
+def most_goes(track, spots, change, slacks):
+    """How often what is done since an earlier moment can be done in all, None if there is no bound."""
+    return lesser(goes_in_loops(track, spots, change.gains), goes_in_slacks(change, slacks))
+
+
+def lesser(one, other):
+    """The lesser of two numbers; None stands for no bound."""
+    if one is None or other is None:
+        return other if one is None else one
+    return min(one, other)
 
 
 def is_right_without_end(track, change):
@@ -151,12 +202,14 @@ def is_right_without_end(track, change):
     return all([track.reason_of(process) is not None for process in others])
 
 
-def merged(one, other):
-    """The lesser of two slacks for each key."""
-    both = dict(one)
-    for key, left in other.items():
-        both[key] = min(left, both.get(key, left))
-    return both
+def merged(all_slacks):
+    """The least of some slacks for each key."""
+    least = {}
+    for slacks in all_slacks:
+        for key, left in slacks.items():
+            if key not in least or left < least[key]:
+                least[key] = left
+    return least
 
 
 def stretched(slacks, change, goes):
@@ -186,7 +239,7 @@ def _is_of_forever(track, process, change):
 
 def _may_drift(track, channel, change):
     """Whether the level of a channel may go on changing so for ever."""
-    if change.drifts[channel] < 0 or track.scene.limits[track.scene.homes[channel]] is not None:
+    if change.drifts[channel] < 0 or track.limits[track.scene.net.store_of(channel)] is not None:
         return False
     taker = track.scene.net.taker(channel)
     return taker is None or taker in change.gains or track.reason_of(taker) != ("empty", channel)

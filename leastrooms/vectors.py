@@ -33,6 +33,20 @@ def is_nowhere_greater(one, other):
     return all([number <= further for number, further in zip(one, other)])
 
 
+def are_possible(numbers, floor):
+    """Whether numbers tell rooms from floor on."""
+    return is_nowhere_greater(floor, numbers) and is_nowhere_greater(numbers, (NO_LIMIT,) * len(floor))
+
+
+def greatest_of(found):
+    """Those of some tuples of numbers that are greater somewhere than each other one, each once, ascending."""
+    single = sorted(set(found))
+    return [
+        numbers for numbers in single
+        if not any([other != numbers and is_nowhere_greater(numbers, other) for other in single])
+    ]
+
+
 def least_beyond(given, floor, most):
     """Up to so many of the least numbers, from floor on, that are greater somewhere than each given ones; ascending."""
     return _least_between(given, floor, (NO_LIMIT,) * len(floor), most)

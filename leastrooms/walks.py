@@ -2,11 +2,16 @@
 
 from leastrooms.errors import TooLong
 from leastrooms.items import DEEPEST
-from leastrooms.moments import Moment
+from leastrooms.moments import Moment, waits_at
 from leastrooms.rooms import LARGEST_ROOM
-from leastrooms.tracks import Track, change_since, is_right_without_end, merged, most_goes, stretched
+from leastrooms.marks import Mark, Marks
+from leastrooms.stops import goes_at
+from leastrooms.tracks import (
+    Track, change_by, gains_since, goes_in_loops, goes_in_slacks, is_right_without_end, lesser, merged, stretched,
+)
 
 MOST_MOVES = 2000
+MOST_SLOW_MOVES = 400
 LOOKED_AT = 60
 LOOKED_AT_EAGERLY = 300
 
@@ -20,20 +25,13 @@ class Move:
         self.depth = depth
 
 
-class Mark:
-    """A moment of a walk that may become the beginning of an item, and how many moves stand ahead of it."""
-
-    def __init__(self, seen, ahead):
-        self.seen = seen
-        self.ahead = ahead
-
-
 class Found:
-    """A mark since which all may be repeated: the change, and the slacks of one go."""
+    """A mark since which all may be repeated: the change, how often it stays in its loops, and the slacks of one go."""
 
-    def __init__(self, mark, change, slacks):
+    def __init__(self, mark, change, goes, slacks):
         self.mark = mark
         self.change = change
+        self.goes = goes
         self.slacks = slacks
 
 
@@ -42,11 +40,18 @@ class Walk:
 
     An eager one comes to an end more often: it looks further back, and looks again behind each item.
     In an even one each turn is a single step, so that no process runs far ahead of the others.
+    Where a store is told as slow, something is sent into it only if nothing else is possible.
     """
 
-    def __init__(self, moment, is_eager, is_even=False):
+    def __init__(self, moment, is_eager, is_even=False, slow=None):
         self.is_eager = is_eager
         self.is_even = is_even
+        self.looked_at = LOOKED_AT_EAGERLY if is_eager else LOOKED_AT
+        self.is_slow = slow is not None
+        self.slow_key = ("rest", slow)
+        # Where others go on for ever, the sender into the slow store gets its turn behind each cycle.
+        self.is_fair = False
+        self.most = MOST_SLOW_MOVES if self.is_slow else MOST_MOVES
         self.track = Track(moment)
         self.moves = []
         self.many = 0
@@ -59,103 +64,148 @@ class Walk:
         """The items of a course that goes this way."""
         return [move.item for move in self.moves]
 
-    def most_in(self, store):
-        """The most that was at once in a store behind sends, 0 without any; None if it grows for ever."""
-        limit = self.track.scene.limits[store]
-        key = ("fill", store) if limit is None else ("rest", store)
-        lefts = [move.slacks[key] for move in self.moves if key in move.slacks]
-        if None in lefts:
-            return None
-        return (0 if limit is None else limit) - min(lefts) if lefts else 0
+    def most_held(self):
+        """A dict from stores to the most that was at once in them behind sends; None if that grows for ever."""
+        most = {}
+        for move in self.moves:
+            for (word, name), left in move.slacks.items():
+                if word == "rest":
+                    most[name] = max(most.get(name, 0), self.track.limits[name] - left)
+                if word == "fill" and most.get(name, 0) is not None:
+                    most[name] = None if left is None else max(most.get(name, 0), -left)
+        return most
 
     def waits_for_room(self):
         """Whether some process waits for room for ever."""
-        others = [process for process in self.moment.net.processes if process not in self.moving]
-        waits = [self.moment.wait(process) for process in others]
-        return any([wait is not None and wait[0] == "full" for wait in waits])
+        waits = waits_at(self.moment)
+        return any([
+            wait is not None and wait[0] == "full" for process, wait in waits.items() if process not in self.moving
+        ])
 
     def _go(self):
-        marks = [self._mark()]
+        processes = self.track.scene.net.processes
+        marks = Marks(self.looked_at)
+        marks.put(self._mark(self._key_of(processes)))
         while self.moment is None:
-            if not self._cycle():
+            before = self.many
+            for process in processes:
+                self._turn(process)
+            if self.is_slow and (self.is_fair or self.many == before):
+                self._push()
+            if self.many == before:
                 self.moment = self.track.now()
                 return
-            found = self._found_since(marks, self.track.spots)
-            before = self.many
-            if not self._end_without_end(found):
-                marks = self._fold(marks, found, self.track.spots)
-                # Behind an item that was made, all may stand as it once stood, though not ahead of it.
-                if self.is_eager and self.many > before:
-                    self._end_without_end(self._found_since(marks, self.track.spots))
-                marks.append(self._mark())
-
-    def _cycle(self):
-        """Do one turn of each process, and tell whether a step was done."""
-        before = self.many
-        for process in self.track.scene.net.processes:
-            self._turn(process)
-        return self.many > before
+            key = self._key_of(processes)
+            if marks.has(key):
+                self._look_back(marks, key, processes)
+            marks.put(self._mark(key))
 
     def _turn(self, process):
-        marks = []
-        while self.track.reason_of(process) is None:
-            marks.append(self._mark())
-            stop = self.track.stop_of(process)
-            _, done = self.track.spots[process]
-            self._add(Move(process, self.track.step(process), 0))
-            _, behind = self.track.spots[process]
+        track = self.track
+        marks = None
+        while True:
+            index, done = track.spots[process]
+            stop = track.stops[process][index]
+            possible = goes_at(stop, track.levels, track.limits)
+            if possible == 0 or stop.rest_key == self.slow_key:
+                return
+            goes = 1
+            if stop.alone >= 0 and not self.is_even and (marks is None or not marks.has(index)):
+                goes = lesser(possible, stop.totals[stop.alone] - 1 - done[stop.alone])
+            if stop.recurs:
+                marks = Marks(self.looked_at) if marks is None else marks
+                marks.put(Mark(index, {process: (index, done)}, dict(track.levels), len(self.moves)))
+            if goes > 1:
+                # What first is a step, and then an item in its place.
+                self._count()
+                self._add(Move(("times", goes, (process,)), track.leap(process, stop, done, goes), 1))
+                continue
+            self._add(Move(process, track.step(process), 0))
+            further, behind = track.spots[process]
             if self.is_even or (stop.totals[:1] == (None,) and behind[:1] != done[:1]):
                 return
-            marks = self._fold(marks, self._found_since(marks, [process]), [process])
+            if marks is not None and marks.has(further):
+                self._fold(marks, self._found_since(marks, further, [process]), [process])
+
+    def _push(self):
+        """Send once into the slow store, if that is possible; others that wait now are to do so in each repetition."""
+        track = self.track
+        processes = track.scene.net.processes
+        for process in processes:
+            stop = track.stop_of(process)
+            if stop.rest_key == self.slow_key and goes_at(stop, track.levels, track.limits) != 0:
+                waiting = [track.slacks_of_waiting(other) for other in processes]
+                self._add(Move(process, merged(waiting + [track.step(process)]), 0))
+
+    def _look_back(self, marks, key, processes):
+        """Make an item of whole cycles, if there is one."""
+        found = self._found_since(marks, key, processes)
+        if self._end_without_end(found):
+            return
+        if self.is_slow and not self.is_fair and self._goes_on(found):
+            self.is_fair = True
+            return
+        before = self.many
+        found = self._fold(marks, found, processes)
+        # Behind an item that was made, all may stand as it once stood, though not ahead of it.
+        if self.is_eager and self.many > before:
+            self._end_without_end(found)
+
+    def _goes_on(self, found):
+        """Whether what is found has no bound."""
+        return any([one.goes is None and goes_in_slacks(one.change, one.slacks) is None for one in found])
 
     def _fold(self, marks, found, processes):
-        """Make the item with the greatest K, if there is one, and return the marks that stay."""
+        """Make the item with the greatest K, if there is one, and look no more at the marks within.
+
+        An eager walk looks again behind each item; what it finds behind the last one is returned.
+        """
         before = self.many
-        marks = self._fold_once(marks, found, 2)
+        self._fold_once(marks, found, 2)
         while self.is_eager and self.many > before:
             before = self.many
-            marks = self._fold_once(marks, self._found_since(marks, processes), 1)
-        return marks
+            found = self._found_since(marks, self._key_of(processes), processes)
+            self._fold_once(marks, found, 1)
+        return found
 
     def _fold_once(self, marks, found, unbound):
         """The same, but only once; unbound is K where it has no bound."""
         best = None
         most = 1
         for one in found:
-            goes = most_goes(self.track, one.mark.seen, one.change, one.slacks)
+            goes = lesser(one.goes, goes_in_slacks(one.change, one.slacks))
             goes = unbound if goes is None else min(goes, LARGEST_ROOM)
             if goes > most and self._depth_since(one.mark) <= DEEPEST:
                 best = one
                 most = goes
-        if best is None:
-            return marks
-        self._make(best, most, stretched(best.slacks, best.change, most))
-        self.track.shift(best.change, most - 1)
-        return [mark for mark in marks if mark.ahead <= best.mark.ahead]
+        if best is not None:
+            self._make(best, most, stretched(best.slacks, best.change, most))
+            self.track.shift(best.change, most - 1)
+            marks.drop_behind(best.mark.ahead)
 
     def _end_without_end(self, found):
         """Make the item without end, if there is one, and tell whether there is."""
         for one in found:
-            if is_right_without_end(self.track, one.change) and self._depth_since(one.mark) <= DEEPEST:
+            is_right = one.goes is None and is_right_without_end(self.track, one.change)
+            if is_right and self._depth_since(one.mark) <= DEEPEST:
                 self._make(one, None, _without_bound(one.slacks, one.change))
                 self.moving = sorted(one.change.gains)
-                self.moment = Moment(self.track.scene, one.mark.seen[0], one.mark.seen[1])
+                self.moment = Moment(self.track.scene, one.mark.spots, one.mark.levels)
                 return True
         return False
 
-    def _found_since(self, marks, processes):
-        """The latest marks since which all of these processes may go on alike, the latest first."""
+    def _found_since(self, marks, key, processes):
+        """The latest marks since which all of these processes may go on alike more than once, the latest first."""
         found = []
         slacks = {}
         at = len(self.moves)
-        latest = LOOKED_AT_EAGERLY if self.is_eager else LOOKED_AT
-        for mark in reversed(list(marks[-latest:])):
-            change = change_since(self.track, mark.seen, processes)
-            if change is not None:
-                for move in self.moves[mark.ahead:at]:
-                    slacks = merged(slacks, move.slacks)
+        for mark in marks.alike(key):
+            gains = gains_since(self.track, mark.spots, processes)
+            goes = None if gains is None else goes_in_loops(self.track, mark.spots, gains)
+            if gains is not None and (goes is None or goes > 1):
+                slacks = merged([slacks] + [move.slacks for move in self.moves[mark.ahead:at]])
                 at = mark.ahead
-                found.append(Found(mark, change, slacks))
+                found.append(Found(mark, change_by(self.track, gains, mark.levels), goes, slacks))
         return found
 
     def _make(self, found, goes, slacks):
@@ -170,13 +220,24 @@ class Walk:
         return 1 + max([move.depth for move in self.moves[mark.ahead:]])
 
     def _add(self, move):
-        self.many = self.many + 1
-        if self.many > MOST_MOVES:
-            raise TooLong()
+        self._count()
         self.moves.append(move)
 
-    def _mark(self):
-        return Mark(self.track.marked(), len(self.moves))
+    def _count(self):
+        self.many = self.many + 1
+        if self.many > self.most:
+            raise TooLong()
+
+    def _key_of(self, processes):
+        """What tells at which stops these processes are; of a single one, its index alone."""
+        spots = self.track.spots
+        if len(processes) == 1:
+            return spots[processes[0]][0]
+        return tuple([spots[process][0] for process in processes])
+
+    def _mark(self, key):
+        spots, levels = self.track.marked()
+        return Mark(key, spots, levels, len(self.moves))
 
 
 def walk_from(moment, is_eager=False):

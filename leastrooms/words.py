@@ -2,14 +2,15 @@
 
 from leastrooms.errors import BadNumber
 
-LETTERS = "abcdefghijklmnopqrstuvwxyz"
 LONGEST_WORD = 8
 LARGEST_NUMBER = 10 ** 30
 
 
 def is_word(thing):
     """Whether a value is a word."""
-    return isinstance(thing, str) and 1 <= len(thing) <= LONGEST_WORD and all([sign in LETTERS for sign in thing])
+    if not isinstance(thing, str) or not 1 <= len(thing) <= LONGEST_WORD:
+        return False
+    return thing.isascii() and thing.isalpha() and thing.islower()
 
 
 def is_integer(thing):
