@@ -39,6 +39,10 @@ LIBRARY = {
 OF_BUILTINS = {name for kind in (str, int, list, dict, set, bytes) for name in dir(kind) if not name.startswith("_")}
 # L26: methods may have these names of methods of builtin values.
 FREE_METHODS = {"add", "copy", "count", "discard", "find", "index", "get", "join", "split", "strip"}
+# L26: attributes may have these names of methods of builtin values.
+FREE_ATTRIBUTES = set("count index title find get join lower upper split strip copy add".split())
+# L5: what reversed takes where a class has [ ].
+REVERSED = {"list", "tuple", "sorted", "range"}
 FOLDING = {"any", "all", "min", "max", "sum", "sorted"}
 
 
@@ -99,6 +103,9 @@ def faults_of_node(node):
         yield from faults_of_name(node)
     if isinstance(node, ast.Attribute) and (node.attr in BARRED or node.attr.startswith("__") and node.attr != "__init__"):
         yield node.lineno, f"L17 {node.attr}"
+    if isinstance(node, ast.Attribute) and not isinstance(node.ctx, ast.Load):
+        if node.attr in OF_BUILTINS - FREE_ATTRIBUTES | {"args"}:
+            yield node.lineno, f"L26 an attribute called {node.attr}"
 
 
 def faults_of_function(node):
@@ -118,8 +125,17 @@ def faults_of_call(node):
     if isinstance(node.func, ast.Name) and node.func.id in FOLDING:
         if [given for given in node.args if isinstance(given, ast.GeneratorExp)]:
             yield node.lineno, f"L7 {node.func.id} takes a list where a class has __eq__"
+    if isinstance(node.func, ast.Name) and node.func.id == "reversed" and not is_written_out(node.args[0]):
+        yield node.lineno, "L23 what reversed is handed"
     if isinstance(node.func, ast.Attribute) and node.func.attr == "sort":
         yield node.lineno, "L25 sort where a class has __eq__"
+
+
+def is_written_out(given):
+    """Whether reversed may take this where a class has [ ]."""
+    if isinstance(given, ast.Call):
+        return getattr(given.func, "id", None) in REVERSED
+    return isinstance(given, (ast.List, ast.Tuple, ast.Constant))
 
 
 def faults_of_name(node):

@@ -27,7 +27,7 @@ def write_journal(entries):
     lines = []
     check = FIRST_CHECK
     for entry in entries:
-        told = _told_of(entry)
+        told = _unchecked_line(entry)
         check = _check_behind(check, told)
         lines.append(f"{told} {check}\n")
     return "".join(lines)
@@ -69,7 +69,7 @@ def _reading_of(text):
     return Reading(entries, None if lines[-1] == "" else len(lines) - 1)
 
 
-def _told_of(entry):
+def _unchecked_line(entry):
     """The line of an entry, but for its check."""
     process, word, name, values = entry
     return " ".join([process, word, str(name)] + [str(value) for value in values])

@@ -52,12 +52,12 @@ class Linings:
         if not are_possible(numbers, self.outcomes.floor) or not are_possible(further, self.outcomes.floor):
             return None
         other = self._outcome(self.origin + self.by * self.last, further, is_eager, is_short)
-        if other is None or (self._is_near(numbers) and not self._may_be_joined(other.items)):
+        if other is None or (self._is_near(numbers) and not self._may_be_joined(other.content)):
             return None
         one = self._outcome(self.origin, numbers, is_eager, is_short)
         if one is None or one.knot != other.knot:
             return None
-        items = _joined(one.items, other.items, self.last)
+        items = _joined_items(one.content, other.content, self.last)
         if items is None:
             return None
         return (word, vector, items, one.knot) if is_short else (word, vector, items)
@@ -66,9 +66,9 @@ class Linings:
         """The Outcome of a run; None if it is too long, or the rooms are not so by this or by the plain run."""
         for kind in (False, is_eager):
             outcome = self.outcomes.at(n, numbers, kind)
-            if outcome.items is not None and outcome.is_short != is_short:
+            if outcome.content is not None and outcome.is_short != is_short:
                 return None
-        return None if outcome.items is None else outcome
+        return None if outcome.content is None else outcome
 
     def _is_near(self, numbers):
         """Whether all is so near together at first that nothing is done as often there as the last m tells."""
@@ -93,7 +93,7 @@ def _steps_once(parts, n):
     return steps_of(parts, n)
 
 
-def _joined(one, other, last):
+def _joined_items(one, other, last):
     """Items with the Lines that are these K at m = 0 and those at the last m; None if the form is not the same."""
     if len(one) != len(other):
         return None
@@ -112,7 +112,7 @@ def _joined_item(one, other, last):
     line = None
     if one[1] is not None and other[1] is not None:
         line = line_between(0, one[1], last, other[1])
-    inner = _joined(one[2], other[2], last)
+    inner = _joined_items(one[2], other[2], last)
     if inner is None or (line is None and (one[1] is not None or other[1] is not None)):
         return None
     return ("times", line, inner)

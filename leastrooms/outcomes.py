@@ -8,11 +8,11 @@ from leastrooms.walks import Walk, walk_from
 
 
 class Outcome:
-    """What a run tells: whether the rooms are too small, its items, and then its knot; no items if it is too long."""
+    """What a run tells: whether the rooms are too small, its items, and then its knot; no content if it is too long."""
 
-    def __init__(self, is_short, items, knot):
+    def __init__(self, is_short, content, knot):
         self.is_short = is_short
-        self.items = items
+        self.content = content
         self.knot = knot
 
 
@@ -35,7 +35,7 @@ class Outcomes:
         """Whether these are not enough."""
         for is_eager in (False, True):
             outcome = self.at(n, numbers, is_eager)
-            if outcome.items is not None:
+            if outcome.content is not None:
                 return outcome.is_short
         return walk_from(self._begun_with(n, numbers)).waits_for_room()
 

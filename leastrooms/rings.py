@@ -101,4 +101,4 @@ def _ring_behind(before, event):
     ring = [before[event]]
     while ring[-1][0] != event:
         ring.append(before[ring[-1][0]])
-    return list(reversed(ring))
+    return ring[::-1]

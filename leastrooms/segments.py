@@ -71,10 +71,10 @@ def _moved_by(part, n):
     if not is_round(part):
         return {part[1]: part[2] if part[0] == "send" else -part[2]}
     times = rounds(part[1], n) if part[0] == "loop" else 1
-    return _sum_of([_moved_by(inner, n) for inner in inner_parts(part)], times) if times > 0 else {}
+    return _sum_moved([_moved_by(inner, n) for inner in inner_parts(part)], times) if times > 0 else {}
 
 
-def _sum_of(all_moved, times):
+def _sum_moved(all_moved, times):
     """All of these together, so many times."""
     sums = {}
     for moved in all_moved:
@@ -101,14 +101,14 @@ def _balanced(net, left, levels, counts):
     sums = dict(levels)
     for process in left:
         for moving in left[process][:counts[process]]:
-            sums = _sum_of([sums, moving.moved], 1)
+            sums = _sum_moved([sums, moving.moved], 1)
     uneven = [channel for channel in sums if sums[channel] != 0]
     while uneven:
         # Who took less than there is must go on, or else who has sent less.
         process = net.taker(uneven[0]) if sums[uneven[0]] > 0 else net.sender(uneven[0])
         if process is None or counts[process] == len(left[process]) or left[process][counts[process]].is_endless:
             return None
-        sums = _sum_of([sums, left[process][counts[process]].moved], 1)
+        sums = _sum_moved([sums, left[process][counts[process]].moved], 1)
         counts = {**counts, process: counts[process] + 1}
         uneven = [channel for channel in sums if sums[channel] != 0]
     return counts
@@ -125,7 +125,7 @@ def _within(net, n, taken, levels):
 def _rest(net, n, left, levels):
     """The segments of what has no end, or leaves messages: of one round, if it is the same for ever."""
     single = _single_rounds(left, levels, "forever")
-    sums = _sum_of([left[process][0].moved for process in single], 1)
+    sums = _sum_moved([left[process][0].moved for process in single], 1)
     if single and not any([sums[channel] != 0 for channel in sums]):
         return _cut(net, n, _bodies_of(left, single), levels)
     return [_segment_of(left, levels, False)]
