@@ -39,7 +39,8 @@ def segments_of(net, n):
     segments = _cut(net, n, programs, levels)
     if len(segments) == 1:
         whole = {process: tuple([moving.part for moving in _moving_in(programs[process], n)]) for process in programs}
-        segments[0].must_end = segments[0].programs != whole
+        only = segments[0]
+        only.must_end = only.programs != whole
     return segments
 
 
